@@ -1,0 +1,21 @@
+"""Runs the examples of the interface as they stand in the document."""
+
+import doctest
+import os
+import unittest
+
+FOLDER = os.path.join(os.path.dirname(os.path.abspath(__file__)), "examples")
+
+
+class ExamplesTest(unittest.TestCase):
+    def run_file(self, name):
+        failed, tried = doctest.testfile(os.path.join(FOLDER, name), module_relative=False)
+        self.assertGreater(tried, 0)
+        self.assertEqual(failed, 0)
+
+    def test_heads(self):
+        self.run_file("heads.txt")
+
+
+if __name__ == "__main__":
+    unittest.main()
