@@ -128,6 +128,10 @@ class OpenNumbers:
             return self.answer(False, [])
         return self.choose([(True, level(gap)), (False, [shifted(gap, -1)]), (False, [shifted(negated(gap), -1)])])
 
+    def is_multiple(self, number, unit):
+        """Whether a unit divides a number, of whose names it divides the factors."""
+        return number.get(0, 0) % unit == 0
+
     def quotient(self, number, power):
         """A number divided by 2 ** power, rounded down."""
         if power == 0:

@@ -23,3 +23,7 @@ class PlainNumbers:
     def same(self, one, other):
         """Whether two numbers are equal."""
         return one == other
+
+    def is_multiple(self, number, unit):
+        """Whether a unit divides a number."""
+        return number % unit == 0

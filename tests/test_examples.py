@@ -16,6 +16,9 @@ class ExamplesTest(unittest.TestCase):
     def test_heads(self):
         self.run_file("heads.txt")
 
+    def test_blocks(self):
+        self.run_file("blocks.txt")
+
 
 if __name__ == "__main__":
     unittest.main()

@@ -16,7 +16,7 @@ METHODS = set("""append clear copy count endswith extend find get index insert i
     setdefault split splitlines startswith strip update upper values zfill bit_length""".split())
 DUNDERS = {"__init__", "__eq__", "__len__", "__getitem__", "__iter__"}
 NODES = (ast.Try, ast.With, ast.AsyncFunctionDef, ast.Yield, ast.YieldFrom, ast.Lambda, ast.GeneratorExp, ast.Set,
-         ast.SetComp, ast.Global, ast.Nonlocal, ast.NamedExpr, ast.Match, ast.Div, ast.Pow, ast.JoinedStr, ast.Await,
+         ast.SetComp, ast.Global, ast.Nonlocal, ast.NamedExpr, ast.Match, ast.Div, ast.JoinedStr, ast.Await,
          ast.AnnAssign, ast.Delete, ast.Assert)
 
 
@@ -68,6 +68,11 @@ class LanguageTest(unittest.TestCase):
                     self.assertEqual(node.decorator_list, [], (name, node.name))
                 if isinstance(node, ast.Constant):
                     self.assertNotIsInstance(node.value, (float, complex), name)
+                if isinstance(node, ast.BinOp) and isinstance(node.op, ast.Pow):
+                    self.assertIsInstance(node.right, ast.Constant, (name, node.lineno))
+                if isinstance(node, ast.Call) and getattr(node.func, "id", None) == "reversed":
+                    self.assertIsInstance(node.args[0], ast.Call, (name, node.lineno))
+                    self.assertIn(node.args[0].func.id, ("list", "tuple", "sorted", "range"), (name, node.lineno))
                 if isinstance(node, ast.Compare) and any(isinstance(op, (ast.Is, ast.IsNot)) for op in node.ops):
                     self.assertIn(getattr(node.comparators[0], "value", 0), (None, True, False), (name, node.lineno))
 
