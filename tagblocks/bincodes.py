@@ -47,7 +47,7 @@ class MapCode:
         self.kind = kind
         self.text = text
         self.outline = read_outline(text, kind, map_step_in, map_part_in, MOST_MAP_LINES, MOST_MAP_IFS)
-        refuse_least([line_above(self.outline, way, map_marks, MOST_MAP) for way in ways_through(self.outline)])
+        refuse_least([line_above(self.outline, way, map_marks, dict(MOST_MAP)) for way in ways_through(self.outline)])
 
     def __eq__(self, other):
         return isinstance(other, MapCode) and self.kind == other.kind and self.text == other.text

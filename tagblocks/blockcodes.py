@@ -128,7 +128,7 @@ class BlockCode:
         self.outline = read_outline(text, kind, block_step_in, block_part_in, MOST_LINES, MOST_IFS)
         foreign = [line for line in range(1, self.outline.many_lines() + 1)
                    if is_foreign(self.outline.rows[line - 1], self.outline.step_at(line), kind)]
-        above = [line_above(self.outline, way, marks_of, MOST) for way in ways_through(self.outline)]
+        above = [line_above(self.outline, way, marks_of, dict(MOST)) for way in ways_through(self.outline)]
         refuse_least(foreign + above)
         # What verdicts have found of this code, so that it is looked for once.
         self.findings = None

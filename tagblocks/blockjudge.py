@@ -15,7 +15,7 @@ class Judge:
         self.ended = ended
         self.blocks = []
 
-    def broken(self):
+    def breaches(self):
         """The promises that are broken, in their order."""
         found = {"inside": self.ended == "beyond", "whole": self.machine.has_spoilt}
         if self.ended == "refused":
@@ -33,7 +33,7 @@ class Judge:
         """Whether a number is a size in use."""
         if not self.numbers.is_multiple(size, self.machine.rules.unit):
             return False
-        return not self.numbers.below(size, self.numbers.number(self.machine.rules.least))
+        return not self.numbers.below(size, self.numbers.constant(self.machine.rules.least))
 
     def walk(self):
         """Goes from head to head; whether this leads to the head behind the stretch, which is as it was."""
@@ -53,7 +53,7 @@ class Judge:
     def parted(self, whole, want):
         """The blocks that are owed for a used one with the wanted size, cut off from a whole."""
         rest = self.numbers.plus(whole, -1, want)
-        if self.numbers.below(rest, self.numbers.number(self.machine.rules.least)):
+        if self.numbers.below(rest, self.numbers.constant(self.machine.rules.least)):
             return [(whole, True)]
         return [(want, True), (rest, False)]
 

@@ -20,9 +20,9 @@ class BlockMachine:
         self.scene = scene
         self.rules = rules
         self.numbers = numbers
-        self.worths = {name: numbers.number(0) for name in REGISTERS}
-        self.worths["unit"] = numbers.number(rules.unit)
-        self.worths["least"] = numbers.number(rules.least)
+        self.worths = {name: numbers.constant(0) for name in REGISTERS}
+        self.worths["unit"] = numbers.constant(rules.unit)
+        self.worths["least"] = numbers.constant(rules.least)
         self.worths["want"] = scene.want
         self.places = {name: None for name in PLACES}
         self.places["own"] = ("at", scene.own)
@@ -34,7 +34,7 @@ class BlockMachine:
 
     def after(self, address, many):
         """The address so many words on."""
-        return self.numbers.plus(address, many, self.numbers.number(1))
+        return self.numbers.plus(address, many, self.numbers.constant(1))
 
     def is_inside(self, address):
         """Whether an address is one of the stretch."""
@@ -81,7 +81,7 @@ class BlockMachine:
 
     def write(self, address, word, mark):
         """Writes a word with a role; mark tells what the line wrote."""
-        kept = self.scene.kept()
+        kept = self.scene.kept_words()
         if kept is not None and self.numbers.below(self.scene.own, address):
             end = self.numbers.plus(self.scene.own, 1, kept)
             self.has_spoilt = self.has_spoilt or self.numbers.below(address, end)
@@ -130,7 +130,7 @@ class BlockMachine:
         address = self.address_of(step[1])
         size = self.reckoned(step[2])
         least = 0 if step[0] == "head" else 1
-        if address is None or self.numbers.below(size, self.numbers.number(least)):
+        if address is None or self.numbers.below(size, self.numbers.constant(least)):
             return False
         if step[0] == "head":
             return self.write(address, ("head", size, step[3], step[4]), (address, "head"))
@@ -144,7 +144,7 @@ class BlockMachine:
             return False
         which = "size" if step[0] == "resize" else step[2]
         worth = self.reckoned(step[2]) if which == "size" else step[3]
-        if which == "size" and self.numbers.below(worth, self.numbers.number(0)):
+        if which == "size" and self.numbers.below(worth, self.numbers.constant(0)):
             return False
         changed = list(word)
         changed[PARTS[which]] = worth

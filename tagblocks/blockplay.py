@@ -118,7 +118,7 @@ class BlockPlay:
         self.words = words_of(case, machine)
         self.bin_links = {which: told_place(machine.links[(None, which)]) for which in ("next", "prev")}
         self.wrote = tuple(machine.wrote)
-        self.broken = Judge(machine, run.ended).broken()
+        self.broken = Judge(machine, run.ended).breaches()
         self.played = tuple(sorted(run.played))
         self.chosen = tuple(sorted(run.chosen))
 

@@ -33,14 +33,14 @@ class Sort:
             return core + 2 * sum(self.gaps)
         return core + max(1, 2 * sum(self.gaps))
 
-    def names(self):
+    def open_names(self):
         """The names of the numbers that are open in this sort."""
         names = ["own", *self.beside]
         if self.kind != "free":
             names.append("want")
         return names if self.is_fence else [*names, "end"]
 
-    def rows(self):
+    def start_rows(self):
         """The rows that hold in this sort from the start."""
         if self.kind == "grow":
             return [{0: -1, OPEN_NAMES["want"]: 1, OPEN_NAMES["own"]: -1}]
@@ -48,24 +48,24 @@ class Sort:
             return [{0: 0, OPEN_NAMES["own"]: 1, OPEN_NAMES["want"]: -1}]
         return []
 
-    def numbers(self, rules, trail, rows):
+    def open_numbers(self, rules, trail, rows):
         """The open numbers of a play."""
-        lows = {OPEN_NAMES[name]: rules.least // rules.unit for name in self.names()}
+        lows = {OPEN_NAMES[name]: rules.least // rules.unit for name in self.open_names()}
         return OpenNumbers(lows, {name: None for name in lows}, trail, rows)
 
-    def scene(self, rules, numbers):
+    def open_scene(self, rules, numbers):
         """The scene of a play, with own at the address 0."""
-        sizes = {name: {0: 0, OPEN_NAMES[name]: rules.unit} for name in self.names()}
+        sizes = {name: {0: 0, OPEN_NAMES[name]: rules.unit} for name in self.open_names()}
         want = sizes.pop("want", None)
         if self.is_fence:
-            sizes["end"] = numbers.number(0)
-        start = numbers.number(0)
+            sizes["end"] = numbers.constant(0)
+        start = numbers.constant(0)
         starts = {"own": start, "behind": sizes["own"]}
         if "ahead" in sizes:
             starts["ahead"] = numbers.plus(start, -1, sizes["ahead"])
-        return Scene(self.kind, start, sizes, want, self.ring(starts), numbers)
+        return Scene(self.kind, start, sizes, want, self.ring_places(starts), numbers)
 
-    def ring(self, starts):
+    def ring_places(self, starts):
         """The places of the ring behind bin: other blocks are told by numbers from 1 on."""
         places = []
         many = 0
@@ -110,7 +110,7 @@ def sorts_of(kind, gaps):
 
 def case_of(sort, rules, worths):
     """The case of a sort with the fewest blocks, whose open numbers are so many units each."""
-    size_of = {name: rules.unit * worths[name] for name in sort.names()}
+    size_of = {name: rules.unit * worths[name] for name in sort.open_names()}
     others = sum(sort.gaps)
     spare = (rules.least, True)
     row = [(rules.least, False), spare] * (others if sort.is_fence else 0)
@@ -126,5 +126,5 @@ def case_of(sort, rules, worths):
     inside = list(numbers.values())
     outside = [at for at, (_, is_used) in enumerate(row) if not is_used and at not in inside]
     ring = [outside[place[1] - 1] if place[0] == "outside" else numbers[place[1]]
-            for place in sort.ring({name: name for name in sort.order})]
+            for place in sort.ring_places({name: name for name in sort.order})]
     return (tuple(row), tuple(ring), numbers["own"], size_of.get("want"))

@@ -14,13 +14,13 @@ from tagblocks.texts import is_among, is_from
 def ways_of(code, sort, rows):
     """The ways of all plays on the cases of a sort for which rows hold: pairs of the broken promises and the rows."""
     found = []
-    waiting = [([], sort.rows() + rows)]
+    waiting = [([], sort.start_rows() + rows)]
     while waiting:
         trail, known = waiting.pop()
-        numbers = sort.numbers(code.rules, trail, known)
-        machine = BlockMachine(sort.scene(code.rules, numbers), code.rules, numbers)
+        numbers = sort.open_numbers(code.rules, trail, known)
+        machine = BlockMachine(sort.open_scene(code.rules, numbers), code.rules, numbers)
         run = run_through(code.outline, machine)
-        broken = Judge(machine, run.ended).broken()
+        broken = Judge(machine, run.ended).breaches()
         if not numbers.is_lost:
             found.append((broken, numbers.whole_rows([])))
         waiting.extend(numbers.waiting)
@@ -96,7 +96,7 @@ def block_kept(code):
 def worths_of(rows, sort):
     """For each open number of a sort some number of units with which rows hold."""
     worths = {}
-    for name in sort.names():
+    for name in sort.open_names():
         worth = min([low for low, _, _ in stretches_of(rows, OPEN_NAMES[name], None)])
         rows = rows + level({0: -worth, OPEN_NAMES[name]: 1})
         worths[name] = worth

@@ -14,13 +14,13 @@ def kept_in(number, run, numbers):
     low = (run & -run).bit_length() - 1
     moved = numbers.quotient(number, low)
     inside = rest_of(moved, run.bit_length() - low, numbers)
-    return numbers.plus(numbers.number(0), 1 << low, inside)
+    return numbers.plus(numbers.constant(0), 1 << low, inside)
 
 
 def made_of(word, sign, operand, numbers):
     """What a sign like << or & makes of a word."""
     if sign == "<<":
-        return numbers.plus(numbers.number(0), 1 << operand, word)
+        return numbers.plus(numbers.constant(0), 1 << operand, word)
     if sign == ">>":
         return numbers.quotient(word, operand)
     kept = kept_in(word, operand, numbers)
@@ -29,7 +29,7 @@ def made_of(word, sign, operand, numbers):
     dropped = numbers.plus(word, -1, kept)
     if sign == "&~":
         return dropped
-    full = numbers.plus(dropped, 1, numbers.number(operand))
+    full = numbers.plus(dropped, 1, numbers.constant(operand))
     if sign == "|":
         return full
     return numbers.plus(full, -1, kept)
@@ -41,7 +41,7 @@ class HeadMachine:
     def __init__(self, code, wide, handed, numbers):
         self.wide = wide
         self.numbers = numbers
-        self.worths = {name: numbers.number(0) for name in (*REGISTERS, TOLD[code.kind])}
+        self.worths = {name: numbers.constant(0) for name in (*REGISTERS, TOLD[code.kind])}
         for name, worth in zip(HANDED[code.kind], handed):
             self.worths[name] = worth
 

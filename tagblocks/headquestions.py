@@ -25,10 +25,10 @@ class HeadBreak:
 
     def made(self, size, used, ahead, numbers):
         """The word that is made."""
-        handed = (size, numbers.number(used), numbers.number(ahead))
+        handed = (size, numbers.constant(used), numbers.constant(ahead))
         return play_head(self.heads.codes[0], self.heads.rules.wide, handed, numbers)
 
-    def told(self, kind, word, numbers):
+    def read_by(self, kind, word, numbers):
         """What a code tells of a word."""
         return play_head(self.heads.code_for(kind), self.heads.rules.wide, (word,), numbers)
 
@@ -36,14 +36,14 @@ class HeadBreak:
         """Whether the promise is broken."""
         word = self.made(size, self.used, self.ahead, numbers)
         if self.promise == "inside":
-            return not numbers.below(word, numbers.number(1 << self.heads.rules.field))
+            return not numbers.below(word, numbers.constant(1 << self.heads.rules.field))
         if self.promise == "marks":
             used, ahead = NEW_FLAGS[self.kind]
             used = self.used if used is None else used
             ahead = self.ahead if ahead is None else ahead
-            return not numbers.same(self.told(self.kind, word, numbers), self.made(size, used, ahead, numbers))
-        owed = {"size": size, "used": numbers.number(self.used), "ahead": numbers.number(self.ahead)}
-        return not numbers.same(self.told(self.promise, word, numbers), owed[self.promise])
+            return not numbers.same(self.read_by(self.kind, word, numbers), self.made(size, used, ahead, numbers))
+        owed = {"size": size, "used": numbers.constant(self.used), "ahead": numbers.constant(self.ahead)}
+        return not numbers.same(self.read_by(self.promise, word, numbers), owed[self.promise])
 
 
 class NoneIsSo:
@@ -71,9 +71,9 @@ class RoundBreak:
     def is_so(self, n, numbers):
         """Whether the promise is broken."""
         told = play_head(self.code, self.rules.wide, (n,), numbers)
-        wanted = numbers.plus(n, 1, numbers.number(self.rules.over))
+        wanted = numbers.plus(n, 1, numbers.constant(self.rules.over))
         if self.promise == "full":
-            return told is None and not numbers.below(numbers.number(self.rules.last_size()), wanted)
+            return told is None and not numbers.below(numbers.constant(self.rules.last_size()), wanted)
         if told is None:
             return False
         if self.promise == "enough":
@@ -86,14 +86,14 @@ class RoundBreak:
 
     def is_in_use(self, told, numbers):
         """Whether a word is a size in use."""
-        if numbers.below(told, numbers.number(self.rules.least)):
+        if numbers.below(told, numbers.constant(self.rules.least)):
             return False
-        return numbers.same(rest_of(told, self.rules.unit.bit_length() - 1, numbers), numbers.number(0))
+        return numbers.same(rest_of(told, self.rules.unit.bit_length() - 1, numbers), numbers.constant(0))
 
     def is_loose(self, told, wanted, numbers):
         """Whether a size in use that is less than a told one would do."""
-        lesser = numbers.plus(told, -1, numbers.number(self.rules.unit))
-        return not numbers.below(lesser, numbers.number(self.rules.least)) and not numbers.below(lesser, wanted)
+        lesser = numbers.plus(told, -1, numbers.constant(self.rules.unit))
+        return not numbers.below(lesser, numbers.constant(self.rules.least)) and not numbers.below(lesser, wanted)
 
 
 class RoundParting:

@@ -27,9 +27,10 @@ class OpenNumbers:
         self.at = 0
         self.rows = list(rows)
         self.waiting = []
+        self.known = {}
         self.is_lost = False
 
-    def number(self, worth):
+    def constant(self, worth):
         """A number of a text."""
         return plain(worth)
 
@@ -106,6 +107,13 @@ class OpenNumbers:
         # What alone can be says nothing new.
         return self.answer(worth, rows if len(able) > 1 else [])
 
+    def once(self, sort, form, choices):
+        """The choice for a form; what was asked on this way before has the same answer."""
+        key = (sort, key_of(form))
+        if key not in self.known:
+            self.known[key] = self.choose(choices)
+        return self.known[key]
+
     def below(self, one, other):
         """Whether one number is less than another one."""
         gap = self.opened(plus(other, -1, one))
@@ -114,7 +122,7 @@ class OpenNumbers:
             return True
         if greatest is not None and greatest <= 0:
             return False
-        return self.choose([(True, [shifted(gap, -1)]), (False, [negated(gap)])])
+        return self.once("below", gap, [(True, [shifted(gap, -1)]), (False, [negated(gap)])])
 
     def same(self, one, other):
         """Whether two numbers are equal."""
@@ -124,9 +132,12 @@ class OpenNumbers:
             return True
         if (least is not None and least > 0) or (greatest is not None and greatest < 0):
             return False
-        if not self.is_replayed() and (self.is_lost or not self.can_be(level(gap))):
-            return self.answer(False, [])
-        return self.choose([(True, level(gap)), (False, [shifted(gap, -1)]), (False, [shifted(negated(gap), -1)])])
+        key = ("same", key_of(gap))
+        if key in self.known or self.is_replayed() or (not self.is_lost and self.can_be(level(gap))):
+            return self.once("same", gap, [(True, level(gap)), (False, [shifted(gap, -1)]),
+                                           (False, [shifted(negated(gap), -1)])])
+        self.known[key] = self.answer(False, [])
+        return False
 
     def is_multiple(self, number, unit):
         """Whether a unit divides a number, of whose names it divides the factors."""
@@ -149,11 +160,14 @@ class OpenNumbers:
     def carry(self, low, power, least, greatest):
         """The quotient of a form that lies between two of them: one of them for each way, or a new name."""
         if greatest - least < MANY_QUOTIENTS:
-            return plain(self.choose([(worth, between(low, plain(worth), power))
-                                      for worth in range(least, greatest + 1)]))
-        name = self.new_name(greatest - least)
-        self.rows = self.rows + between(low, {0: least, name: 1}, power)
-        return {0: least, name: 1}
+            choices = [(worth, between(low, plain(worth), power)) for worth in range(least, greatest + 1)]
+            return plain(self.once(power, low, choices))
+        key = (power, key_of(low))
+        if key not in self.known:
+            name = self.new_name(greatest - least)
+            self.rows = self.rows + between(low, {0: least, name: 1}, power)
+            self.known[key] = {0: least, name: 1}
+        return self.known[key]
 
     def new_name(self, top):
         """A new name, from 0 to a number."""
@@ -169,7 +183,7 @@ class OpenNumbers:
             if not wide:
                 return form
             for name in wide:
-                self.part(name, power - twos_in(form[name]))
+                self.split_name(name, power - twos_in(form[name]))
             form = self.opened(form)
 
     def is_wide(self, name, factor, power):
@@ -177,7 +191,7 @@ class OpenNumbers:
         twos = twos_in(factor)
         return twos < power and self.tops[name] >> (power - twos) > 0
 
-    def part(self, name, power):
+    def split_name(self, name, power):
         """Parts a name into its low twos and what is above them."""
         top = self.tops[name]
         low = self.new_name((1 << power) - 1)
@@ -185,6 +199,11 @@ class OpenNumbers:
         self.parts[name] = (low, high, power)
         if (top + 1) & ((1 << power) - 1):
             self.rows = [*self.rows, {0: top, low: -1, high: -(1 << power)}]
+
+
+def key_of(form):
+    """What a form is known by."""
+    return tuple(sorted([(name, factor) for name, factor in form.items()]))
 
 
 def twos_in(factor):

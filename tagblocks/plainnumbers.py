@@ -4,7 +4,7 @@
 class PlainNumbers:
     """Plain integers, asked as OpenNumbers are, so that a play can be written once for both."""
 
-    def number(self, worth):
+    def constant(self, worth):
         """A number of a text."""
         return worth
 

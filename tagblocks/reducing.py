@@ -1,5 +1,6 @@
 """Putting the names of a hard system in order: with other names its ranges are short where there is little room."""
 
+from tagblocks.forms import plus
 from tagblocks.settling import range_of, settled
 from tagblocks.strikes import Strike, struck_table
 from tagblocks.systems import table_of
@@ -69,36 +70,58 @@ def nearest(number, divisor):
     return (2 * number + divisor) // (2 * divisor)
 
 
-def shortened(steps):
-    """Steps made short by taking away others, with the names each one consists of then: a dict of pairs."""
-    bases = {name: (step, {name: 1}) for name, step in steps.items()}
-    is_changed = True
-    while is_changed:
-        is_changed = False
-        for name in steps:
-            for other in steps:
-                if other == name:
-                    continue
-                step, made = bases[name]
-                near, near_made = bases[other]
-                times = nearest(product_of(step, near), product_of(near, near))
-                less = [one - times * two for one, two in zip(step, near)]
-                if times and product_of(less, less) < product_of(step, step):
-                    bases[name] = (less, {one: made.get(one, 0) - times * near_made.get(one, 0) for one in steps})
-                    is_changed = True
-    return {name: made for name, (_, made) in bases.items()}
+class Basis:
+    """Steps in place of those of the old names: how far each leads, of which old ones it is made, and how many there
+    are of it, told by the old names."""
+
+    def __init__(self, steps):
+        self.steps = dict(steps)
+        self.made = {name: {name: 1} for name in steps}
+        self.told = {name: {name: 1} for name in steps}
+
+    def shorten(self, name, other):
+        """Takes a step away from another one as often as makes it shortest; whether that made it shorter."""
+        step, near = self.steps[name], self.steps[other]
+        times = nearest(product_of(step, near), product_of(near, near))
+        less = [one - times * two for one, two in zip(step, near)]
+        if times == 0 or product_of(less, less) >= product_of(step, step):
+            return False
+        self.steps[name] = less
+        self.made[name] = plus(self.made[name], -times, self.made[other])
+        self.told[other] = plus(self.told[other], times, self.told[name])
+        return True
+
+    def shorten_all(self):
+        """Shortens steps by others as long as one becomes shorter."""
+        names = list(self.steps)
+        is_changed = True
+        while is_changed:
+            is_changed = False
+            for name in names:
+                for other in names:
+                    if other != name and self.shorten(name, other):
+                        is_changed = True
+
+
+def range_rows(form, name, ranges):
+    """The two rows for a name that is a sum of names with ranges."""
+    ends = [(factor * ranges[one][0], factor * ranges[one][1]) for one, factor in form.items()]
+    return [{0: -sum([min(pair) for pair in ends]), name: 1}, {0: sum([max(pair) for pair in ends]), name: -1}]
 
 
 def reduced(system, ranges):
     """The system with new names in the place of its names: each old one is a sum of new ones, and the other way."""
-    bases = shortened(weighed(system.table, ranges))
+    basis = Basis(weighed(system.table, ranges))
+    basis.shorten_all()
     rows = []
     for key, added in system.table.items():
         factors = dict(key)
         row = {name: sum([factors[one] * many for one, many in made.items() if one in factors])
-               for name, made in bases.items()}
+               for name, made in basis.made.items()}
         row[0] = added
         rows.append(row)
+    for name in ranges:
+        rows = rows + range_rows(basis.told[name], name, ranges)
     ordered = system.with_table(table_of(rows))
     ordered.is_ordered = True
     return ordered

@@ -12,7 +12,7 @@ class Run:
 
 def sum_of(terms, values, numbers):
     """What a sum comes to."""
-    total = numbers.number(0)
+    total = numbers.constant(0)
     for sign, term in terms:
         total = numbers.plus(total, sign, worth_of(term, values, numbers))
     return total
@@ -22,7 +22,7 @@ def worth_of(term, values, numbers):
     """What a name or a number stands for."""
     if isinstance(term, str):
         return values[term]
-    return numbers.number(term)
+    return numbers.constant(term)
 
 
 def compared(part, values, numbers):

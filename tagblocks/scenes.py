@@ -43,19 +43,19 @@ class Scene:
                 size = self.sizes[sort]
                 self.words.append((address, ("head", size, not self.is_free(sort), was_used)))
                 if self.is_free(sort):
-                    last = numbers.plus(numbers.plus(address, 1, size), -1, numbers.number(1))
+                    last = numbers.plus(numbers.plus(address, 1, size), -1, numbers.constant(1))
                     self.words.append((last, ("foot", size)))
                 was_used = not self.is_free(sort)
         self.words.append((self.end, ("head", self.sizes["end"], True, was_used)))
         for place, behind, ahead in self.places_of_links():
             if place[0] == "at":
-                self.words.append((numbers.plus(place[1], 1, numbers.number(1)), ("next", behind)))
-                self.words.append((numbers.plus(place[1], 2, numbers.number(1)), ("prev", ahead)))
+                self.words.append((numbers.plus(place[1], 1, numbers.constant(1)), ("next", behind)))
+                self.words.append((numbers.plus(place[1], 2, numbers.constant(1)), ("prev", ahead)))
             else:
                 self.links[(place[1], "next")] = behind
                 self.links[(place[1], "prev")] = ahead
 
-    def kept(self):
+    def kept_words(self):
         """How many words of own, from its head on, have to keep their data behind the head; None for none."""
         if self.kind == "grow":
             return self.sizes["own"]

@@ -39,7 +39,7 @@ class Hard:
 
     def by_ranges(self):
         """The system parted along the name with the shortest range, or put in order; None if a name has no end."""
-        name = shortest_name(self.system)
+        name = shortest_name(self.system) if self.system.is_ordered else None
         if name is not None:
             return each_number(self.system, name, range_of(self.system.table, name))
         ranges = ranges_of(self.system.table)

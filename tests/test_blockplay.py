@@ -1,5 +1,6 @@
 """Promises [12] to [21]: plays of block codes on block cases."""
 
+import itertools
 import unittest
 
 from asking import NO_INTEGERS, error_of
@@ -217,6 +218,33 @@ class PromisesTest(unittest.TestCase):
         for want in (6, 9, 10):
             one = play(TEXTS["grow"], CASE[:3] + (want,), "grow")
             self.assertEqual((one.broken, one.ended), ((), "done" if want < 10 else "refused"))
+
+    def test_rests_of_just_least_words(self):
+        for least in (4, 5):
+            rules = BlockRules(1, least)
+            for kind, row, ring, whole in (("take", ((12, False), (9, True)), (0,), 12),
+                                           ("grow", ((8, True), (9, False), (9, True)), (1,), 17),
+                                           ("cut", ((12, True), (9, True)), (), 12)):
+                for rest, many in ((least, 3), (least - 1, 2), (0, 2)):
+                    one = play(TEXTS[kind], (row, ring, 0, whole - rest), kind, rules)
+                    self.assertEqual((one.ended, one.broken), ("done", ()))
+                    heads = [0]
+                    while one.words[heads[-1]][1]:
+                        heads.append(heads[-1] + one.words[heads[-1]][1])
+                    self.assertEqual(len(heads) - 1, many, (kind, least, rest))
+
+    def test_rings_with_others_between(self):
+        for gaps in itertools.product(range(5), repeat=3):
+            row = [(5, False), (6, True), (7, False), (4, True)] + [(4, False), (5, True)] * sum(gaps)
+            others = list(range(4, len(row), 2))
+            parts = [[others.pop() for _ in range(gap)] for gap in gaps]
+            for one, two in ((0, 2), (2, 0)):
+                case = (tuple(row), (*parts[0], one, *parts[1], two, *parts[2]), 1, None)
+                self.assertEqual(self.broken(TEXTS["free"], case), ())
+                for kind, want in (("cut", 4), ("cut", 6), ("grow", 9), ("grow", 11)):
+                    self.assertEqual(self.broken(TEXTS[kind], case[:3] + (want,), kind), ())
+                slipped = TEXTS["free"].replace("prev q = s\n", "")
+                self.assertEqual(self.broken(slipped, case), ("ring",))
 
     def test_done_plays_that_do_nothing(self):
         self.assertEqual(self.broken("quit"), ("owed",))
