@@ -48,10 +48,10 @@ class Sort:
             return [{0: 0, OPEN_NAMES["own"]: 1, OPEN_NAMES["want"]: -1}]
         return []
 
-    def open_numbers(self, rules, trail, rows):
+    def open_numbers(self, rules, trail, rows, solved):
         """The open numbers of a play."""
         lows = {OPEN_NAMES[name]: rules.least // rules.unit for name in self.open_names()}
-        return OpenNumbers(lows, {name: None for name in lows}, trail, rows)
+        return OpenNumbers(lows, {name: None for name in lows}, trail, rows, solved)
 
     def open_scene(self, rules, numbers):
         """The scene of a play, with own at the address 0."""

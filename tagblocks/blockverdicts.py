@@ -6,18 +6,18 @@ from tagblocks.blocksorts import ALL_GAPS, OPEN_NAMES, WORST_GAPS, case_of, sort
 from tagblocks.errors import BadPromise, BadSize
 from tagblocks.forms import level
 from tagblocks.runs import run_through
-from tagblocks.solving import stretches_of
+from tagblocks.solving import Solved, stretches_of
 from tagblocks.stretchsets import StretchSet
 from tagblocks.texts import is_among, is_from
 
 
-def ways_of(code, sort, rows):
+def ways_of(code, sort, rows, solved):
     """The ways of all plays on the cases of a sort for which rows hold: pairs of the broken promises and the rows."""
     found = []
     waiting = [([], sort.start_rows() + rows)]
     while waiting:
         trail, known = waiting.pop()
-        numbers = sort.open_numbers(code.rules, trail, known)
+        numbers = sort.open_numbers(code.rules, trail, known, solved)
         machine = BlockMachine(sort.open_scene(code.rules, numbers), code.rules, numbers)
         run = run_through(code.outline, machine)
         broken = Judge(machine, run.ended).breaches()
@@ -33,8 +33,9 @@ class Findings:
     def __init__(self, code):
         self.sets = {}
         self.ways = []
+        solved = Solved()
         for sort in sorts_of(code.kind, WORST_GAPS):
-            self.ways = self.ways + [way for way in ways_of(code, sort, []) if way[0]]
+            self.ways = self.ways + [way for way in ways_of(code, sort, [], solved) if way[0]]
 
     def set_for(self, promises):
         """The set of the numbers of units with which one of some promises is broken."""
@@ -110,10 +111,11 @@ def least_block_case(code, promise):
         return None
     sorts = sorts_of(code.kind, ALL_GAPS)
     rows = level({0: -size // code.rules.unit, OPEN_NAMES["own"]: 1})
+    solved = Solved()
     for many in sorted({sort.many_blocks(): True for sort in sorts}):
         for sort in sorts:
             if sort.many_blocks() == many:
-                for broken, known in ways_of(code, sort, rows):
+                for broken, known in ways_of(code, sort, rows, solved):
                     if promise in broken:
                         return case_of(sort, code.rules, worths_of(known, sort))
     return None

@@ -128,7 +128,7 @@ def least_number(rows, form, low):
     return low
 
 
-def least_with(question, low, high, unit):
+def least_with(question, low, high, unit, solved):
     """The least multiple of unit from one of them to another one at which a question is so, or None."""
     if low > high:
         return None
@@ -140,7 +140,7 @@ def least_with(question, low, high, unit):
     while waiting:
         trail, rows = waiting.pop()
         nearer = [] if best is None else [shifted(negated(whole), best - 1)]
-        numbers = OpenNumbers({1: 0}, {1: high // unit}, trail, rows + nearer)
+        numbers = OpenNumbers({1: 0}, {1: high // unit}, trail, rows + nearer, solved)
         if question.is_so(whole, numbers) and not numbers.is_lost and numbers.can_be([]):
             best = least_number(numbers.whole_rows([]), numbers.opened(whole), low)
         waiting.extend(numbers.waiting)

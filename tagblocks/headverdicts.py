@@ -4,6 +4,7 @@ from tagblocks.errors import BadNumber, BadPromise, OtherRules
 from tagblocks.headquestions import FLAGS, HEAD_PROMISES, NEW_FLAGS, ROUND_PROMISES
 from tagblocks.headquestions import HeadBreak, NoneIsSo, RoundBreak, RoundParting, least_with
 from tagblocks.plainnumbers import PlainNumbers
+from tagblocks.solving import Solved
 from tagblocks.texts import is_among, is_from
 
 
@@ -28,8 +29,9 @@ def head_breaks(heads, promise):
 def first_of(questions, low, high, unit):
     """The least multiple of unit from one of them to another one at which one of some questions is so, or None."""
     best = None
+    solved = Solved()
     for question in questions:
-        found = least_with(question, low, high if best is None else best - unit, unit)
+        found = least_with(question, low, high if best is None else best - unit, unit, solved)
         best = best if found is None else found
     return best
 

@@ -5,7 +5,6 @@ answer could be another one, a trail that ends with it waits. So a play needs to
 """
 
 from tagblocks.forms import level, negated, plain, plus, put_in, shifted
-from tagblocks.solving import can_hold
 
 # A quotient with more possible values than these becomes a name of its own.
 MANY_QUOTIENTS = 8
@@ -16,16 +15,18 @@ class OpenNumbers:
 
     lows and tops tell the range of each name, a top may be None. A name may be parted into its low twos and what
     is above these, which are names then: parts has the two names and the number of the low twos. Where no answer can
-    be, as the rows at the start cannot hold, the way is lost, and its answers mean nothing.
+    be, as the rows at the start cannot hold, the way is lost, and its answers mean nothing. known has the answers of
+    this way; solved, which other ways share, remembers which rows can hold.
     """
 
-    def __init__(self, lows, tops, trail, rows):
+    def __init__(self, lows, tops, trail, rows, solved):
         self.lows = dict(lows)
         self.tops = dict(tops)
         self.parts = {}
         self.trail = list(trail)
         self.at = 0
         self.rows = list(rows)
+        self.solved = solved
         self.waiting = []
         self.known = {}
         self.is_lost = False
@@ -73,7 +74,7 @@ class OpenNumbers:
 
     def can_be(self, more):
         """Whether more rows can hold on this way."""
-        return can_hold(self.whole_rows(more))
+        return self.solved.can_hold(self.whole_rows(more))
 
     def is_replayed(self):
         """Whether the next answer was given before."""

@@ -135,3 +135,20 @@ def stretches_of(rows, kept, most):
 def can_hold(rows):
     """Whether there are whole numbers for which all rows hold."""
     return len(stretches_of(rows, 0, 1)) > 0
+
+
+class Solved:
+    """Whether rows can hold, for all rows that were asked about so far: many ways ask the same."""
+
+    def __init__(self):
+        self.known = {}
+
+    def can_hold(self, rows):
+        """Whether there are whole numbers for which all rows hold."""
+        table = table_of(rows)
+        if table is None:
+            return False
+        key = tuple(sorted(table.items()))
+        if key not in self.known:
+            self.known[key] = can_hold(rows)
+        return self.known[key]

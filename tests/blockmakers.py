@@ -56,11 +56,11 @@ def slip(random, kind, rules):
 def rows_for(sizes, own, kind, left, right, behinds):
     """Rows around own: left and right other free blocks, with all sizes of the blocks that own's plays can meet."""
     least = sizes[0]
-    heads = [[(least, False), (least, True)] * left]
+    head = [(least, False), (least, True)] * left
     for ahead in ([None, *sizes] if kind != "take" else [None]):
         for behind in ([None, *sizes] if kind != "take" else [None]):
             for end in [None, *behinds]:
-                row = list(heads[0]) + ([(ahead, False)] if ahead else [])
+                row = head + ([(ahead, False)] if ahead else [])
                 at = len(row)
                 row.append((own, kind != "take"))
                 row += [(behind, False)] if behind else []

@@ -138,7 +138,7 @@ class HeadCodeTest(unittest.TestCase):
     def test_fourth_setting(self):
         self.assert_right("size", *["a = 1", "b = 1", "c = 1", "size = 1"] * 3)
         for name in ("a", "b", "c", "size"):
-            self.assertEqual(wrong("size", "\n".join(["quit"] and [f"{name} = 1"] * 4)), ("Refused", 4))
+            self.assertEqual(wrong("size", "\n".join([f"{name} = 1"] * 4)), ("Refused", 4))
         self.assertEqual(wrong("size", "\n".join(["a = 1"] * 3 + ["b = 1"] * 4 + ["a = 1"])), ("Refused", 7))
 
     def test_fourth_setting_on_a_way(self):

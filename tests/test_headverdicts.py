@@ -1,4 +1,4 @@
-"""Promises [2], [10], [11], [75] and [76]: verdicts on heads and roundings, against going through all words of 8 bits."""
+"""Promises [2], [10], [11], [75], [76]: verdicts on heads and roundings, against going through all words of 8 bits."""
 
 import random
 import unittest
