@@ -3,9 +3,9 @@
 from tagblocks.texts import comparison_in, names_in, number_between, sum_in, term_in
 
 REGISTERS = ("a", "b", "c")
-CLASS_REGISTERS = (*REGISTERS, "bin")
+CLASS_REGISTERS = ("a", "b", "c", "bin")
 CLASS_HANDED = {"hang": "size", "ask": "len"}
-MAP_NAMES = ("bin", *REGISTERS)
+MAP_NAMES = ("bin", "a", "b", "c")
 PATTERNS = ("p", "q")
 CHANGES = ("from", "with", "without")
 # The least number that stands behind a sign, and what the step is called.

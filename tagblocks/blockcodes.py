@@ -7,9 +7,9 @@ from tagblocks.texts import comparison_in, is_among, sum_in
 BLOCK_KINDS = ("free", "take", "grow", "cut")
 REGISTERS = ("a", "b", "c")
 PLACES = ("p", "q", "r", "s")
-KNOWN = ("own", *PLACES)
-LINKED = (*KNOWN, "bin")
-NAMES = (*REGISTERS, "want", "unit", "least")
+KNOWN = ("own", "p", "q", "r", "s")
+LINKED = ("own", "p", "q", "r", "s", "bin")
+NAMES = ("a", "b", "c", "want", "unit", "least")
 LINKS = ("next", "prev")
 FLAGS = {"used": True, "free": False}
 WRITING = ("head", "resize", "flag", "foot", "tie")

@@ -1,147 +1,151 @@
-"""What can be asked about heads and roundings at one size or length, known or open, and where it is so first."""
+"""What can be asked about heads and roundings at a size or length of open bits, and the least one at which it is so."""
 
-from tagblocks.forms import negated, shifted
-from tagblocks.headplay import play_head, rest_of
-from tagblocks.opennumbers import OpenNumbers
-from tagblocks.plainnumbers import PlainNumbers
-from tagblocks.solving import can_hold
+from tagblocks.bitwords import BitWords, are_same, is_below, plain_bits
+from tagblocks.circuits import NO, YES
+from tagblocks.headcircuits import BitPlay
 
 HEAD_PROMISES = ("inside", "size", "used", "ahead", "marks")
 ROUND_PROMISES = ("even", "enough", "tight", "full")
 FLAGS = ((0, 0), (0, 1), (1, 0), (1, 1))
 # The flags behind a change; None is what was so.
 NEW_FLAGS = {"use": (1, None), "free": (0, None), "meet": (None, 1), "part": (None, 0)}
+# So many figures more has a sum of a word and over or unit.
+SPARE = 14
 
 
-class HeadBreak:
-    """Whether heads break a promise at a size, with two flags; of marks just what the code of one kind owes."""
+class HeadGoals:
+    """The plays of heads on a size, a sum of bits, and the literals that tell where promises are broken."""
 
-    def __init__(self, heads, promise, used, ahead, kind=None):
+    def __init__(self, heads, words, size):
         self.heads = heads
-        self.promise = promise
-        self.used = used
-        self.ahead = ahead
-        self.kind = kind
+        self.words = words
+        self.circuit = words.circuit
+        self.size = size
+        self.made = {flags: self.told_by("make", (size, {None: flags[0]}, {None: flags[1]})) for flags in FLAGS}
 
-    def made(self, size, used, ahead, numbers):
-        """The word that is made."""
-        handed = (size, numbers.constant(used), numbers.constant(ahead))
-        return play_head(self.heads.codes[0], self.heads.rules.wide, handed, numbers)
+    def told_by(self, kind, handed):
+        """What the code of a kind tells of some words."""
+        return BitPlay(self.heads.code_for(kind), handed, self.words).told_word()
 
-    def read_by(self, kind, word, numbers):
-        """What a code tells of a word."""
-        return play_head(self.heads.code_for(kind), self.heads.rules.wide, (word,), numbers)
+    def breaks(self, promise, flags):
+        """Whether a promise is broken with two flags."""
+        word = self.made[flags]
+        if promise == "inside":
+            bits = self.words.bits_of(word)
+            return is_below(self.circuit, bits, plain_bits(1 << self.heads.rules.field)) ^ 1
+        if promise == "marks":
+            return self.circuit.any_of([self.changed_wrong(kind, flags) for kind in NEW_FLAGS])
+        owed = {"size": self.size, "used": {None: flags[0]}, "ahead": {None: flags[1]}}
+        return differ(self.words, self.told_by(promise, (word,)), owed[promise])
 
-    def is_so(self, size, numbers):
-        """Whether the promise is broken."""
-        word = self.made(size, self.used, self.ahead, numbers)
-        if self.promise == "inside":
-            return not numbers.below(word, numbers.constant(1 << self.heads.rules.field))
-        if self.promise == "marks":
-            used, ahead = NEW_FLAGS[self.kind]
-            used = self.used if used is None else used
-            ahead = self.ahead if ahead is None else ahead
-            return not numbers.same(self.read_by(self.kind, word, numbers), self.made(size, used, ahead, numbers))
-        owed = {"size": size, "used": numbers.constant(self.used), "ahead": numbers.constant(self.ahead)}
-        return not numbers.same(self.read_by(self.promise, word, numbers), owed[self.promise])
+    def changed_wrong(self, kind, flags):
+        """Whether the code of a kind that changes a flag tells another word than the one with the new flag."""
+        new_flags = tuple([old if new is None else new for old, new in zip(flags, NEW_FLAGS[kind])])
+        return differ(self.words, self.told_by(kind, (self.made[flags],)), self.made[new_flags])
 
+    def breaks_somehow(self, promise):
+        """Whether a promise is broken with some flags."""
+        return self.circuit.any_of([self.breaks(promise, flags) for flags in FLAGS])
 
-class NoneIsSo:
-    """Whether none of some questions is so."""
-
-    def __init__(self, questions):
-        self.questions = questions
-
-    def is_so(self, number, numbers):
-        """Whether none is so."""
-        for question in self.questions:
-            if question.is_so(number, numbers):
-                return False
-        return True
+    def wrong(self):
+        """Whether some promise is broken with some flags."""
+        return self.circuit.any_of([self.breaks_somehow(promise) for promise in HEAD_PROMISES])
 
 
-class RoundBreak:
-    """Whether a rounding breaks a promise at a length."""
+class RoundGoals:
+    """The play of a rounding on a length, a sum of bits, and the literals that tell where promises are broken."""
 
-    def __init__(self, rounding, promise):
-        self.rules = rounding.rules
-        self.code = rounding.code
-        self.promise = promise
+    def __init__(self, rounding, words, n):
+        rules = rounding.rules
+        self.rules = rules
+        self.words = words
+        self.circuit = words.circuit
+        play = BitPlay(rounding.code, (n,), words)
+        self.refused = play.refused
+        self.bits = words.bits_of(play.told_word())
+        # Told less what is wanted is reckoned by its parts, so that n often drops out of it.
+        self.gap = words.bits_of(words.sum_of([(1, play.told_word()), (-1, n), (1, {None: -rules.over})]))
+        wide = BitWords(rules.wide + SPARE, self.circuit)
+        self.wanted = wide.bits_of(wide.sum_of([(1, n), (1, {None: rules.over})]))
+        self.above = wide.bits_of(wide.sum_of([(1, n), (1, {None: rules.over + rules.unit})]))
+        self.in_use = self.circuit.both(self.from_number(rules.least), self.circuit.none_of(self.low_bits(self.bits)))
+        self.enough = is_below(self.circuit, self.bits, self.wanted) ^ 1
 
-    def is_so(self, n, numbers):
-        """Whether the promise is broken."""
-        told = play_head(self.code, self.rules.wide, (n,), numbers)
-        wanted = numbers.plus(n, 1, numbers.constant(self.rules.over))
-        if self.promise == "full":
-            return told is None and not numbers.below(numbers.constant(self.rules.last_size()), wanted)
-        if told is None:
-            return False
-        if self.promise == "enough":
-            return numbers.below(told, wanted)
-        if self.promise == "even":
-            return not self.is_in_use(told, numbers)
-        if not self.is_in_use(told, numbers) or numbers.below(told, wanted):
-            return False
-        return self.is_loose(told, wanted, numbers)
+    def low_bits(self, bits):
+        """The bits that are not set in a multiple of unit."""
+        return bits[:self.rules.unit.bit_length() - 1]
 
-    def is_in_use(self, told, numbers):
-        """Whether a word is a size in use."""
-        if numbers.below(told, numbers.constant(self.rules.least)):
-            return False
-        return numbers.same(rest_of(told, self.rules.unit.bit_length() - 1, numbers), numbers.constant(0))
+    def from_number(self, number):
+        """Whether the told word is a number or more."""
+        return is_below(self.circuit, self.bits, plain_bits(number)) ^ 1
 
-    def is_loose(self, told, wanted, numbers):
-        """Whether a size in use that is less than a told one would do."""
-        lesser = numbers.plus(told, -1, numbers.constant(self.rules.unit))
-        return not numbers.below(lesser, numbers.constant(self.rules.least)) and not numbers.below(lesser, wanted)
+    def breaks(self, promise):
+        """Whether a promise is broken."""
+        if promise == "full":
+            last = plain_bits(self.rules.last_size())
+            return self.circuit.both(self.refused, is_below(self.circuit, last, self.wanted) ^ 1)
+        if promise == "even":
+            return self.circuit.both(self.refused ^ 1, self.in_use ^ 1)
+        if promise == "enough":
+            return self.circuit.both(self.refused ^ 1, self.enough ^ 1)
+        loose = self.circuit.both(is_below(self.circuit, self.bits, self.above) ^ 1,
+                                  self.from_number(self.rules.least + self.rules.unit))
+        return self.circuit.all_of([self.refused ^ 1, self.in_use, self.enough, loose])
+
+    def wrong(self):
+        """Whether some promise is broken."""
+        return self.circuit.any_of([self.breaks(promise) for promise in ROUND_PROMISES])
+
+    def right(self):
+        """Whether none is; the last part follows of the others, and makes dead ends be seen much sooner."""
+        near = self.circuit.none_of(self.gap[self.rules.unit.bit_length() - 1:])
+        least = are_same(self.circuit, self.bits, plain_bits(self.rules.least))
+        return self.circuit.both(self.wrong() ^ 1, self.circuit.any_of([self.refused, least, near]))
 
 
-class RoundParting:
+def differ(words, one, other):
+    """Whether two sums of bits differ: some bits are not the same, which also shows in one less the other."""
+    circuit = words.circuit
+    pairs = zip(words.bits_of(one), words.bits_of(other))
+    unlike = circuit.any_of([circuit.unlike(left, right) for left, right in pairs])
+    if unlike == NO:
+        return NO
+    return circuit.both(unlike, circuit.any_of(words.bits_of(words.sum_of([(1, one), (-1, other)]))))
+
+
+def parted(rounding, other, words, n):
     """Whether two roundings do not do the same for a length."""
-
-    def __init__(self, rounding, other):
-        self.rounding = rounding
-        self.other = other
-
-    def is_so(self, n, numbers):
-        """Whether one refuses alone, or they tell different sizes."""
-        told = [play_head(one.code, one.rules.wide, (n,), numbers) for one in (self.rounding, self.other)]
-        if told[0] is None or told[1] is None:
-            return told[0] is not None or told[1] is not None
-        return not numbers.same(told[0], told[1])
+    one, two = BitPlay(rounding.code, (n,), words), BitPlay(other.code, (n,), words)
+    circuit = words.circuit
+    both_told = circuit.both(one.refused ^ 1, two.refused ^ 1)
+    told_unlike = circuit.both(both_told, differ(words, one.told_word(), two.told_word()))
+    return circuit.either(circuit.unlike(one.refused, two.refused), told_unlike)
 
 
-def least_number(rows, form, low):
-    """The least number, not below a low one, that a form can be where rows hold, which can hold."""
-    first = low
-    reach = 1
-    while not can_hold([*rows, shifted(negated(form), first)]):
-        low = first + 1
-        first = first + reach
-        reach = 2 * reach
-    while low < first:
-        middle = (low + first) // 2
-        if can_hold([*rows, shifted(negated(form), middle)]):
-            first = middle
-        else:
-            low = middle + 1
-    return low
-
-
-def least_with(question, low, high, unit, solved):
-    """The least multiple of unit from one of them to another one at which a question is so, or None."""
-    if low > high:
+def least_of(words, bits, goal, low, high):
+    """The least number from one to another one that bits can tell where a goal holds, or None."""
+    circuit = words.circuit
+    clauses = circuit.clauses
+    below = is_below(circuit, bits, plain_bits(low))
+    above = is_below(circuit, plain_bits(high), bits)
+    for literal in (goal, below ^ 1, above ^ 1):
+        circuit.need(literal)
+        clauses.add([literal])
+    if not clauses.search([]):
         return None
-    if question.is_so(low, PlainNumbers()):
-        return low
-    best = None
-    whole = {0: 0, 1: unit}
-    waiting = [([], [shifted(whole, -low), shifted(negated(whole), high)])]
-    while waiting:
-        trail, rows = waiting.pop()
-        nearer = [] if best is None else [shifted(negated(whole), best - 1)]
-        numbers = OpenNumbers({1: 0}, {1: high // unit}, trail, rows + nearer, solved)
-        if question.is_so(whole, numbers) and not numbers.is_lost and numbers.can_be([]):
-            best = least_number(numbers.whole_rows([]), numbers.opened(whole), low)
-        waiting.extend(numbers.waiting)
+    best = number_of(clauses, bits)
+    clauses.cancel(0)
+    for at in range(len(bits) - 1, -1, -1):
+        is_set = best >> at & 1 == 1
+        if is_set and bits[at] != YES:
+            if clauses.search([bits[at] ^ 1]):
+                best = number_of(clauses, bits)
+                is_set = False
+            clauses.cancel(0)
+        clauses.add([bits[at] if is_set else bits[at] ^ 1])
     return best
+
+
+def number_of(clauses, bits):
+    """The number that bits tell at the moment."""
+    return sum([1 << at for at, literal in enumerate(bits) if clauses.worths[literal] > 0])

@@ -1,10 +1,10 @@
 """Verdicts on heads and roundings, for all sizes in use and all words."""
 
+from tagblocks.bitwords import BitWords
+from tagblocks.circuits import NO, YES, Circuit
 from tagblocks.errors import BadNumber, BadPromise, OtherRules
-from tagblocks.headquestions import FLAGS, HEAD_PROMISES, NEW_FLAGS, ROUND_PROMISES
-from tagblocks.headquestions import HeadBreak, NoneIsSo, RoundBreak, RoundParting, least_with
-from tagblocks.plainnumbers import PlainNumbers
-from tagblocks.solving import Solved
+from tagblocks.headquestions import FLAGS, HEAD_PROMISES, ROUND_PROMISES
+from tagblocks.headquestions import HeadGoals, RoundGoals, least_of, parted
 from tagblocks.texts import is_among, is_from
 
 
@@ -20,35 +20,28 @@ def check_number(number):
         raise BadNumber(number)
 
 
-def head_breaks(heads, promise):
-    """The questions of which one is so where heads break a promise."""
-    kinds = list(NEW_FLAGS) if promise == "marks" else [None]
-    return [HeadBreak(heads, promise, used, ahead, kind) for used, ahead in FLAGS for kind in kinds]
+class HeadAsked:
+    """Heads with a size of open bits that is a multiple of unit."""
 
+    def __init__(self, heads):
+        self.rules = heads.rules
+        self.words = BitWords(heads.rules.wide, Circuit())
+        low = heads.rules.unit.bit_length() - 1
+        self.bits = [NO] * low + self.words.open_bits(heads.rules.wide - low)
+        self.goals = HeadGoals(heads, self.words, self.words.of_bits(self.bits))
 
-def first_of(questions, low, high, unit):
-    """The least multiple of unit from one of them to another one at which one of some questions is so, or None."""
-    best = None
-    solved = Solved()
-    for question in questions:
-        found = least_with(question, low, high if best is None else best - unit, unit, solved)
-        best = best if found is None else found
-    return best
-
-
-def first_size(heads, questions, size):
-    """The least size in use from one on at which one of some questions is so, or None."""
-    check_number(size)
-    low = heads.rules.next_in_use(size)
-    if low is None:
-        return None
-    return first_of(questions, low, heads.rules.last_size(), heads.rules.unit)
+    def least_size(self, goal, size):
+        """The least size in use from one on where a goal holds, or None."""
+        low = self.rules.next_in_use(size)
+        return None if low is None else least_of(self.words, self.bits, goal, low, self.rules.last_size())
 
 
 def head_break(heads, promise, size):
     """The least size in use from one on at which heads break a promise with some flags, or None."""
     check_promise(promise, HEAD_PROMISES)
-    return first_size(heads, head_breaks(heads, promise), size)
+    check_number(size)
+    asked = HeadAsked(heads)
+    return asked.least_size(asked.goals.breaks_somehow(promise), size)
 
 
 def head_keeps(heads, promise):
@@ -61,19 +54,18 @@ def head_kept(heads):
     return tuple([promise for promise in HEAD_PROMISES if head_keeps(heads, promise)])
 
 
-def all_head_breaks(heads):
-    """The questions of which one is so where heads are not right."""
-    return [question for promise in HEAD_PROMISES for question in head_breaks(heads, promise)]
-
-
 def head_wrong(heads, size):
     """The least size in use from one on at which heads are not right, or None."""
-    return first_size(heads, all_head_breaks(heads), size)
+    check_number(size)
+    asked = HeadAsked(heads)
+    return asked.least_size(asked.goals.wrong(), size)
 
 
 def head_right(heads, size):
     """The least size in use from one on at which heads are right, or None."""
-    return first_size(heads, [NoneIsSo(all_head_breaks(heads))], size)
+    check_number(size)
+    asked = HeadAsked(heads)
+    return asked.least_size(asked.goals.wrong() ^ 1, size)
 
 
 def head_case(heads, promise):
@@ -81,25 +73,37 @@ def head_case(heads, promise):
     size = head_break(heads, promise, 0)
     if size is None:
         return None
-    broken = [question for question in head_breaks(heads, promise) if question.is_so(size, PlainNumbers())]
-    return (size, broken[0].used, broken[0].ahead)
+    # With a known size all gates are known, too.
+    goals = HeadGoals(heads, BitWords(heads.rules.wide, Circuit()), {None: size})
+    flags = [one for one in FLAGS if goals.breaks(promise, one) == YES]
+    return (size, *flags[0])
 
 
-def first_word(rounding, questions, n):
-    """The least word from one on at which one of some questions is so, or None."""
-    check_number(n)
-    return first_of(questions, n, (1 << rounding.rules.wide) - 1, 1)
+class RoundAsked:
+    """A rounding with a length of open bits."""
 
+    def __init__(self, rounding):
+        self.rounding = rounding
+        self.words = BitWords(rounding.rules.wide, Circuit())
+        self.bits = self.words.open_bits(rounding.rules.wide)
+        self.n = self.words.of_bits(self.bits)
 
-def all_round_breaks(rounding):
-    """The questions of which one is so where a rounding is not right."""
-    return [RoundBreak(rounding, promise) for promise in ROUND_PROMISES]
+    def goals(self):
+        """What tells where promises are broken."""
+        return RoundGoals(self.rounding, self.words, self.n)
+
+    def least_length(self, goal, n):
+        """The least word from one on where a goal holds, or None."""
+        last = (1 << self.rounding.rules.wide) - 1
+        return None if n > last else least_of(self.words, self.bits, goal, n, last)
 
 
 def round_break(rounding, promise, n):
     """The least length from one on at which a rounding breaks a promise, or None."""
     check_promise(promise, ROUND_PROMISES)
-    return first_word(rounding, [RoundBreak(rounding, promise)], n)
+    check_number(n)
+    asked = RoundAsked(rounding)
+    return asked.least_length(asked.goals().breaks(promise), n)
 
 
 def round_keeps(rounding, promise):
@@ -114,19 +118,24 @@ def round_kept(rounding):
 
 def round_wrong(rounding, n):
     """The least length from one on at which a rounding is not right, or None."""
-    return first_word(rounding, all_round_breaks(rounding), n)
+    check_number(n)
+    asked = RoundAsked(rounding)
+    return asked.least_length(asked.goals().wrong(), n)
 
 
 def round_right(rounding, n):
     """The least length from one on at which a rounding is right, or None."""
-    return first_word(rounding, [NoneIsSo(all_round_breaks(rounding))], n)
+    check_number(n)
+    asked = RoundAsked(rounding)
+    return asked.least_length(asked.goals().right(), n)
 
 
 def round_parting(rounding, other):
     """The least word for which two roundings do not do the same, or None."""
     if rounding.rules != other.rules:
         raise OtherRules("heads")
-    return first_word(rounding, [RoundParting(rounding, other)], 0)
+    asked = RoundAsked(rounding)
+    return asked.least_length(parted(rounding, other, asked.words, asked.n), 0)
 
 
 def round_alike(rounding, other):

@@ -17,7 +17,7 @@ METHODS = set("""append clear copy count endswith extend find get index insert i
 DUNDERS = {"__init__", "__eq__", "__len__", "__getitem__", "__iter__"}
 NODES = (ast.Try, ast.With, ast.AsyncFunctionDef, ast.Yield, ast.YieldFrom, ast.Lambda, ast.GeneratorExp, ast.Set,
          ast.SetComp, ast.Global, ast.Nonlocal, ast.NamedExpr, ast.Match, ast.Div, ast.JoinedStr, ast.Await,
-         ast.AnnAssign, ast.Delete, ast.Assert)
+         ast.AnnAssign, ast.Assert)
 
 
 def files():
@@ -82,7 +82,7 @@ class LanguageTest(unittest.TestCase):
             for node in ast.walk(tree):
                 self.assertNotIsInstance(node, ast.Import, name)
                 if isinstance(node, ast.ImportFrom):
-                    self.assertTrue(node.module.startswith("tagblocks.") or node.module == "math", (name, node.module))
+                    self.assertTrue(node.module.startswith("tagblocks.") or node.module in ("math", "heapq"), (name, node.module))
                     self.assertEqual([one.asname for one in node.names if one.asname], [])
                     seen.setdefault(name[:-3], []).append(node.module.split(".")[-1])
         for name in seen:
@@ -102,7 +102,7 @@ class LanguageTest(unittest.TestCase):
                 if isinstance(node, ast.ImportFrom):
                     for one in node.names:
                         self.assertIn(one.name, used, (name, one.name))
-                        if node.module != "math":
+                        if node.module not in ("math", "heapq"):
                             other = whole[node.module.split(".")[1] + ".py"]
                             defined = [found for row in other.body for part in ast.walk(row) for found in targets(part)]
                             self.assertIn(one.name, defined, (name, one.name))
@@ -152,6 +152,8 @@ class LanguageTest(unittest.TestCase):
         for name, tree in trees():
             for node in tree.body:
                 self.assertIsInstance(node, (ast.Expr, ast.ImportFrom, ast.FunctionDef, ast.ClassDef, ast.Assign), name)
+                if isinstance(node, ast.Assign):
+                    self.assertEqual([one for one in ast.walk(node) if isinstance(one, ast.Starred)], [], (name, node.lineno))
                 for found in targets(node) + [one.id for one in getattr(node, "targets", [])]:
                     self.assertNotIn((name, found), bound)
                     bound[name, found] = True
