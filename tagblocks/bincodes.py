@@ -74,6 +74,7 @@ class Bins:
         self.hangs = hangs
         self.asks = asks
         self.waste = waste
+        self.findings = None
 
     def __eq__(self, other):
         return (isinstance(other, Bins) and self.rules == other.rules and self.hangs == other.hangs
@@ -88,6 +89,7 @@ class BinMaps:
             raise OtherKinds("maps")
         self.rules = rules
         self.codes = tuple(codes)
+        self.findings = None
 
     def __eq__(self, other):
         return isinstance(other, BinMaps) and self.rules == other.rules and self.codes == other.codes

@@ -82,3 +82,16 @@ def line_behind(outline, line, machine, run):
     elif not machine.play_step(step):
         run.ended = "beyond"
     return line + 1
+
+
+def plain_sum(terms, values):
+    """What a sum of known numbers comes to."""
+    return sum([sign * (values[term] if isinstance(term, str) else term) for sign, term in terms])
+
+
+def compared_plainly(part, values):
+    """Whether a part of a test that compares two known numbers holds."""
+    left, right = [values[term] if isinstance(term, str) else term for term in part[1:]]
+    if part[0] == "<":
+        return left < right
+    return left <= right if part[0] == "<=" else left == right

@@ -16,6 +16,9 @@ class ExamplesTest(unittest.TestCase):
     def test_heads(self):
         self.run_file("heads.txt")
 
+    def test_bins(self):
+        self.run_file("bins.txt")
+
     def test_blocks(self):
         self.run_file("blocks.txt")
 

@@ -1,0 +1,231 @@
+"""Plays of map codes on bits of which some are known: what is not known is asked, and all answers are followed.
+
+A bit of a word or of a pattern is a mask of bins: it is set if one of them was set at the start. One more bin, behind
+all others, counts as set always. So what a play can learn is that all bins of a mask are not set, or that some are.
+"""
+
+from tagblocks.headrules import is_between
+from tagblocks.runs import compared_plainly, plain_sum, test_holds
+
+
+class Knowledge:
+    """What is known of the bins: zeros, a mask of those not set, and masks of each of which some bin is set."""
+
+    def __init__(self, zeros, sets):
+        self.zeros = zeros
+        self.sets = sets
+
+    def is_zero(self, mask):
+        """Whether surely no bin of a mask is set."""
+        return mask & ~self.zeros == 0
+
+    def is_set(self, mask):
+        """Whether surely some bin of a mask is set."""
+        for one in self.sets:
+            if one & ~self.zeros & ~mask == 0:
+                return True
+        return False
+
+    def with_answer(self, zeros, mask):
+        """What is known if no bin of one mask is set, and some of another one (0 for none) is; None if that cannot be."""
+        if zeros and self.is_set(zeros):
+            return None
+        if mask == 0:
+            return Knowledge(self.zeros | zeros, self.sets)
+        if mask & ~self.zeros & ~zeros == 0:
+            return None
+        return Knowledge(self.zeros | zeros, (*self.sets, mask))
+
+
+def start_knowledge(rules, zeros, ones):
+    """What is known at the start: two masks of bins, and that the one behind all bins counts as set."""
+    sets = [1 << at for at in range(rules.bins) if ones >> at & 1]
+    return Knowledge(zeros, (*sets, 1 << rules.bins))
+
+
+def word_masks(rules, index):
+    """The bits of a word at the start: bits that belong to no bin are empty masks."""
+    first = index * rules.wide
+    return tuple([1 << at if at < rules.bins else 0 for at in range(first, first + rules.wide)])
+
+
+def roof_of(rules, words):
+    """The roof that is right for some words."""
+    roof = []
+    for masks in words:
+        whole = 0
+        for mask in masks:
+            whole = whole | mask
+        roof.append(whole)
+    return tuple(roof + [0] * (rules.wide - len(words)))
+
+
+def worth_of_masks(masks, ones):
+    """The number that bits tell where some bins are set."""
+    return sum([1 << at for at, mask in enumerate(masks) if mask & ones])
+
+
+def start_machine(maps, kind, number, zeros, ones):
+    """The play of the code of a kind for a bin, where the bins of two masks are known not to be set, to be set."""
+    rules = maps.rules
+    words = [word_masks(rules, at) for at in range(rules.words)]
+    known = start_knowledge(rules, zeros, ones)
+    machine = MapMachine(maps.code_for(kind), rules, known, words, roof_of(rules, words))
+    machine.worths["bin"] = number
+    return machine
+
+
+class MapMachine:
+    """A play of a map code. choices is None, or has what can be known where a play waits for an answer.
+
+    ended is "done" while the play goes on.
+    """
+
+    def __init__(self, code, rules, known, words, roof):
+        self.code = code
+        self.rules = rules
+        self.known = known
+        self.words = list(words)
+        self.roof = roof
+        self.line = 1
+        self.ended = "done"
+        self.told = None
+        self.choices = None
+        self.worths = {"bin": 0, "a": 0, "b": 0, "c": 0}
+        self.patterns = {"p": (0,) * rules.wide, "q": (0,) * rules.wide}
+
+    def branch(self, known):
+        """The same play at the same line, which knows more."""
+        other = MapMachine(self.code, self.rules, known, self.words, self.roof)
+        other.line = self.line
+        other.worths = dict(self.worths)
+        other.patterns = dict(self.patterns)
+        return other
+
+    def advance(self):
+        """Plays on up to the end, or to a line that waits for an answer."""
+        outline = self.code.outline
+        while self.line <= outline.many_lines() and self.ended == "done":
+            step = outline.step_at(self.line)
+            if step[0] == "else":
+                self.line = outline.target_at(self.line)
+            elif step[0] == "if":
+                side = test_holds(step[1], self)
+                if side is None:
+                    return
+                self.line = self.line + 1 if side else outline.target_at(self.line)
+            elif step[0] in ("tell", "none", "quit"):
+                self.end_at(step)
+                return
+            elif step[0] == "end" or self.play_step(step):
+                self.line += 1
+            elif self.choices is None:
+                self.ended = "beyond"
+            else:
+                return
+        if self.code.kind == "find":
+            self.ended = "beyond"
+
+    def end_at(self, step):
+        """Ends the play at a line that ends it."""
+        if step[0] == "tell":
+            self.told = self.worth_of(step[1])
+        elif step[0] == "none":
+            self.ended = "refused"
+        elif self.code.kind == "find":
+            self.ended = "beyond"
+
+    def worth_of(self, term):
+        """The number that a name or number stands for."""
+        return self.worths[term] if isinstance(term, str) else term
+
+    def offer(self, answers):
+        """Waits for one of some answers, pairs of masks, of those that can be."""
+        known = [self.known.with_answer(zeros, mask) for zeros, mask in answers]
+        self.choices = [one for one in known if one is not None]
+
+    def part_holds(self, part):
+        """Whether a part of a test holds; None if the play waits for that."""
+        if part[0] != "empty":
+            return compared_plainly(part, self.worths)
+        whole = 0
+        for mask in self.patterns[part[1]]:
+            whole = whole | mask
+        if self.known.is_zero(whole):
+            return True
+        if self.known.is_set(whole):
+            return False
+        self.offer([(whole, 0), (0, whole)])
+        return None
+
+    def first_of(self, masks):
+        """The number of the least bit of a pattern; None if it is empty, or if the play waits for it."""
+        passed = 0
+        answers = []
+        for at, mask in enumerate(masks):
+            if self.known.is_zero(mask & ~passed):
+                continue
+            answers.append((passed, mask))
+            if self.known.is_set(mask | passed):
+                if len(answers) == 1:
+                    return at
+                break
+            passed = passed | mask
+        if answers:
+            self.offer([*answers, (passed, 0)] if not self.known.is_set(passed | answers[-1][1]) else answers)
+        return None
+
+    def play_step(self, step):
+        """Plays a line; whether it was neither beyond nor waits."""
+        if step[0] in ("set", "times", "divided", "rest"):
+            self.worths[step[1]] = self.reckoned(step)
+            return True
+        if step[0] == "first":
+            first = self.first_of(self.patterns[step[2]])
+            if first is not None:
+                self.worths[step[1]] = first
+            return first is not None
+        if step[0] in ("word", "write word"):
+            return self.play_word(step)
+        if step[0] in ("from", "with", "without"):
+            return self.change_pattern(step)
+        if step[0] == "roof":
+            self.patterns[step[1]] = self.roof
+        elif step[0] == "write roof":
+            self.roof = self.patterns[step[1]]
+        else:
+            self.patterns[step[1]] = self.patterns[step[2]]
+        return True
+
+    def reckoned(self, step):
+        """What a register is set to."""
+        worth = plain_sum(step[2], self.worths)
+        if step[0] == "times":
+            return worth * step[3]
+        if step[0] == "divided":
+            return worth // step[3]
+        return worth % step[3] if step[0] == "rest" else worth
+
+    def play_word(self, step):
+        """Plays a line that reads or writes a word; whether there is such a word."""
+        index = self.worth_of(step[2])
+        if not is_between(index, 0, self.rules.words - 1):
+            return False
+        if step[0] == "word":
+            self.patterns[step[1]] = self.words[index]
+        else:
+            self.words[index] = self.patterns[step[1]]
+        return True
+
+    def change_pattern(self, step):
+        """Plays a line with from, with or without; whether there is such a bit."""
+        at = self.worth_of(step[2])
+        if not is_between(at, 0, self.rules.wide - 1):
+            return False
+        masks = self.patterns[step[1]]
+        if step[0] == "from":
+            self.patterns[step[1]] = (0,) * at + masks[at:]
+        else:
+            bit = 1 << self.rules.bins if step[0] == "with" else 0
+            self.patterns[step[1]] = (*masks[:at], bit, *masks[at + 1:])
+        return True
