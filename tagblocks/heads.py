@@ -3,7 +3,6 @@
 from tagblocks.errors import BadKind, BadNumber, OtherKinds
 from tagblocks.headcodes import HEAD_KINDS
 from tagblocks.headplay import play_head
-from tagblocks.plainnumbers import PlainNumbers
 from tagblocks.texts import is_among
 
 
@@ -36,7 +35,7 @@ class Heads:
         for value in (size, used, ahead):
             if not self.rules.is_word(value):
                 raise BadNumber(value)
-        return play_head(self.codes[0], self.rules.wide, (size, used, ahead), PlainNumbers())
+        return play_head(self.codes[0], self.rules.wide, (size, used, ahead))
 
     def read(self, kind, word):
         """What the code of a kind other than make tells of a word."""
@@ -44,7 +43,7 @@ class Heads:
             raise BadKind(kind)
         if not self.rules.is_word(word):
             raise BadNumber(word)
-        return play_head(self.code_for(kind), self.rules.wide, (word,), PlainNumbers())
+        return play_head(self.code_for(kind), self.rules.wide, (word,))
 
 
 class Rounding:
@@ -63,4 +62,4 @@ class Rounding:
         """The size that is told for a length, or None if it is refused."""
         if not self.rules.is_word(n):
             raise BadNumber(n)
-        return play_head(self.code, self.rules.wide, (n,), PlainNumbers())
+        return play_head(self.code, self.rules.wide, (n,))

@@ -21,6 +21,13 @@ def ended_plays(maps, kind, number):
     return ended
 
 
+def breaches_of(machine, kind, number):
+    """The promises that a play breaks for some bits, and what is known then."""
+    if kind == "find":
+        return breaches_of_find(machine, number)
+    return breaches_of_change(machine, kind, number)
+
+
 def breaches_of_find(machine, number):
     """The promises that a play of find breaks for some bits, and what is known then."""
     known = machine.known
@@ -88,8 +95,7 @@ class MapFindings:
         if (kind, number) not in self.breaches:
             found = {}
             for machine in ended_plays(self.maps, kind, number):
-                broken = breaches_of_find(machine, number) if kind == "find" else breaches_of_change(machine, kind, number)
-                for promise, known in broken:
+                for promise, known in breaches_of(machine, kind, number):
                     found.setdefault(promise, self.words_where(known))
             self.breaches[(kind, number)] = found
         return self.breaches[(kind, number)]

@@ -27,7 +27,7 @@ class Knowledge:
         return False
 
     def with_answer(self, zeros, mask):
-        """What is known if no bin of one mask is set, and some of another one (0 for none) is; None if that cannot be."""
+        """What is known if no bin of a mask is set, and some of another one (0 for none) is; None if that cannot be."""
         if zeros and self.is_set(zeros):
             return None
         if mask == 0:

@@ -32,11 +32,11 @@ class Outline:
 
 
 def targets_of(steps):
-    """For each line where the other side of an if begins, and what stands behind the end of an else."""
+    """For each if where its other side begins, for each else and while what stands behind its end."""
     targets = [None] * len(steps)
     waiting = []
     for at, step in enumerate(steps):
-        if step[0] == "if":
+        if step[0] in ("if", "while"):
             waiting.append(at)
         elif step[0] == "else":
             targets[waiting.pop()] = at + 2
@@ -46,8 +46,21 @@ def targets_of(steps):
     return tuple(targets)
 
 
-def read_line(words, kind, step_in, part_in, nest):
+def read_while(words, kind, part_in, nest):
+    """What a while asks, or None: just one part of a test."""
+    test = test_in(words[1:], part_in, kind)
+    if test is None or len(test) != 1:
+        return None
+    nest.append("while")
+    return ("while", *test[0])
+
+
+def read_line(words, kind, step_in, part_in, loop_in, nest):
     """What a line does, or None if it has no form at its place; nest, the open blocks, is kept up to date."""
+    if nest and nest[-1] == "while" and words != ["end"]:
+        return loop_in(words, kind)
+    if words[0] == "while" and loop_in is not None:
+        return read_while(words, kind, part_in, nest)
     if words[0] == "if":
         test = test_in(words[1:], part_in, kind)
         if test is None:
@@ -67,15 +80,15 @@ def read_line(words, kind, step_in, part_in, nest):
     return step_in(words, kind)
 
 
-def read_outline(text, kind, step_in, part_in, most_lines, most_ifs):
-    """The outline of a text, whose other lines step_in reads, and whose parts of tests part_in reads."""
+def read_outline(text, kind, step_in, part_in, most_lines, most_ifs, loop_in=None):
+    """The outline of a text: step_in reads its lines, part_in the parts of tests, loop_in what stands in a while."""
     rows = lines_of(text)
     if len(rows) > most_lines:
         raise TooMany("lines", len(rows), most_lines)
     steps = []
     nest = []
     for row in rows:
-        step = read_line(row.split(" "), kind, step_in, part_in, nest)
+        step = read_line(row.split(" "), kind, step_in, part_in, loop_in, nest)
         if step is None:
             raise BadLine(len(steps) + 1)
         steps.append(step)

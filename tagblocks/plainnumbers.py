@@ -12,10 +12,6 @@ class PlainNumbers:
         """One number and another one, times a factor."""
         return one + times * other
 
-    def quotient(self, number, power):
-        """A number divided by 2 ** power, rounded down."""
-        return number >> power
-
     def below(self, one, other):
         """Whether one number is less than another one."""
         return one < other

@@ -71,6 +71,10 @@ def line_behind(outline, line, machine, run):
         return outline.many_lines() + 1
     if step[0] == "no":
         run.ended = "refused"
+    elif step[0] == "while":
+        if machine.play_while(outline, line, run):
+            return outline.target_at(line)
+        run.ended = "beyond"
     elif step[0] == "if":
         side = test_holds(step[1], machine)
         if side is None:

@@ -19,6 +19,9 @@ class ExamplesTest(unittest.TestCase):
     def test_bins(self):
         self.run_file("bins.txt")
 
+    def test_moves(self):
+        self.run_file("moves.txt")
+
     def test_blocks(self):
         self.run_file("blocks.txt")
 
