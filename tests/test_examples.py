@@ -22,6 +22,9 @@ class ExamplesTest(unittest.TestCase):
     def test_moves(self):
         self.run_file("moves.txt")
 
+    def test_slabs(self):
+        self.run_file("slabs.txt")
+
     def test_blocks(self):
         self.run_file("blocks.txt")
 
