@@ -148,9 +148,9 @@ class OneByOneTest(unittest.TestCase):
         self.assertEqual(self.kept("take", TAKE.replace("base + a", "base + a + 1")), ("inside", "number", "counts", "full"))
         self.assertEqual(self.case("take", TAKE.replace("set\n", "if number is 9\nelse\nset\nend\n"), "own"), (10, 9, 9))
         self.assertEqual(self.kept("take", TAKE.replace("used + 1", "used + 2")), ("inside", "number", "own", "full"))
-        self.assertEqual(self.case("take", TAKE.replace("if used is many\nunlist\nend", ""), "counts"), (1, 0, 0))
+        self.assertEqual(self.case("take", TAKE.replace("\nif used is many\nunlist\nend", ""), "counts"), (1, 0, 0))
         self.assertEqual(self.case("take", TAKE.replace("\nunlist", "\nunlist\ndrop"), "counts"), (1, 0, 0))
-        self.assertEqual(self.kept("take", TAKE.replace("used is many\nno", "used is many and not many is 9\nno")), ("number", "own", "counts"))
+        self.assertEqual(self.kept("take", TAKE.replace("used is many\nno", "used is many and not many is 9\nno")), ("inside", "number", "own", "counts"))
         self.assertEqual(self.case("take", TAKE.replace("used is many\nno", "used is 64 and many is 64\nelse\nif used is many\nno\nend"), "inside"),
                          (64, 64, 64))
         self.assertEqual(self.case("take", TAKE.replace("used is many\nno", "used is 7\nno"), "full"), (1, 1, 1))
