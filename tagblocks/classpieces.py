@@ -29,7 +29,7 @@ class Asked:
         """The play on so many units."""
         return ClassMachine(self.code, self.rules, many * self.unit)
 
-    def trace(self, many):
+    def trace_at(self, many):
         """The trace of the play on so many units."""
         return self.play(many).trace
 
@@ -64,7 +64,7 @@ def pieces_of(asked, low, high):
     pieces = []
     while low <= high:
         machine = asked.play(low)
-        last = last_alike(asked.trace, low, high, low)
+        last = last_alike(asked.trace_at, low, high, low)
         if machine.ended == "done":
             pieces = pieces + done_pieces(asked, low, last, machine.is_looking)
         else:

@@ -47,7 +47,7 @@ class ClassSet:
             return max(at, last) if is_inside else (at if at < last else None)
         return None if is_inside else at
 
-    def least(self, number, is_inside):
+    def first_number(self, number, is_inside):
         """The least number from one on that is in the set, or is not; or None."""
         found = []
         for rest in range(self.period):

@@ -233,7 +233,7 @@ class Clauses:
         self.watches = [[clause for clause in watching if clause[-1] >= 0] for watching in self.watches]
         self.most_learned = self.most_learned + self.most_learned // 10
 
-    def chosen(self):
+    def next_literal(self):
         """An open literal to be tried, or None if all truths are assigned."""
         while self.queue:
             score, truth = heappop(self.queue)
@@ -256,7 +256,7 @@ class Clauses:
             else:
                 literal = one
         if literal is None:
-            literal = self.chosen()
+            literal = self.next_literal()
         if literal is None:
             return "all"
         self.limits.append(len(self.trail))

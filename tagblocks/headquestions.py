@@ -68,7 +68,7 @@ class RoundGoals:
         wide = BitWords(rules.wide + SPARE, self.circuit)
         self.wanted = wide.bits_of(wide.sum_of([(1, n), (1, {None: rules.over})]))
         self.above = wide.bits_of(wide.sum_of([(1, n), (1, {None: rules.over + rules.unit})]))
-        self.in_use = self.circuit.both(self.from_number(rules.least), self.circuit.none_of(self.low_bits(self.bits)))
+        self.tells_size = self.circuit.both(self.from_number(rules.least), self.circuit.none_of(self.low_bits(self.bits)))
         self.enough = is_below(self.circuit, self.bits, self.wanted) ^ 1
 
     def low_bits(self, bits):
@@ -85,12 +85,12 @@ class RoundGoals:
             last = plain_bits(self.rules.last_size())
             return self.circuit.both(self.refused, is_below(self.circuit, last, self.wanted) ^ 1)
         if promise == "even":
-            return self.circuit.both(self.refused ^ 1, self.in_use ^ 1)
+            return self.circuit.both(self.refused ^ 1, self.tells_size ^ 1)
         if promise == "enough":
             return self.circuit.both(self.refused ^ 1, self.enough ^ 1)
         loose = self.circuit.both(is_below(self.circuit, self.bits, self.above) ^ 1,
                                   self.from_number(self.rules.least + self.rules.unit))
-        return self.circuit.all_of([self.refused ^ 1, self.in_use, self.enough, loose])
+        return self.circuit.all_of([self.refused ^ 1, self.tells_size, self.enough, loose])
 
     def wrong(self):
         """Whether some promise is broken."""

@@ -88,7 +88,7 @@ class RoundAsked:
         self.bits = self.words.open_bits(rounding.rules.wide)
         self.n = self.words.of_bits(self.bits)
 
-    def goals(self):
+    def round_goals(self):
         """What tells where promises are broken."""
         return RoundGoals(self.rounding, self.words, self.n)
 
@@ -103,7 +103,7 @@ def round_break(rounding, promise, n):
     check_promise(promise, ROUND_PROMISES)
     check_number(n)
     asked = RoundAsked(rounding)
-    return asked.least_length(asked.goals().breaks(promise), n)
+    return asked.least_length(asked.round_goals().breaks(promise), n)
 
 
 def round_keeps(rounding, promise):
@@ -120,14 +120,14 @@ def round_wrong(rounding, n):
     """The least length from one on at which a rounding is not right, or None."""
     check_number(n)
     asked = RoundAsked(rounding)
-    return asked.least_length(asked.goals().wrong(), n)
+    return asked.least_length(asked.round_goals().wrong(), n)
 
 
 def round_right(rounding, n):
     """The least length from one on at which a rounding is right, or None."""
     check_number(n)
     asked = RoundAsked(rounding)
-    return asked.least_length(asked.goals().right(), n)
+    return asked.least_length(asked.round_goals().right(), n)
 
 
 def round_parting(rounding, other):

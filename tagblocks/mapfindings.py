@@ -75,7 +75,7 @@ class MapFindings:
 
     def __init__(self, maps):
         self.maps = maps
-        self.breaches = {}
+        self.shown = {}
 
     def breach_at(self, promise, number):
         """The kind and the words with which a promise is broken at a bin, or None."""
@@ -92,13 +92,13 @@ class MapFindings:
 
     def play_all(self, kind, number):
         """For each promise that plays of a kind break at a bin the words that show it."""
-        if (kind, number) not in self.breaches:
+        if (kind, number) not in self.shown:
             found = {}
             for machine in ended_plays(self.maps, kind, number):
                 for promise, known in breaches_of(machine, kind, number):
                     found.setdefault(promise, self.words_where(known))
-            self.breaches[(kind, number)] = found
-        return self.breaches[(kind, number)]
+            self.shown[(kind, number)] = found
+        return self.shown[(kind, number)]
 
     def words_where(self, known):
         """Words for which all holds that is known: all bins are set that can be."""

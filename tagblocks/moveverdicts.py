@@ -37,7 +37,7 @@ def length_of(code, units):
 def first_length(code, promises, length, is_broken):
     """The least length in use from one on at which one of some promises is broken, or none is; or None."""
     found = move_findings_of(code).set_for(promises)
-    return length_of(code, found.least(units_from(code, length), is_broken))
+    return length_of(code, found.first_number(units_from(code, length), is_broken))
 
 
 def move_keeps(code, promise):

@@ -15,7 +15,7 @@ def judges_of(code, sort, solved):
     waiting = [([], sort.start_rows())]
     while waiting:
         trail, known = waiting.pop()
-        numbers = OpenNumbers(sort.lows(), sort.tops(), trail, known, solved)
+        numbers = OpenNumbers(sort.name_lows(), sort.name_tops(), trail, known, solved)
         machine = OpenSlab(sort, numbers)
         run = run_through(code.outline, machine)
         if not numbers.is_lost:

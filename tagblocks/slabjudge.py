@@ -3,10 +3,11 @@
 from tagblocks.forms import level, negated, plain, plus, shifted
 from tagblocks.slabsorts import MANY, PLACE, SIZE, USED
 
-LAY_PROMISES = ("inside", "fits", "most")
-TAKE_PROMISES = ("inside", "number", "own", "counts", "full")
-BACK_PROMISES = ("inside", "number", "own", "counts", "full", "odd", "twice")
-PROMISES = {"lay": LAY_PROMISES, "take": TAKE_PROMISES, "back": BACK_PROMISES}
+PROMISES = {
+    "lay": ("inside", "fits", "most"),
+    "take": ("inside", "number", "own", "counts", "full"),
+    "back": ("inside", "number", "own", "counts", "full", "odd", "twice"),
+}
 
 
 def unlike(one, other):

@@ -10,7 +10,7 @@ class OpenSlab:
     """The numbers of a play on open numbers, and what it did to the page.
 
     found is the number of the bit that find found, number_set what number was set to (behind find, in take), asked
-    the number of the bit that was cleared or asked about, and is_set whether it is set at the moment.
+    the number of the bit that was cleared or asked about, and is_bit_set whether it is set at the moment.
     """
 
     def __init__(self, sort, numbers):
@@ -18,11 +18,11 @@ class OpenSlab:
         self.rules = sort.rules
         self.numbers = numbers
         self.worths = {name: plain(worth) for name, worth in fixed_worths(sort.rules).items()}
-        self.worths.update(sort.worths())
+        self.worths.update(sort.start_worths())
         self.found = None
         self.number_set = None
         self.asked = None
-        self.is_set = None
+        self.is_bit_set = None
         self.has_marked = False
         self.is_listed = not sort.is_full
         self.is_dropped = False
@@ -32,7 +32,7 @@ class OpenSlab:
         """Whether a part of a test holds; None if it is beyond."""
         if part[0] != "is set":
             return compared(part, self.worths, self.numbers)
-        return self.is_set if self.ask_bit() else None
+        return self.is_bit_set if self.ask_bit() else None
 
     def play_step(self, step):
         """Plays a line; whether it was not beyond."""
@@ -96,9 +96,9 @@ class OpenSlab:
 
     def play_clear(self):
         """Plays clear; whether there is such a bit that is set."""
-        if not self.ask_bit() or not self.is_set:
+        if not self.ask_bit() or not self.is_bit_set:
             return False
-        self.is_set = False
+        self.is_bit_set = False
         self.has_marked = True
         return True
 
@@ -111,7 +111,7 @@ class OpenSlab:
             if not self.numbers.below(self.worths["bit"], wide):
                 return False
             self.asked = plus(self.worths["bit"], self.rules.wide, self.worths["word"])
-            self.is_set = self.numbers.choose(self.bit_choices(self.asked))
+            self.is_bit_set = self.numbers.choose(self.bit_choices(self.asked))
         return True
 
     def bit_choices(self, bit):

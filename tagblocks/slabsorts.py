@@ -25,7 +25,7 @@ class SlabSort:
         self.is_full = is_full
         self.where = where
 
-    def lows(self):
+    def name_lows(self):
         """The least number of each name."""
         if self.kind == "lay":
             return {SIZE: self.rules.head + 1 + self.rules.each}
@@ -38,12 +38,12 @@ class SlabSort:
                 lows[OVER] = 1
         return lows
 
-    def tops(self):
+    def name_tops(self):
         """The greatest number of each name."""
         top = self.rules.top
         if self.kind == "lay":
             return {SIZE: top}
-        tops = {name: top for name in self.lows()}
+        tops = {name: top for name in self.name_lows()}
         tops[MANY] = self.rules.places_for(top)
         if self.where == "between":
             tops[OVER] = self.rules.each - 1
@@ -82,7 +82,7 @@ class SlabSort:
             rest = plus(rest, -1, {0: 0, OVER: 1})
         return inside + level(rest)
 
-    def worths(self):
+    def start_worths(self):
         """What the names of sums of the kind stand for at the start, but those that are fixed by rules."""
         if self.kind == "lay":
             return {"size": {0: 0, SIZE: 1}, "many": plain(0), "maps": plain(0)}

@@ -197,9 +197,9 @@ class ClassSetTest(unittest.TestCase):
             found = ClassSet(stretches)
             for number in (0, 1, 7, 30, 55, 90, 100):
                 self.assertEqual(found.count_to(number), len([one for one in whole if one <= number]), stretches)
-                self.assertEqual(found.least(number, True), first_from(whole, number), stretches)
+                self.assertEqual(found.first_number(number, True), first_from(whole, number), stretches)
                 outside = [one for one in range(number, 600) if one not in whole]
-                self.assertEqual(found.least(number, False), min(outside, default=None), stretches)
+                self.assertEqual(found.first_number(number, False), min(outside, default=None), stretches)
 
 
 if __name__ == "__main__":
