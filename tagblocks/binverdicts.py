@@ -1,24 +1,11 @@
 """Verdicts on bins for all lengths and sizes, and on maps for all bits that there may be."""
 
 from tagblocks.binfindings import findings_of
-from tagblocks.errors import BadNumber, BadPromise
+from tagblocks.checks import check_number, check_promise
 from tagblocks.mapfindings import MAP_PROMISES, map_findings_of
 from tagblocks.spans import count_in, first_in, spans_without
-from tagblocks.texts import is_among, is_from
 
 BIN_PROMISES = ("inside", "safe", "found", "again", "order")
-
-
-def check_promise(promise, promises):
-    """Raises BadPromise for a value that is none of the promises."""
-    if not is_among(promise, promises):
-        raise BadPromise(promise)
-
-
-def check_number(number):
-    """Raises BadNumber for a value that is no integer from 0 on."""
-    if not is_from(number, 0):
-        raise BadNumber(number)
 
 
 def bin_wrong(bins, promise, n):

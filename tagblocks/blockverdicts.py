@@ -3,12 +3,13 @@
 from tagblocks.blockjudge import BLOCK_PROMISES, Judge
 from tagblocks.blockmachine import BlockMachine
 from tagblocks.blocksorts import ALL_GAPS, OPEN_NAMES, WORST_GAPS, case_of, sorts_of
-from tagblocks.errors import BadPromise, BadSize
+from tagblocks.checks import check_promise
+from tagblocks.errors import BadSize
 from tagblocks.forms import level
 from tagblocks.runs import run_through
 from tagblocks.solving import Solved, stretches_of
 from tagblocks.stretchsets import StretchSet
-from tagblocks.texts import is_among, is_from
+from tagblocks.texts import is_from
 
 
 def ways_of(code, sort, rows, solved):
@@ -55,12 +56,6 @@ def findings_of(code):
     return code.findings
 
 
-def check_promise(promise):
-    """Raises BadPromise for a value that is no promise."""
-    if not is_among(promise, BLOCK_PROMISES):
-        raise BadPromise(promise)
-
-
 def check_size(size):
     """Raises BadSize for a value that is no integer from 1 on."""
     if not is_from(size, 1):
@@ -79,7 +74,7 @@ def units_from(code, size):
 
 def next_block_break(code, promise, size):
     """The least size of own from a size on at which some play breaks a promise, or None."""
-    check_promise(promise)
+    check_promise(promise, BLOCK_PROMISES)
     check_size(size)
     return sized(code, findings_of(code).set_for((promise,)).least_from(units_from(code, size)))
 

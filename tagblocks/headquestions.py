@@ -68,7 +68,8 @@ class RoundGoals:
         wide = BitWords(rules.wide + SPARE, self.circuit)
         self.wanted = wide.bits_of(wide.sum_of([(1, n), (1, {None: rules.over})]))
         self.above = wide.bits_of(wide.sum_of([(1, n), (1, {None: rules.over + rules.unit})]))
-        self.tells_size = self.circuit.both(self.from_number(rules.least), self.circuit.none_of(self.low_bits(self.bits)))
+        is_multiple = self.circuit.none_of(self.low_bits(self.bits))
+        self.tells_size = self.circuit.both(self.from_number(rules.least), is_multiple)
         self.enough = is_below(self.circuit, self.bits, self.wanted) ^ 1
 
     def low_bits(self, bits):

@@ -2,22 +2,10 @@
 
 from tagblocks.bitwords import BitWords
 from tagblocks.circuits import NO, YES, Circuit
-from tagblocks.errors import BadNumber, BadPromise, OtherRules
+from tagblocks.checks import check_number, check_promise
+from tagblocks.errors import OtherRules
 from tagblocks.headquestions import FLAGS, HEAD_PROMISES, ROUND_PROMISES
 from tagblocks.headquestions import HeadGoals, RoundGoals, least_of, parted
-from tagblocks.texts import is_among, is_from
-
-
-def check_promise(promise, promises):
-    """Raises BadPromise for a value that is none of the promises."""
-    if not is_among(promise, promises):
-        raise BadPromise(promise)
-
-
-def check_number(number):
-    """Raises BadNumber for a value that is no integer from 0 on."""
-    if not is_from(number, 0):
-        raise BadNumber(number)
 
 
 class HeadAsked:

@@ -1,21 +1,16 @@
 """Verdicts on move codes, for all lengths in use and all gaps."""
 
-from tagblocks.errors import BadGap, BadLength, BadPromise
+from tagblocks.checks import check_promise
+from tagblocks.errors import BadGap, BadLength
 from tagblocks.forms import level, negated, plus, shifted
 from tagblocks.movefindings import broken_rows, judges_of, len_form, move_findings_of
 from tagblocks.movejudge import MOVE_PROMISES
 from tagblocks.moveopen import GAP
 from tagblocks.solving import Solved, stretches_of
-from tagblocks.texts import is_among, is_from, is_whole
+from tagblocks.texts import is_from, is_whole
 
 # A move is right at a length if none of these is broken.
 RIGHT_PROMISES = ("inside", "fresh", "whole")
-
-
-def check_promise(promise):
-    """Raises BadPromise for a value that is no promise."""
-    if not is_among(promise, MOVE_PROMISES):
-        raise BadPromise(promise)
 
 
 def check_length(length):
@@ -42,7 +37,7 @@ def first_length(code, promises, length, is_broken):
 
 def move_keeps(code, promise):
     """Whether a code keeps a promise."""
-    check_promise(promise)
+    check_promise(promise, MOVE_PROMISES)
     return len(move_findings_of(code).rows_for(promise)) == 0
 
 
@@ -53,7 +48,7 @@ def move_kept(code):
 
 def move_break(code, promise, length):
     """The least length from one on at which some play breaks a promise, or None."""
-    check_promise(promise)
+    check_promise(promise, MOVE_PROMISES)
     check_length(length)
     return first_length(code, (promise,), length, True)
 
@@ -92,7 +87,7 @@ def gap_from(code, promise, length, form):
 
 def move_gap(code, promise, length, gap):
     """The least gap from one on with which the play on a length breaks a promise, or None."""
-    check_promise(promise)
+    check_promise(promise, MOVE_PROMISES)
     if not code.rules.in_use(length):
         raise BadLength(length)
     if not is_whole(gap):

@@ -18,6 +18,13 @@ def fixed_worths(rules):
     return {"head": rules.head, "each": rules.each, "wide": rules.wide, "a": 0, "b": 0, "c": 0}
 
 
+def flags_behind(word, is_listed, is_dropped):
+    """Whether a page is listed, and dropped, behind list, unlist or drop; None if the line is beyond."""
+    if word == "drop":
+        return None if is_listed or is_dropped else (False, True)
+    return None if is_listed == (word == "list") else (word == "list", is_dropped)
+
+
 class Page:
     """A page as it stands: the bits that are set, numbered over all map words."""
 
@@ -111,15 +118,10 @@ class SlabMachine:
 
     def play_flag(self, word):
         """Plays list, unlist or drop; whether the page is not so already."""
-        page = self.page
-        if word == "drop":
-            if page.is_listed or page.is_dropped:
-                return False
-            page.is_dropped = True
-            return True
-        if page.is_listed == (word == "list"):
+        flags = flags_behind(word, self.page.is_listed, self.page.is_dropped)
+        if flags is None:
             return False
-        page.is_listed = word == "list"
+        self.page.is_listed, self.page.is_dropped = flags
         return True
 
 

@@ -2,7 +2,7 @@
 
 from tagblocks.forms import level, negated, plain, plus, shifted
 from tagblocks.runs import compared, sum_of
-from tagblocks.slabmachine import CHANGES, fixed_worths, operand_of
+from tagblocks.slabmachine import CHANGES, fixed_worths, flags_behind, operand_of
 from tagblocks.slabsorts import MANY, MAPS, PLACE, USED
 
 
@@ -132,12 +132,8 @@ class OpenSlab:
 
     def play_flag(self, word):
         """Plays list, unlist or drop; whether the page is not so already."""
-        if word == "drop":
-            if self.is_listed or self.is_dropped:
-                return False
-            self.is_dropped = True
-            return True
-        if self.is_listed == (word == "list"):
+        flags = flags_behind(word, self.is_listed, self.is_dropped)
+        if flags is None:
             return False
-        self.is_listed = word == "list"
+        self.is_listed, self.is_dropped = flags
         return True

@@ -1,37 +1,25 @@
 """Verdicts on slab codes for all sizes in use, and for all pages that are right and all addresses."""
 
-from tagblocks.errors import BadNumber, BadPromise, BadSize
+from tagblocks.checks import check_number, check_promise
+from tagblocks.errors import BadSize
 from tagblocks.slabfindings import slab_findings_of
 from tagblocks.slabjudge import PROMISES
 from tagblocks.slabmachine import play_lay
-from tagblocks.texts import is_among, is_from
 
 # A code is right where none of its promises but these is broken.
 NOT_ASKED = ("odd", "twice")
 
 
-def check_promise(code, promise):
-    """Raises BadPromise for a value that is no promise of the kind of a code."""
-    if not is_among(promise, PROMISES[code.kind]):
-        raise BadPromise(promise)
-
-
-def check_number(number):
-    """Raises BadNumber for a value that is no integer from 0 on."""
-    if not is_from(number, 0):
-        raise BadNumber(number)
-
-
 def slab_break(rules, code, promise, number):
     """The least size in use, or number of places, from one on at which a promise is broken, or None."""
-    check_promise(code, promise)
+    check_promise(promise, PROMISES[code.kind])
     check_number(number)
     return slab_findings_of(rules, code).least_from(promise, number)
 
 
 def slab_keeps(rules, code, promise):
     """Whether a code keeps a promise."""
-    check_promise(code, promise)
+    check_promise(promise, PROMISES[code.kind])
     return len(slab_findings_of(rules, code).systems_for(promise)) == 0
 
 
@@ -42,7 +30,7 @@ def slab_kept(rules, code):
 
 def slab_case(rules, code, promise):
     """The least case with which a promise is broken: a size, or how many places, lent ones, and what is handed."""
-    check_promise(code, promise)
+    check_promise(promise, PROMISES[code.kind])
     return slab_findings_of(rules, code).least_case(promise)
 
 

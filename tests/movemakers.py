@@ -1,5 +1,6 @@
 """Move codes for tests: right ones, codes with slips, and a second way to play them that logs what is read and written."""
 
+from replaying import Lines
 from tagblocks.errors import BlockError
 from tagblocks.movecodes import MoveCode
 from tagblocks.moverules import MoveRules
@@ -26,42 +27,17 @@ class Beyond(Exception):
     """A play that is beyond."""
 
 
-class Replay:
+class Replay(Lines):
     """A play: its log has ("read", place) and ("write", gap and place, place that the word was read at)."""
 
     def __init__(self, code, many, gap):
-        self.worths = {"len": many, "gap": gap, "a": 0, "b": 0, "c": 0, "d": 0}
-        self.held, self.log, self.lines = {}, [], code.text.split("\n") if code.text else []
+        super().__init__(code.text, {"len": many, "gap": gap, "a": 0, "b": 0, "c": 0, "d": 0})
+        self.held, self.log = {}, []
         self.ended = "done"
         try:
             self.play(0, len(self.lines))
         except Beyond:
             self.ended = "beyond"
-
-    def sum(self, words):
-        total, sign = 0, 1
-        for word in words:
-            if word in ("+", "-"):
-                sign = 1 if word == "+" else -1
-            else:
-                total += sign * (int(word) if word.isdigit() else self.worths[word])
-        return total
-
-    def holds(self, words):
-        wanted = words[0] != "not"
-        one, sign, other = words if wanted else words[1:]
-        one, other = self.sum([one]), self.sum([other])
-        return {"<": one < other, "<=": one <= other, "is": one == other}[sign] == wanted
-
-    def block_end(self, at):
-        """Where the else or end of a block stands."""
-        depth = 0
-        while True:
-            at += 1
-            word = self.lines[at].split(" ")[0]
-            if depth == 0 and word in ("else", "end"):
-                return at
-            depth += 1 if word in ("if", "while") else -1 if word == "end" else 0
 
     def place(self, words):
         place = self.sum(words)
@@ -76,11 +52,8 @@ class Replay:
             if words[0] == "quit":
                 return True
             if words[0] == "if":
-                side = all(self.holds(part.split(" ")) for part in " ".join(words[1:]).split(" and "))
-                middle = last = self.block_end(at)
-                if self.lines[middle] == "else":
-                    last = self.block_end(middle)
-                if self.play(*((at + 1, middle) if side else (min(middle + 1, last), last))):
+                first, behind, last = self.side_of(at)
+                if self.play(first, behind):
                     return True
                 at = last
             elif words[0] == "while":

@@ -1,5 +1,6 @@
 """Slab codes for tests: right ones, codes with slips, and a second way to play them on a page."""
 
+from replaying import Lines
 from tagblocks.errors import BlockError
 from tagblocks.slabcodes import SlabCode
 
@@ -29,13 +30,14 @@ class Beyond(Exception):
     """A play that is beyond."""
 
 
-class Replay:
-    """A play: lines are read again each time; a page is (many, maps, set of bits)."""
+class Replay(Lines):
+    """A play of a slab code, on a page with some bits set and so many map words."""
 
     def __init__(self, rules, code, handed, bits=(), maps=0):
-        self.rules, self.lines = rules, code.text.split("\n") if code.text else []
-        self.worths = {"head": rules.head, "each": rules.each, "wide": rules.wide, "a": 0, "b": 0, "c": 0, "word": 0, "bit": 0,
+        self.rules = rules
+        worths = {"head": rules.head, "each": rules.each, "wide": rules.wide, "a": 0, "b": 0, "c": 0, "word": 0, "bit": 0,
                        "number": 0, "at": 0, "maps": 0, "many": 0, **handed}
+        super().__init__(code.text, worths)
         self.bits, self.maps = set(bits), maps
         self.is_listed, self.is_dropped = len(self.bits) < self.worths["many"], False
         self.found, self.number, self.is_clean = None, None, True
@@ -49,36 +51,13 @@ class Replay:
         if not held:
             raise Beyond
 
-    def sum(self, words):
-        total, sign = 0, 1
-        for word in words:
-            if word in ("+", "-"):
-                sign = 1 if word == "+" else -1
-            else:
-                total += sign * (int(word) if word.isdigit() else self.worths[word])
-        return total
-
     def bit(self):
         word, bit = self.worths["word"], self.worths["bit"]
         self.need(word < self.maps and bit < self.rules.wide)
         return word * self.rules.wide + bit
 
     def holds(self, words):
-        if words[0] == "not":
-            return not self.holds(words[1:])
-        if words == ["is", "set"]:
-            return self.bit() in self.bits
-        one, other = self.sum(words[:1]), self.sum(words[2:])
-        return {"<": one < other, "<=": one <= other, "is": one == other}[words[1]]
-
-    def block_end(self, at):
-        depth = 0
-        while True:
-            at += 1
-            word = self.lines[at].split(" ")[0]
-            if depth == 0 and word in ("else", "end"):
-                return at
-            depth += 1 if word == "if" else -1 if word == "end" else 0
+        return self.bit() in self.bits if words == ["is", "set"] else super().holds(words)
 
     def play(self, at, end):
         while at < end:
@@ -86,11 +65,8 @@ class Replay:
             if words[0] in ("quit", "no"):
                 return words[0]
             if words[0] == "if":
-                side = all(self.holds(part.split(" ")) for part in " ".join(words[1:]).split(" and "))
-                middle = last = self.block_end(at)
-                if self.lines[middle] == "else":
-                    last = self.block_end(middle)
-                told = self.play(*((at + 1, middle) if side else (min(middle + 1, last), last)))
+                first, behind, last = self.side_of(at)
+                told = self.play(first, behind)
                 if told:
                     return told
                 at = last
