@@ -3,22 +3,8 @@
 from tagblocks.mapmachine import roof_of, start_machine, word_masks, worth_of_masks
 
 MAP_PROMISES = ("inside", "true", "least", "kept")
-
-
-def ended_plays(maps, kind, number):
-    """All plays of the code of a kind for a bin: each for all bits of which something is known."""
-    bit = 1 << number
-    zeros, ones = (bit if kind == "mark" else 0), (bit if kind == "clear" else 0)
-    waiting = [start_machine(maps, kind, number, zeros, ones)]
-    ended = []
-    while waiting:
-        machine = waiting.pop()
-        machine.advance()
-        if machine.choices is None:
-            ended.append(machine)
-        else:
-            waiting.extend([machine.branch(known) for known in machine.choices])
-    return ended
+# The kinds of codes that can break a promise.
+KINDS_FOR = {"inside": ("find", "mark", "clear"), "true": ("find",), "least": ("find",), "kept": ("mark", "clear")}
 
 
 def breaches_of(machine, kind, number):
@@ -70,40 +56,54 @@ def parting(known, one, other):
     return None
 
 
-class MapFindings:
-    """For each kind and bin the promises that some play breaks, with words that show it; plays are made once."""
+class Explored:
+    """The plays of the code of a kind for a bin, looked at one by one, and the promises that those seen so far break.
 
-    def __init__(self, maps):
-        self.maps = maps
-        self.shown = {}
+    Each play is one for all bits of which something is known; it waits where it has to know more. words has for each
+    broken promise words that show it.
+    """
 
-    def breach_at(self, promise, number):
-        """The kind and the words with which a promise is broken at a bin, or None."""
-        kinds = ("find", "mark", "clear")
-        if promise in ("true", "least"):
-            kinds = ("find",)
-        elif promise == "kept":
-            kinds = ("mark", "clear")
-        for kind in kinds:
-            found = self.play_all(kind, number)
-            if promise in found:
-                return (kind, found[promise])
-        return None
+    def __init__(self, maps, kind, number):
+        bit = 1 << number
+        self.rules = maps.rules
+        self.kind = kind
+        self.number = number
+        self.words = {}
+        self.waiting = [start_machine(maps, kind, number, bit if kind == "mark" else 0, bit if kind == "clear" else 0)]
 
-    def play_all(self, kind, number):
-        """For each promise that plays of a kind break at a bin the words that show it."""
-        if (kind, number) not in self.shown:
-            found = {}
-            for machine in ended_plays(self.maps, kind, number):
-                for promise, known in breaches_of(machine, kind, number):
-                    found.setdefault(promise, self.words_where(known))
-            self.shown[(kind, number)] = found
-        return self.shown[(kind, number)]
+    def words_for(self, promise):
+        """Words that show that a promise is broken, or None if no play breaks it."""
+        while promise not in self.words and self.waiting:
+            machine = self.waiting.pop()
+            machine.advance()
+            if machine.choices is not None:
+                self.waiting.extend([machine.branch(known) for known in machine.choices])
+            else:
+                for broken, known in breaches_of(machine, self.kind, self.number):
+                    self.words.setdefault(broken, self.words_where(known))
+        return self.words.get(promise)
 
     def words_where(self, known):
         """Words for which all holds that is known: all bins are set that can be."""
-        rules = self.maps.rules
-        return tuple([worth_of_masks(word_masks(rules, at), ~known.zeros) for at in range(rules.words)])
+        return tuple([worth_of_masks(word_masks(self.rules, at), ~known.zeros) for at in range(self.rules.words)])
+
+
+class MapFindings:
+    """What was found of maps so far, for each kind and bin."""
+
+    def __init__(self, maps):
+        self.maps = maps
+        self.explored = {}
+
+    def breach_at(self, promise, number):
+        """The first kind with which a promise is broken at a bin, and words that show it; or None."""
+        for kind in KINDS_FOR[promise]:
+            if (kind, number) not in self.explored:
+                self.explored[(kind, number)] = Explored(self.maps, kind, number)
+            words = self.explored[(kind, number)].words_for(promise)
+            if words is not None:
+                return (kind, words)
+        return None
 
 
 def map_findings_of(maps):
