@@ -6,6 +6,7 @@ all others, counts as set always. So what a play can learn is that all bins of a
 
 from tagblocks.headrules import is_between
 from tagblocks.runs import compared_plainly, plain_sum, test_holds
+from tagblocks.texts import names_in
 
 
 class Knowledge:
@@ -75,10 +76,22 @@ def start_machine(maps, kind, number, zeros, ones):
     return machine
 
 
+def names_read(step):
+    """The names of numbers that a step reads."""
+    if step[0] == "if":
+        return [side for _, part in step[1] if part[0] != "empty" for side in part[1:] if isinstance(side, str)]
+    if step[0] in ("set", "times", "divided", "rest"):
+        return names_in(step[2])
+    if step[0] in ("word", "write word", "from", "with", "without", "tell"):
+        return [step[-1]] if isinstance(step[-1], str) else []
+    return []
+
+
 class MapMachine:
     """A play of a map code. choices is None, or has what can be known where a play waits for an answer.
 
-    ended is "done" while the play goes on.
+    ended is "done" while the play goes on. A register that is the first bit of a pattern is not worked out before it
+    is read: firsts has the pattern, which surely is not empty.
     """
 
     def __init__(self, code, rules, known, words, roof):
@@ -92,6 +105,7 @@ class MapMachine:
         self.told = None
         self.choices = None
         self.worths = {"bin": 0, "a": 0, "b": 0, "c": 0}
+        self.firsts = {}
         self.patterns = {"p": (0,) * rules.wide, "q": (0,) * rules.wide}
 
     def branch(self, known):
@@ -99,6 +113,7 @@ class MapMachine:
         other = MapMachine(self.code, self.rules, known, self.words, self.roof)
         other.line = self.line
         other.worths = dict(self.worths)
+        other.firsts = dict(self.firsts)
         other.patterns = dict(self.patterns)
         return other
 
@@ -107,6 +122,8 @@ class MapMachine:
         outline = self.code.outline
         while self.line <= outline.many_lines() and self.ended == "done":
             step = outline.step_at(self.line)
+            if not self.work_out(names_read(step)):
+                return
             if step[0] == "else":
                 self.line = outline.target_at(self.line)
             elif step[0] == "if":
@@ -135,6 +152,21 @@ class MapMachine:
         elif self.code.kind == "find":
             self.ended = "beyond"
 
+    def work_out(self, names):
+        """Works out the first bits that some names stand for; whether the play does not wait for one."""
+        for name in names:
+            if name in self.firsts:
+                first = self.first_of(self.firsts[name])
+                if first is None:
+                    return False
+                self.set_name(name, first)
+        return True
+
+    def set_name(self, name, worth):
+        """Sets a register."""
+        self.worths[name] = worth
+        self.firsts.pop(name, None)
+
     def worth_of(self, term):
         """The number that a name or number stands for."""
         return self.worths[term] if isinstance(term, str) else term
@@ -148,8 +180,12 @@ class MapMachine:
         """Whether a part of a test holds; None if the play waits for that."""
         if part[0] != "empty":
             return compared_plainly(part, self.worths)
+        return self.is_empty(self.patterns[part[1]])
+
+    def is_empty(self, masks):
+        """Whether a pattern is empty; None if the play waits for that."""
         whole = 0
-        for mask in self.patterns[part[1]]:
+        for mask in masks:
             whole = whole | mask
         if self.known.is_zero(whole):
             return True
@@ -159,7 +195,7 @@ class MapMachine:
         return None
 
     def first_of(self, masks):
-        """The number of the least bit of a pattern; None if it is empty, or if the play waits for it."""
+        """The number of the least bit of a pattern that surely is not empty; None if the play waits for it."""
         passed = 0
         answers = []
         for at, mask in enumerate(masks):
@@ -171,20 +207,20 @@ class MapMachine:
                     return at
                 break
             passed = passed | mask
-        if answers:
-            self.offer([*answers, (passed, 0)] if not self.known.is_set(passed | answers[-1][1]) else answers)
+        self.offer(answers)
         return None
 
     def play_step(self, step):
         """Plays a line; whether it was neither beyond nor waits."""
         if step[0] in ("set", "times", "divided", "rest"):
-            self.worths[step[1]] = self.reckoned(step)
+            self.set_name(step[1], self.reckoned(step))
             return True
         if step[0] == "first":
-            first = self.first_of(self.patterns[step[2]])
-            if first is not None:
-                self.worths[step[1]] = first
-            return first is not None
+            masks = self.patterns[step[2]]
+            if self.is_empty(masks) is not False:
+                return False
+            self.firsts[step[1]] = masks
+            return True
         if step[0] in ("word", "write word"):
             return self.play_word(step)
         if step[0] in ("from", "with", "without"):

@@ -212,6 +212,21 @@ class AllBitsTest(unittest.TestCase):
                       {0: "p with 1\np with 2\na = first p\nif p empty\nnone\nend\ntell a"}):
             self.check(BinMaps(rules, [MapCode(kind, slips.get(at, good[at])) for at, kind in enumerate(KINDS)]))
 
+    def test_five_firsts(self):
+        """A first bit that nothing reads is not worked out: five of them on five words of 16 bits are answered soon."""
+        rules = BinRules(1, 1, 0, 9, 256, 16)
+        good = good_maps(rules)
+        firsts = "\n".join(f"p = word {at}\n{register} = first p" for at, register in enumerate("abcab"))
+        maps = BinMaps(rules, [MapCode("find", firsts + "\ntell b"), MapCode("mark", good[1]), MapCode("clear", good[2])])
+        self.assertEqual(binverdicts.map_kept(maps), ("kept",))
+        self.assertEqual([binverdicts.map_right(maps, promise, 0) for promise in ("inside", "true", "least")], [None, None, 15])
+        kind, words, number = binverdicts.map_case(maps, "true")
+        self.assertIn("true", broken_by(rules, kind, words, number, play_map_again(rules, maps.codes[0], words, number)))
+        small = BinRules(1, 1, 0, 9, 5, 2)
+        for told in ("a", "b", "c", "bin"):
+            code = MapCode("find", firsts.replace("word 3", "word 0").replace("word 4", "word 1") + f"\na = a * 2 + b\ntell {told}")
+            self.check(BinMaps(small, [code] + [MapCode(kind, text) for kind, text in zip(KINDS[1:], good_maps(small)[1:])]))
+
     def test_greatest_map(self):
         rules = BinRules(1, 1, 0, 9, 256, 16)
         good = good_maps(rules)
