@@ -222,7 +222,7 @@ class AllBitsTest(unittest.TestCase):
         self.assertEqual([binverdicts.map_right(maps, promise, 0) for promise in ("inside", "true", "least")], [None, None, 15])
         kind, words, number = binverdicts.map_case(maps, "true")
         self.assertIn("true", broken_by(rules, kind, words, number, play_map_again(rules, maps.codes[0], words, number)))
-        small = BinRules(1, 1, 0, 9, 5, 2)
+        small = BinRules(1, 1, 0, 9, 8, 3)
         for told in ("a", "b", "c", "bin"):
             code = MapCode("find", firsts.replace("word 3", "word 0").replace("word 4", "word 1") + f"\na = a * 2 + b\ntell {told}")
             self.check(BinMaps(small, [code] + [MapCode(kind, text) for kind, text in zip(KINDS[1:], good_maps(small)[1:])]))
