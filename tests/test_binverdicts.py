@@ -224,7 +224,7 @@ class AllBitsTest(unittest.TestCase):
         self.assertIn("true", broken_by(rules, kind, words, number, play_map_again(rules, maps.codes[0], words, number)))
         small = BinRules(1, 1, 0, 9, 8, 3)
         for told in ("a", "b", "c", "bin"):
-            code = MapCode("find", firsts.replace("word 3", "word 0").replace("word 4", "word 1") + f"\na = a * 2 + b\ntell {told}")
+            code = MapCode("find", firsts.replace("word 3", "word 0").replace("word 4", "word 1") + f"\na = a + b * 2\ntell {told}")
             self.check(BinMaps(small, [code] + [MapCode(kind, text) for kind, text in zip(KINDS[1:], good_maps(small)[1:])]))
 
     def test_greatest_map(self):
