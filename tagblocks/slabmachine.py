@@ -49,7 +49,8 @@ class SlabMachine:
 
     def __init__(self, rules, worths, page):
         self.rules = rules
-        self.worths = {**fixed_worths(rules), **worths}
+        self.worths = fixed_worths(rules)
+        self.worths.update(worths)
         self.page = page
         self.has_found = False
         self.has_number = False
@@ -89,8 +90,9 @@ class SlabMachine:
         if worth > self.rules.top:
             return False
         self.worths[step[1]] = worth
-        if step[1] == "used" and self.page is not None:
-            self.page.used = worth
+        if step[1] == "used":
+            page = self.page
+            page.used = worth
         self.has_number = self.has_number or step[1] == "number"
         return True
 
@@ -113,15 +115,16 @@ class SlabMachine:
             return True
         if bit is None or bit not in self.page.marked:
             return False
-        del self.page.marked[bit]
+        self.page.marked.pop(bit)
         return True
 
     def play_flag(self, word):
         """Plays list, unlist or drop; whether the page is not so already."""
-        flags = flags_behind(word, self.page.is_listed, self.page.is_dropped)
+        page = self.page
+        flags = flags_behind(word, page.is_listed, page.is_dropped)
         if flags is None:
             return False
-        self.page.is_listed, self.page.is_dropped = flags
+        page.is_listed, page.is_dropped = flags
         return True
 
 
