@@ -44,7 +44,7 @@ class Findings:
             stretches = []
             for broken, rows in self.ways:
                 if [promise for promise in promises if promise in broken]:
-                    stretches = stretches + stretches_of(rows, OPEN_NAMES["own"], None)
+                    stretches = stretches + stretches_of(rows, OPEN_NAMES["own"])
             self.sets[promises] = StretchSet(stretches)
         return self.sets[promises]
 
@@ -93,7 +93,7 @@ def worths_of(rows, sort):
     """For each open number of a sort some number of units with which rows hold."""
     worths = {}
     for name in sort.open_names():
-        worth = min([low for low, _, _ in stretches_of(rows, OPEN_NAMES[name], None)])
+        worth = min([low for low, _, _ in stretches_of(rows, OPEN_NAMES[name])])
         rows = rows + level({0: -worth, OPEN_NAMES[name]: 1})
         worths[name] = worth
     return worths

@@ -66,7 +66,7 @@ class MoveFindings:
             stretches = []
             for promise in promises:
                 for rows in self.rows_for(promise):
-                    stretches = stretches + stretches_of(rows, UNITS, None)
+                    stretches = stretches + stretches_of(rows, UNITS)
             self.sets[promises] = ClassSet(stretches)
         return self.sets[promises]
 

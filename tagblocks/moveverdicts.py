@@ -81,7 +81,7 @@ def gap_from(code, promise, length, form):
     for whole in broken_rows(judges, promise):
         name = max([one for row in whole for one in row]) + 1
         told = level(plus({0: 0, name: 1}, -1, form))
-        found = found + [low for low, _, _ in stretches_of([*whole, *told, {0: 0, name: 1}], name, None)]
+        found = found + [low for low, _, _ in stretches_of([*whole, *told, {0: 0, name: 1}], name)]
     return min(found) if found else None
 
 

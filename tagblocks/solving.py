@@ -1,5 +1,6 @@
 """Solving systems: which numbers a name can have, as a list of stretches, and whether rows can hold at all."""
 
+from tagblocks.bitsolving import bits_can_hold
 from tagblocks.forms import level, shifted
 from tagblocks.reducing import ranges_of, reduced
 from tagblocks.settling import range_of, settled
@@ -10,6 +11,8 @@ from tagblocks.systems import System, level_in, levelled, table_of
 FEW_SLICES = 6
 # A range of more numbers than these is halved, not tried number by number.
 MANY_NUMBERS = 32
+# With so many systems in the place of one, names are parted into bits.
+MANY_SYSTEMS = 100
 # Splinters are taken only if there are no more than these.
 MANY_SPLINTERS = 4096
 
@@ -113,18 +116,13 @@ def smaller(system):
     return hard.by_splinters()
 
 
-def stretches_of(rows, kept, most):
-    """The stretches of numbers that a name has where all rows hold; no more than most of them, if that is not None.
-
-    The rows tell a least number for the name; 0 for no name gives one stretch if the rows can hold.
-    """
+def stretches_of(rows, kept):
+    """The stretches of numbers that a name has where all rows hold; the rows tell a least number for the name."""
     found = []
     waiting = [System(table_of(rows), kept, 0, 1, False)]
-    while waiting and (most is None or len(found) < most):
+    while waiting:
         system = waiting.pop()
-        if system.table is None:
-            continue
-        parts = smaller(system)
+        parts = smaller(system) if system.table is not None else []
         if parts is None:
             found.append(system.stretch())
         else:
@@ -132,9 +130,30 @@ def stretches_of(rows, kept, most):
     return found
 
 
+def can_hold_by_parts(table, most):
+    """Whether the rows of a table can hold; None if that is open when so many systems were parted (None for no end)."""
+    waiting = [System(table, 0, 0, 1, False)]
+    many = 0
+    while waiting:
+        system = waiting.pop()
+        parts = smaller(system) if system.table is not None else []
+        if parts is None:
+            return True
+        waiting.extend(parts)
+        many += 1
+        if many == most:
+            return None
+    return False
+
+
 def can_hold(rows):
     """Whether there are whole numbers for which all rows hold."""
-    return len(stretches_of(rows, 0, 1)) > 0
+    table = table_of(rows)
+    held = can_hold_by_parts(table, MANY_SYSTEMS)
+    # Few systems are hard for one of the two ways, and hardly any for both.
+    if held is None:
+        held = bits_can_hold(table)
+    return can_hold_by_parts(table, None) if held is None else held
 
 
 class Solved:

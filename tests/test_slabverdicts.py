@@ -211,6 +211,19 @@ class OneByOneTest(unittest.TestCase):
         self.assertEqual(slabverdicts.slab_wrong(right, 0), 2 ** 27 + 2)
 
 
+class HardCodesTest(unittest.TestCase):
+    def test_code_of_chance(self):
+        """Whether rows can hold is not told by parts here within minutes; their bits tell it."""
+        text = ("b = at + 135 << 13\nb = at + b & 131071\nnumber = number\nword = many - b mod each\nbit = number // 17\nif not is set\n"
+                "if many is head\nno\nend\nclear\nend\nused = used - 1")
+        rules, code = SlabRules(64, 4096, 100), SlabCode("back", text)
+        many, used, at = slabverdicts.slab_case(rules, code, "number")
+        self.assertEqual((many, used, at), (208, 2, 8200))
+        place = (at - 4096 - -(-many // 64)) // 100
+        pairs = [tuple(sorted((place, other))) for other in range(many) if other != place]
+        self.assertTrue(any("number" in back_breaks(rules, code, many, pair, at) for pair in pairs))
+
+
 class ErrorsTest(unittest.TestCase):
     def test_errors(self):
         rules = SlabRules(4, 2, 3)

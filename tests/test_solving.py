@@ -4,8 +4,10 @@ import itertools
 import random
 import unittest
 
-from tagblocks.solving import can_hold, stretches_of
+from tagblocks.bitsolving import bits_can_hold
+from tagblocks.solving import can_hold, can_hold_by_parts, stretches_of
 from tagblocks.stretchsets import StretchSet
+from tagblocks.systems import table_of
 
 
 def ranges(many, top):
@@ -48,7 +50,7 @@ class SystemsTest(unittest.TestCase):
             many, top = chance.choice([(1, 12), (2, 12), (3, 6)])
             rows = system_of_chance(chance, many, top, 20, chance.choice([2, 5, 16]))
             found = set()
-            for low, high, step in stretches_of(rows, 1, None):
+            for low, high, step in stretches_of(rows, 1):
                 found |= set(range(low, high + 1, step))
             self.assertEqual(found, {numbers[0] for numbers in solutions(rows, many, top)}, rows)
 
@@ -59,9 +61,24 @@ class SystemsTest(unittest.TestCase):
             rows = system_of_chance(chance, many, top, 200, chance.choice([9, 60, 300]))
             self.assertEqual(can_hold(rows), next(solutions(rows, many, top), None) is not None, rows)
 
+    def test_both_ways_to_decide(self):
+        """By parts as far as it takes, and by the bits of the names, told the same."""
+        chance = random.Random(15)
+        for _ in range(300):
+            many, top = chance.choice([(2, 30), (3, 8)])
+            rows = system_of_chance(chance, many, top, 200, chance.choice([9, 60, 300]))
+            rows = rows + [{0: 3, 1: 1, many + 1: -4}, {0: 0, 1: -1, many + 1: 4}] if chance.random() < 0.5 else rows
+            held = next((one for one in solutions([row for row in rows if many + 1 not in row], many, top)), None) is not None
+            table = table_of(rows)
+            self.assertEqual(can_hold_by_parts(table, None), held, rows)
+            self.assertIn(can_hold_by_parts(table, 1), (held, None))
+            if table is not None:
+                self.assertEqual(bits_can_hold(table), held, rows)
+        self.assertIsNone(bits_can_hold(table_of([{0: 0, 1: 1}, {0: 0, 1: 2, 2: -3}])))
+
     def test_numbers_without_end(self):
         rows = [{0: -4, 1: 1}, {0: -4, 2: 1}, {0: 1, 1: 3, 2: -2}, {0: -1, 1: -3, 2: 2}]
-        self.assertEqual(stretches_of(rows, 1, None), [(5, None, 2)])
+        self.assertEqual(stretches_of(rows, 1), [(5, None, 2)])
         self.assertTrue(can_hold(rows))
         self.assertFalse(can_hold([*rows, {0: 0, 1: 2, 2: -2}]))
 
