@@ -119,8 +119,10 @@ class Replay(Lines):
 class MoveChance:
     """Codes of chance, made by slips in right ones."""
 
-    def __init__(self, random):
+    def __init__(self, random, steps="1248", rules=((1, 0), (1, 0), (2, 0), (2, 1), (4, 1), (16, 8), (3, 2))):
         self.random = random
+        self.steps = steps
+        self.rules = rules
 
     def sum(self):
         terms = []
@@ -138,9 +140,9 @@ class MoveChance:
     def line(self):
         word = f"w{self.random.randint(1, 3)}"
         return self.random.choice([
-            f"{word} = from {self.sum()}", f"to {self.sum()} = {word}", f"a = a {self.random.choice('+-')} {self.random.choice('1248')}",
-            f"b = b {self.random.choice('+-')} {self.random.choice('1248')}", f"{self.random.choice('abd')} = {self.sum()}",
-            f"{self.random.choice('abd')} = {self.sum()} // {self.random.choice('248')}", "quit"])
+            f"{word} = from {self.sum()}", f"to {self.sum()} = {word}", f"a = a {self.random.choice('+-')} {self.random.choice(self.steps)}",
+            f"b = b {self.random.choice('+-')} {self.random.choice(self.steps)}", f"{self.random.choice('abd')} = {self.sum()}",
+            f"{self.random.choice('abd')} = {self.sum()} // {self.random.choice(self.steps[1:])}", "quit"])
 
     def changed(self, lines):
         at, sort = self.random.randrange(len(lines)), self.random.random()
@@ -160,7 +162,7 @@ class MoveChance:
             places = [k for k, word in enumerate(words) if word.isdigit() or word in ("a", "b", "len", "<", "<=")]
             if places:
                 k = self.random.choice(places)
-                words[k] = (self.random.choice(["0", "1", "2", "4", "len"]) if words[k].isdigit() else
+                words[k] = (self.random.choice(["0", *self.steps[:3], "len"]) if words[k].isdigit() else
                             {"<": "<=", "<=": "<"}.get(words[k]) or self.random.choice(["a", "b", "len", "1", "gap"]))
                 lines[at] = " ".join(words)
 
@@ -170,7 +172,7 @@ class MoveChance:
             lines = text.split("\n")
             for _ in range(self.random.choice(range(most + 1))):
                 self.changed(lines)
-            rules = MoveRules(*self.random.choice([(1, 0), (1, 0), (2, 0), (2, 1), (4, 1), (16, 8), (3, 2)]))
+            rules = MoveRules(*self.random.choice(self.rules))
             if self.random.random() < 0.3:
                 kind = self.random.choice(["any", "down", "up", "apart"])
             try:

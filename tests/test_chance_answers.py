@@ -11,7 +11,7 @@ from tagblocks.headcodes import HeadCode
 from tagblocks.headrules import HeadRules
 from tagblocks.heads import Heads, Rounding
 
-SECONDS = 60
+SECONDS = 120
 RULES = HeadRules(8, 32, 8, 64, 64)
 PROMISES = ("even", "enough", "tight", "full")
 

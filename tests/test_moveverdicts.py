@@ -81,6 +81,11 @@ class AllLengthsTest(unittest.TestCase):
         for _ in range(90):
             self.check(chance.code(4), chance.random)
 
+    def test_steps_by_three_and_six(self):
+        chance = MoveChance(random.Random(38), "136", ((1, 0), (3, 0), (3, 1), (6, 5), (12, 8)))
+        for _ in range(40):
+            self.check(chance.code(4), chance.random)
+
 
 class OneByOneTest(unittest.TestCase):
     """Each promise alone, broken by one slip."""
