@@ -65,25 +65,18 @@ def ask_floor(bins, number):
     return told[0] if told else None
 
 
-def first_bin(maps, promise, number, is_broken):
-    """The least bin from one on at which maps break a promise, or do not; or None."""
-    check_promise(promise, MAP_PROMISES)
-    check_number(number)
-    found = map_findings_of(maps)
-    for one in range(number, maps.rules.bins):
-        if (found.breach_at(promise, one) is not None) == is_broken:
-            return one
-    return None
-
-
 def map_wrong(maps, promise, number):
     """The least bin from one on at which maps break a promise, or None."""
-    return first_bin(maps, promise, number, True)
+    check_promise(promise, MAP_PROMISES)
+    check_number(number)
+    return map_findings_of(maps).least_from(promise, number)
 
 
 def map_right(maps, promise, number):
     """The least bin from one on at which maps do not break a promise, or None."""
-    return first_bin(maps, promise, number, False)
+    check_promise(promise, MAP_PROMISES)
+    check_number(number)
+    return map_findings_of(maps).least_right(promise, number)
 
 
 def map_keeps(maps, promise):

@@ -24,6 +24,15 @@ class HeadAsked:
         return None if low is None else least_of(self.words, self.bits, goal, low, self.rules.last_size())
 
 
+def least_told(numbers):
+    """The least one of some numbers, of which some may be None; None if all are.
+
+    Each promise is asked about by itself: what breaks one of them is found, or seen to be nowhere, much sooner than
+    what breaks any of them.
+    """
+    return min([number for number in numbers if number is not None], default=None)
+
+
 def head_break(heads, promise, size):
     """The least size in use from one on at which heads break a promise with some flags, or None."""
     check_promise(promise, HEAD_PROMISES)
@@ -45,8 +54,7 @@ def head_kept(heads):
 def head_wrong(heads, size):
     """The least size in use from one on at which heads are not right, or None."""
     check_number(size)
-    asked = HeadAsked(heads)
-    return asked.least_size(asked.goals.wrong(), size)
+    return least_told([head_break(heads, promise, size) for promise in HEAD_PROMISES])
 
 
 def head_right(heads, size):
@@ -107,8 +115,7 @@ def round_kept(rounding):
 def round_wrong(rounding, n):
     """The least length from one on at which a rounding is not right, or None."""
     check_number(n)
-    asked = RoundAsked(rounding)
-    return asked.least_length(asked.round_goals().wrong(), n)
+    return least_told([round_break(rounding, promise, n) for promise in ROUND_PROMISES])
 
 
 def round_right(rounding, n):

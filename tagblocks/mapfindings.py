@@ -1,10 +1,13 @@
 """What is found of maps: for each bin the promises that are broken for some bits, and bits that show it."""
 
+from tagblocks.mapquestions import MapGoals
 from tagblocks.mapmachine import roof_of, start_machine, word_masks, worth_of_masks
 
 MAP_PROMISES = ("inside", "true", "least", "kept")
 # The kinds of codes that can break a promise.
 KINDS_FOR = {"inside": ("find", "mark", "clear"), "true": ("find",), "least": ("find",), "kept": ("mark", "clear")}
+# So many plays of a kind are looked at one by one; where there are more, all are put into one circuit.
+MOST_PLAYS = 100000
 
 
 def breaches_of(machine, kind, number):
@@ -71,17 +74,23 @@ class Explored:
         self.words = {}
         self.waiting = [start_machine(maps, kind, number, bit if kind == "mark" else 0, bit if kind == "clear" else 0)]
 
-    def words_for(self, promise):
-        """Words that show that a promise is broken, or None if no play breaks it."""
-        while promise not in self.words and self.waiting:
+    def look_for(self, promise, most):
+        """Looks at plays until one breaks a promise, or so many were looked at; how many were."""
+        many = 0
+        while promise not in self.words and self.waiting and many < most:
             machine = self.waiting.pop()
             machine.advance()
+            many += 1
             if machine.choices is not None:
                 self.waiting.extend([machine.branch(known) for known in machine.choices])
             else:
                 for broken, known in breaches_of(machine, self.kind, self.number):
                     self.words.setdefault(broken, self.words_where(known))
-        return self.words.get(promise)
+        return many
+
+    def is_open(self, promise):
+        """Whether it is open if some play breaks a promise."""
+        return promise not in self.words and len(self.waiting) > 0
 
     def words_where(self, known):
         """Words for which all holds that is known: all bins are set that can be."""
@@ -89,20 +98,53 @@ class Explored:
 
 
 class MapFindings:
-    """What was found of maps so far, for each kind and bin."""
+    """What was found of maps so far, for each kind and bin; goals has the circuits of kinds with very many plays."""
 
     def __init__(self, maps):
         self.maps = maps
         self.explored = {}
+        self.left = {kind: MOST_PLAYS for kind in KINDS_FOR["inside"]}
+        self.goals = {}
+
+    def words_at(self, kind, promise, number):
+        """Words that show that the code of a kind breaks a promise at a bin, or None."""
+        if kind not in self.goals:
+            if (kind, number) not in self.explored:
+                self.explored[(kind, number)] = Explored(self.maps, kind, number)
+            found = self.explored[(kind, number)]
+            self.left[kind] -= found.look_for(promise, self.left[kind])
+            if not found.is_open(promise):
+                return found.words.get(promise)
+            self.goals[kind] = MapGoals(self.maps, kind)
+        return self.goals[kind].words_at(promise, number)
 
     def breach_at(self, promise, number):
         """The first kind with which a promise is broken at a bin, and words that show it; or None."""
         for kind in KINDS_FOR[promise]:
-            if (kind, number) not in self.explored:
-                self.explored[(kind, number)] = Explored(self.maps, kind, number)
-            words = self.explored[(kind, number)].words_for(promise)
+            words = self.words_at(kind, promise, number)
             if words is not None:
                 return (kind, words)
+        return None
+
+    def least_from(self, promise, number):
+        """The least bin from one on at which a promise is broken, or None."""
+        least = [self.least_for_kind(kind, promise, number) for kind in KINDS_FOR[promise]]
+        return min([one for one in least if one is not None], default=None)
+
+    def least_for_kind(self, kind, promise, number):
+        """The least bin from one on at which the code of a kind breaks a promise, or None."""
+        for one in range(number, self.maps.rules.bins):
+            if kind in self.goals:
+                return self.goals[kind].least_from(promise, one)
+            if self.words_at(kind, promise, one) is not None:
+                return one
+        return None
+
+    def least_right(self, promise, number):
+        """The least bin from one on at which a promise is not broken, or None."""
+        for one in range(number, self.maps.rules.bins):
+            if self.breach_at(promise, one) is None:
+                return one
         return None
 
 

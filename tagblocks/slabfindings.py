@@ -89,9 +89,9 @@ class SlabFindings:
 
 def handed_form(judge):
     """What is handed to a play, and rows that tell of it: the address, or the number of the least bit not set."""
-    if judge.sort.kind == "back":
+    if judge.page_sort.kind == "back":
         return {0: 0, AT: 1}, []
-    if judge.sort.is_full:
+    if judge.page_sort.is_full:
         return {0: 0, MANY: 1}, []
     if judge.machine.found is not None:
         return judge.machine.found, []

@@ -53,7 +53,7 @@ class PageJudge:
 
     def __init__(self, machine, ended):
         self.machine = machine
-        self.sort = machine.sort
+        self.page_sort = machine.page_sort
         self.rules = machine.rules
         self.numbers = machine.numbers
         self.ended = ended
@@ -61,14 +61,14 @@ class PageJudge:
     def breaches_of(self, promise):
         """Lists of rows with one of which a promise is broken."""
         if promise == "inside":
-            is_asked = self.sort.is_owing or self.sort.kind == "take"
+            is_asked = self.page_sort.is_owing or self.page_sort.kind == "take"
             return [[]] if is_asked and self.ended == "beyond" else []
         if promise in ("odd", "twice"):
-            is_asked = not self.sort.is_owing and (self.sort.where == "place") == (promise == "twice")
+            is_asked = not self.page_sort.is_owing and (self.page_sort.where == "place") == (promise == "twice")
             return [[]] if is_asked and not self.is_plain_no() else []
         if promise == "full":
             return self.unfit_ends()
-        if not self.sort.is_owing or self.ended != "done":
+        if not self.page_sort.is_owing or self.ended != "done":
             return []
         if promise == "number":
             return self.wrong_numbers()
@@ -80,14 +80,14 @@ class PageJudge:
 
     def unfit_ends(self):
         """Where a play is refused that should not be, or, of take, the other way."""
-        if self.sort.is_owing:
+        if self.page_sort.is_owing:
             return [[]] if self.ended == "refused" else []
-        is_asked = self.sort.kind == "take" and self.ended != "beyond"
+        is_asked = self.page_sort.kind == "take" and self.ended != "beyond"
         return [[]] if is_asked and not self.is_plain_no() else []
 
     def place(self):
         """The place that is lent or brought back; None if take did not look for one."""
-        return {0: 0, PLACE: 1} if self.sort.kind == "back" else self.machine.found
+        return {0: 0, PLACE: 1} if self.page_sort.kind == "back" else self.machine.found
 
     def wrong_numbers(self):
         """Where number is not set to that of the place."""
@@ -102,17 +102,17 @@ class PageJudge:
         right = level(plus(self.machine.number_set, -1, self.place()))
         if not self.machine.has_marked:
             return [right]
-        if self.sort.kind == "back":
+        if self.page_sort.kind == "back":
             ways = unlike(self.machine.asked, self.place())
         else:
-            first = plus(self.sort.base(), self.rules.each, self.place())
+            first = plus(self.page_sort.base(), self.rules.each, self.place())
             ways = unlike(self.machine.worths["at"], first)
         return [[*right, *way] for way in ways]
 
     def wrong_counts(self):
         """Where used, or whether the page is listed or dropped, is not left as owed."""
         used = {0: 0, USED: 1}
-        if self.sort.kind == "take":
+        if self.page_sort.kind == "take":
             behind = shifted(used, 1)
             rest = plus({0: 0, MANY: 1}, -1, behind)
             ends = [(level(rest), (False, False)), ([shifted(rest, -1)], (True, False))]

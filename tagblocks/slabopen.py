@@ -14,7 +14,7 @@ class OpenSlab:
     """
 
     def __init__(self, sort, numbers):
-        self.sort = sort
+        self.page_sort = sort
         self.rules = sort.rules
         self.numbers = numbers
         self.worths = {name: plain(worth) for name, worth in fixed_worths(sort.rules).items()}
@@ -63,7 +63,7 @@ class OpenSlab:
         self.worths[step[1]] = form
         if step[1] == "used":
             self.has_changed = True
-        elif step[1] == "number" and (self.sort.kind == "back" or self.found is not None):
+        elif step[1] == "number" and (self.page_sort.kind == "back" or self.found is not None):
             self.number_set = form
         return True
 
@@ -74,7 +74,7 @@ class OpenSlab:
     def play_find(self):
         """Plays find: the least bit that is not set; whether there is one."""
         bits = plus(plain(0), self.rules.wide, {0: 0, MAPS: 1})
-        if self.sort.is_full:
+        if self.page_sort.is_full:
             if not self.numbers.below({0: 0, MANY: 1}, bits):
                 return False
             self.found = {0: 0, MANY: 1}
@@ -120,9 +120,9 @@ class OpenSlab:
         is_place = [shifted(plus(many, -1, bit), -1)]
         unlent = plus(many, -1, used)
         choices = [(False, [plus(bit, -1, many)])]
-        if self.sort.where != "place":
+        if self.page_sort.where != "place":
             return [*choices, (True, [*is_place, shifted(used, -1)]), (False, [*is_place, shifted(unlent, -1)])]
-        owing = self.sort.is_owing
+        owing = self.page_sort.is_owing
         choices.append((owing, level(plus(bit, -1, place))))
         gap = plus(bit, -1, place)
         for unlike in (shifted(gap, -1), shifted(negated(gap), -1)):

@@ -14,6 +14,12 @@ BARRED_WORDS = r"\b(type|typing|enum|Enum|Flag|Generic|Protocol|ABC|namedtuple|m
 METHODS = set("""append clear copy count endswith extend find get index insert isalnum isalpha isdigit islower isspace
     isupper items join keys ljust lower lstrip partition pop remove replace reverse rfind rjust rpartition rsplit rstrip
     setdefault split splitlines startswith strip update upper values zfill bit_length""".split())
+# An attribute may be called like some methods of builtin values (L26), but not so.
+NO_ATTRIBUTES = set("""items keys values pop update append clear extend insert remove reverse setdefault sort args encode
+    decode hex fromhex format format_map mro as_integer_ratio bit_count conjugate from_bytes is_integer to_bytes bit_length
+    real imag numerator denominator""".split())
+FREE_ATTRIBUTES = set("count index title find get join lower upper split strip copy add".split())
+BUILTIN_NAMES = {name for kind in (str, int, list, dict, set, bytes) for name in dir(kind)}
 DUNDERS = {"__init__", "__eq__", "__len__", "__getitem__", "__iter__"}
 NODES = (ast.Try, ast.With, ast.AsyncFunctionDef, ast.Yield, ast.YieldFrom, ast.Lambda, ast.GeneratorExp, ast.Set,
          ast.SetComp, ast.Global, ast.Nonlocal, ast.NamedExpr, ast.Match, ast.Div, ast.JoinedStr, ast.Await,
@@ -140,12 +146,21 @@ class LanguageTest(unittest.TestCase):
                     if "__getitem__" in names:
                         self.assertIn("__iter__", names)
         every = set().union(*attributes.values())
-        self.assertEqual(every & METHODS - {"count", "index"}, set())
+        self.assertEqual(every & (NO_ATTRIBUTES | METHODS | BUILTIN_NAMES) - FREE_ATTRIBUTES, set())
         self.assertEqual(own & METHODS, set())
         for name, tree in trees():
             for node in ast.walk(tree):
                 if isinstance(node, ast.Attribute) and isinstance(node.ctx, ast.Load):
                     self.assertIn(node.attr, own | every | METHODS | {"__init__"}, (name, node.lineno))
+
+    def test_what_is_stored_on_objects(self):
+        """No attribute that is assigned anywhere has a name that attributes may not have."""
+        for name, tree in trees():
+            for node in ast.walk(tree):
+                if isinstance(node, ast.Attribute) and isinstance(node.ctx, (ast.Store, ast.Del)):
+                    self.assertNotIn(node.attr, NO_ATTRIBUTES, (name, node.lineno))
+                if isinstance(node, ast.Attribute) and node.attr == "sort":
+                    self.fail((name, node.lineno))
 
     def test_module_level(self):
         bound = {}
