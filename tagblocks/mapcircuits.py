@@ -1,4 +1,4 @@
-"""Plays of map codes on open bits for an open bin: all ways at once, a choice for each thing that is set on some way."""
+"""Plays of map codes on open bits for an open bin: all ways at once, a choice for what is set on some way."""
 
 from tagblocks.binlines import PATTERNS, REGISTERS
 from tagblocks.circuits import NO, YES

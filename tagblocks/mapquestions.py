@@ -27,14 +27,17 @@ class MapGoals:
     def goal_for(self, promise):
         """Whether a promise is broken."""
         if promise not in self.goals:
-            found = {"inside": self.beyond, "true": self.untrue, "least": self.not_least, "kept": self.not_kept}[promise]
-            self.goals[promise] = found()
+            self.goals[promise] = self.goal_of(promise)
             self.circuit.need(self.goals[promise])
         return self.goals[promise]
 
-    def beyond(self):
-        """Whether the play is beyond."""
-        return self.play.beyond
+    def goal_of(self, promise):
+        """The literal that tells whether a promise is broken."""
+        if promise == "inside":
+            return self.play.beyond
+        if promise == "kept":
+            return self.not_kept()
+        return self.untrue() if promise == "true" else self.not_least()
 
     def set_from_here(self):
         """For each bin whether it is set, and not below the one that is handed."""

@@ -93,6 +93,15 @@ class OpenNumbers:
         # What alone can be says nothing new.
         return self.answer(worth, rows if len(able) > 1 else [])
 
+    def offer(self, answers):
+        """The first one of some answers that can all be; the other ones wait."""
+        if self.is_replayed():
+            return self.replayed()
+        if not self.is_lost:
+            for worth in answers[1:]:
+                self.waiting.append(([*self.trail, worth], self.rows))
+        return self.answer(answers[0], [])
+
     def once(self, sort, form, choices):
         """The choice for a form; what was asked on this way before has the same answer."""
         key = (sort, key_of(form))

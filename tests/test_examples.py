@@ -25,6 +25,9 @@ class ExamplesTest(unittest.TestCase):
     def test_slabs(self):
         self.run_file("slabs.txt")
 
+    def test_deeds(self):
+        self.run_file("deeds.txt")
+
     def test_blocks(self):
         self.run_file("blocks.txt")
 
