@@ -67,7 +67,7 @@ def meeting_faults(held):
 
 
 def lost_faults(memory, pages, owned, starts):
-    """The addresses of used blocks and lent places that nobody has: dicts tell what is owned, and where pieces begin."""
+    """The addresses of used blocks and lent places that nobody has; dicts tell what is owned, where pieces begin."""
     blocks, _ = memory.walk()
     paged = {page.address: True for page in pages}
     found = [address for address, _, is_used in blocks if is_used and address not in owned and address not in paged]

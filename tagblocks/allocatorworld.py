@@ -2,7 +2,6 @@
 
 from tagblocks.binrows import Rows
 from tagblocks.deedmachine import Outcome, is_fitting, known
-from tagblocks.errors import BadSize, Broken
 from tagblocks.forms import plain
 from tagblocks.memory import Memory
 from tagblocks.memoryblocks import play_in_memory
@@ -176,21 +175,19 @@ class World:
         """How a step with slot comes out."""
         for page in reversed(list(self.pages)):
             if page.slot == slot and page.page.is_listed:
-                try:
-                    at = page.page.lend()
-                except Broken:
+                ended, at = page.page.play_on(page.page.slab.take, 0)
+                if ended == "beyond":
                     self.broken = ("slabs", "take")
                     return None
-                if at is not None:
+                if ended == "done":
                     return Outcome("got", None, (page.address + at, page))
         return Outcome("full")
 
     def bring(self, piece):
         """How a step with drop comes out."""
         address, page = piece.at
-        try:
-            page.page.bring(address - page.address)
-        except Broken:
+        ended, _ = page.page.play_on(page.page.slab.back, address - page.address)
+        if ended == "beyond":
             self.broken = ("slabs", "back")
             return None
         if not page.page.is_dropped:
@@ -215,12 +212,12 @@ class World:
     def make_page(self, address, slot):
         """Makes the block at an address a page of a class; whether it has a layout with places."""
         slab = self.program.slabs[self.program.deeds[0].rules.slots.index(slot)]
-        try:
-            page = SlabPage(slab, self.block_size(address))
-        except (BadSize, Broken):
+        size = self.block_size(address)
+        layout = slab.layout(size) if slab.rules.is_size(size) else None
+        if layout is None or layout[0] == 0:
             self.broken = ("slabs", "lay")
             return False
-        made = LentPage(slot, address, page, self.many_pages)
+        made = LentPage(slot, address, SlabPage(slab, size), self.many_pages)
         self.many_pages += 1
         self.pages.append(made)
         for at in range(made.many_words()):

@@ -77,9 +77,9 @@ class Rows:
                     self.play_map("clear", number)
         for address in sorted(free):
             if self.broken is None and address not in self.hung:
-                self.join(address, free[address])
+                self.hang_in(address, free[address])
 
-    def join(self, address, size):
+    def hang_in(self, address, size):
         """Lets a free block come to the front of the row of its bin."""
         play = self.bin_of("hang", size)
         if play is None:

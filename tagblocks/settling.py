@@ -1,7 +1,5 @@
 """Settling a table: its ranges are made short by its rows, and rows that follow of the ranges are left out."""
 
-from tagblocks.systems import insert_row
-
 MANY_ROUNDS = 4
 
 
@@ -11,55 +9,95 @@ def range_of(table, name):
     return (None if low is None else -low, table.get(((name, -1),)))
 
 
-def greatest_part(name, factor, table):
-    """The greatest number that a factor times a name can be by its own rows, or None."""
-    low, high = range_of(table, name)
-    end = high if factor > 0 else low
-    return None if end is None else factor * end
+class Ranges:
+    """The least and the greatest number of each name, as far as they are known."""
 
+    def __init__(self, table):
+        self.lows = {}
+        self.highs = {}
+        for key, added in table.items():
+            if len(key) == 1:
+                name, factor = key[0]
+                if factor > 0:
+                    self.lows[name] = -added
+                else:
+                    self.highs[name] = added
 
-def least_of_row(key, added, table):
-    """The least number that a row can be by the ranges of its names, or None."""
-    parts = [greatest_part(name, -factor, table) for name, factor in key]
-    return None if None in parts else added - sum(parts)
+    def greatest_parts(self, key):
+        """For each name of a row the greatest number that its factor times it can be, or None."""
+        lows, highs = self.lows, self.highs
+        parts = []
+        for name, factor in key:
+            end = highs.get(name) if factor > 0 else lows.get(name)
+            parts.append(None if end is None else factor * end)
+        return parts
 
+    def tighten(self, key, added):
+        """Takes from a row what it says of the range of each of its names; None if it cannot hold, else if it said more."""
+        parts = self.greatest_parts(key)
+        many_open = parts.count(None)
+        if many_open > 1:
+            return False
+        is_more = False
+        known = added + sum([part for part in parts if part is not None])
+        for (name, factor), part in zip(key, parts):
+            if many_open == 1 and part is not None:
+                continue
+            rest = known if part is None else known - part
+            said = self.take(name, factor, rest)
+            if said is None:
+                return None
+            is_more = is_more or said
+        return is_more
 
-def tightened(key, added, table):
-    """Takes from a row what it says of the range of each of its names; None if it cannot hold, else if it said more."""
-    parts = [greatest_part(name, factor, table) for name, factor in key]
-    open_parts = [at for at, part in enumerate(parts) if part is None]
-    if len(open_parts) > 1:
-        return False
-    is_more = False
-    known = added + sum([part for part in parts if part is not None])
-    for at, (name, factor) in enumerate(key):
-        if open_parts and at not in open_parts:
-            continue
-        rest = known if open_parts else known - parts[at]
-        before = range_of(table, name)
-        if not insert_row(table, {name: factor, 0: rest}):
-            return None
-        is_more = is_more or range_of(table, name) != before
-    return is_more
+    def take(self, name, factor, rest):
+        """Takes that a factor times a name and a rest are 0 or more; None if that cannot be, else if it says more."""
+        low, high = self.lows.get(name), self.highs.get(name)
+        if factor > 0:
+            least = -(rest // factor)
+            if low is not None and low >= least:
+                return False
+            self.lows[name] = low = least
+        else:
+            most = rest // -factor
+            if high is not None and high <= most:
+                return False
+            self.highs[name] = high = most
+        return None if low is not None and high is not None and low > high else True
+
+    def follows(self, key, added):
+        """Whether a row follows of the ranges of its names."""
+        least = added
+        for name, factor in key:
+            end = self.lows.get(name) if factor > 0 else self.highs.get(name)
+            if end is None:
+                return False
+            least += factor * end
+        return least >= 0
+
+    def rows(self):
+        """The rows that tell the ranges, with what is added."""
+        found = {((name, 1),): -low for name, low in self.lows.items()}
+        for name, high in self.highs.items():
+            found[((name, -1),)] = high
+        return found
 
 
 def settled(table):
     """A table that says the same, with shorter ranges and without rows that follow of these; None if it never holds."""
-    whole = dict(table)
+    ranges = Ranges(table)
+    longer = [(key, added) for key, added in table.items() if len(key) > 1]
     for _ in range(MANY_ROUNDS):
         is_more = False
-        for key, added in table.items():
-            if len(key) > 1:
-                said = tightened(key, added, whole)
-                if said is None:
-                    return None
-                is_more = is_more or said
+        for key, added in longer:
+            said = ranges.tighten(key, added)
+            if said is None:
+                return None
+            is_more = is_more or said
         if not is_more:
             break
-    return {key: added for key, added in whole.items() if len(key) == 1 or not follows(key, added, whole)}
-
-
-def follows(key, added, table):
-    """Whether a row follows of the ranges of its names."""
-    least = least_of_row(key, added, table)
-    return least is not None and least >= 0
+    whole = ranges.rows()
+    for key, added in longer:
+        if not ranges.follows(key, added):
+            whole[key] = added
+    return whole

@@ -1,6 +1,7 @@
 """What is found of slab codes: the plays on all sizes or pages, and the least numbers with which rows hold."""
 
-from tagblocks.forms import level, negated, shifted
+from tagblocks.forms import level
+from tagblocks.leasts import least_of_systems
 from tagblocks.opennumbers import OpenNumbers
 from tagblocks.runs import run_through
 from tagblocks.slabjudge import LayJudge, PageJudge
@@ -24,22 +25,11 @@ def judges_of(code, sort, solved):
     return judges
 
 
-def least_in(systems, form, low, high, solved):
-    """The least number from one to another one that a form can be where the rows of one of some systems hold."""
-    best = None
-    for rows in systems:
-        top = high if best is None else best - 1
-        if low > top or not solved.can_hold([*rows, shifted(form, -low), shifted(negated(form), top)]):
-            continue
-        first, last = low, top
-        while first < last:
-            middle = (first + last) // 2
-            if solved.can_hold([*rows, shifted(form, -first), shifted(negated(form), middle)]):
-                last = middle
-            else:
-                first = middle + 1
-        best = first
-    return best
+def is_asked(sort, promise):
+    """Whether plays of a sort can break a promise."""
+    if promise in ("odd", "twice"):
+        return not sort.is_owing and (sort.where == "place") == (promise == "twice")
+    return sort.is_owing or sort.kind == "take"
 
 
 class SlabFindings:
@@ -49,14 +39,26 @@ class SlabFindings:
         self.rules = rules
         self.kind = code.kind
         self.solved = Solved()
-        self.judges = [judge for sort in sorts_of(rules, code.kind) for judge in judges_of(code, sort, self.solved)]
+        self.code = code
+        self.sorts = sorts_of(rules, code.kind)
+        self.judges = [None] * len(self.sorts)
         self.broken = {}
+
+    def judges_for(self, promise):
+        """The plays that can break a promise; those of each sort are looked for once."""
+        found = []
+        for at, sort in enumerate(self.sorts):
+            if is_asked(sort, promise):
+                if self.judges[at] is None:
+                    self.judges[at] = judges_of(self.code, sort, self.solved)
+                found = found + self.judges[at]
+        return found
 
     def systems_for(self, promise):
         """The rows of the plays that break a promise, of which each system can hold."""
         if promise not in self.broken:
             found = []
-            for judge in self.judges:
+            for judge in self.judges_for(promise):
                 for rows in judge.breaches_of(promise):
                     if judge.numbers.can_be(rows):
                         found.append((judge, judge.numbers.whole_rows(rows)))
@@ -65,26 +67,27 @@ class SlabFindings:
 
     def least_from(self, promise, number):
         """The least size, or number of places, from one on at which a promise is broken, or None."""
-        systems = [rows for _, rows in self.systems_for(promise)]
+        form = {0: 0, (SIZE if self.kind == "lay" else MANY): 1}
         high = self.rules.top if self.kind == "lay" else self.rules.places_for(self.rules.top)
-        return least_in(systems, {0: 0, (SIZE if self.kind == "lay" else MANY): 1}, number, high, self.solved)
+        return self.least_number([(rows, form) for _, rows in self.systems_for(promise)], number, high)
+
+    def least_number(self, systems, low, high):
+        """The least number from one to another one that forms can be where their rows hold, or None."""
+        found = least_of_systems(systems, low, high, self.solved)
+        return None if found is None else found[0]
 
     def least_case(self, promise):
         """The least size, or the least many, used and handed, with which a promise is broken; or None."""
         least = self.least_from(promise, 0)
         if least is None or self.kind == "lay":
             return least
-        found = [least]
         systems = [(judge, rows + level({0: -least, MANY: 1})) for judge, rows in self.systems_for(promise)]
-        used = least_in([rows for _, rows in systems], {0: 0, USED: 1}, 0, least, self.solved)
-        found.append(used)
-        handed = None
+        used = self.least_number([(rows, {0: 0, USED: 1}) for _, rows in systems], 0, least)
+        handed = []
         for judge, rows in systems:
             form, more = handed_form(judge)
-            top = self.rules.top if handed is None else handed - 1
-            told = least_in([[*rows, *more, *level({0: -used, USED: 1})]], form, 0, top, self.solved)
-            handed = handed if told is None else told
-        return (least, used, handed)
+            handed.append(([*rows, *more, *level({0: -used, USED: 1})], form))
+        return (least, used, self.least_number(handed, 0, self.rules.top))
 
 
 def handed_form(judge):

@@ -49,16 +49,21 @@ class SlabPage:
         self.is_listed = self.page.is_listed
         self.is_dropped = self.page.is_dropped
 
-    def _play(self, code, at):
-        """Plays a code on the page: the address at its end, None if it is refused."""
+    def play_on(self, code, at):
+        """Plays a code on the page: how it ended, "beyond" also if it cannot be played, and the address at its end."""
         if self.is_broken or self.is_dropped:
-            raise Broken("slabs")
+            return "beyond", None
         machine, ended = play_page(self.slab.rules, code, self.page, at)
         self._take_over()
+        self.is_broken = ended == "beyond"
+        return ended, machine.worths["at"]
+
+    def _play(self, code, at):
+        """Plays a code on the page: the address at its end, None if it is refused."""
+        ended, found = self.play_on(code, at)
         if ended == "beyond":
-            self.is_broken = True
             raise Broken("slabs")
-        return None if ended == "refused" else machine.worths["at"]
+        return None if ended == "refused" else found
 
     def lend(self):
         """Lends a place: its address, or None if take refuses."""

@@ -148,7 +148,11 @@ def can_hold_by_parts(table, most):
 
 def can_hold(rows):
     """Whether there are whole numbers for which all rows hold."""
-    table = table_of(rows)
+    return table_can_hold(table_of(rows))
+
+
+def table_can_hold(table):
+    """Whether there are whole numbers for which all rows of a table hold; None is a table that never does."""
     held = can_hold_by_parts(table, MANY_SYSTEMS)
     # Few systems are hard for one of the two ways, and hardly any for both.
     if held is None:
@@ -169,5 +173,5 @@ class Solved:
             return False
         key = tuple(sorted(table.items()))
         if key not in self.known:
-            self.known[key] = can_hold(rows)
+            self.known[key] = table_can_hold(table)
         return self.known[key]

@@ -4,8 +4,10 @@ from tagblocks.texts import comparison_in, number_between, sum_in
 
 TOP_KINDS = ("grow", "trim")
 REGISTERS = ("a", "b", "c")
-SHARED = ("size", "top", "unit", "least", "page", "fence", "a", "b", "c")
-NAMES = {"grow": (*SHARED, "need"), "trim": SHARED}
+NAMES = {
+    "grow": ("size", "top", "unit", "least", "page", "fence", "a", "b", "c", "need"),
+    "trim": ("size", "top", "unit", "least", "page", "fence", "a", "b", "c"),
+}
 # What stands for the system in codes of a kind.
 CALLS = {"grow": "ask", "trim": "give"}
 PARTED = ("up", "down", "//")

@@ -28,6 +28,12 @@ class ExamplesTest(unittest.TestCase):
     def test_deeds(self):
         self.run_file("deeds.txt")
 
+    def test_tops(self):
+        self.run_file("tops.txt")
+
+    def test_allocators(self):
+        self.run_file("allocators.txt")
+
     def test_blocks(self):
         self.run_file("blocks.txt")
 
