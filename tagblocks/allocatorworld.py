@@ -115,7 +115,8 @@ class World:
             return None
         room = known(told.room)
         self.steps.append((step[0], told.word, room))
-        if not is_fitting(machine.rules, step[0], None if piece is None else known(piece.room), number, (told.word, room)):
+        old = None if piece is None else known(piece.room)
+        if not is_fitting(machine.rules, step[0], old, number, (told.word, room)):
             self.broken = ("deeds", step[0])
             return None
         return told
