@@ -1,24 +1,19 @@
 """Plays of head codes on words of open bits: all ways at once, a choice for each word that is set on some way."""
 
+from tagblocks.bitways import BitWays
 from tagblocks.bitwords import are_same, is_below, plain_bits
 from tagblocks.circuits import NO, YES
 from tagblocks.headcodes import HANDED, REGISTERS, TOLD
 
 
-class BitPlay:
-    """The words of a play, each a sum of bits, and on which ways it has ended.
-
-    here tells whether the play is at this line; nest has for each open block whether the play was at its if, and
-    whether its else may still come.
-    """
+class BitPlay(BitWays):
+    """The words of a play, each a sum of bits, and on which ways it was refused."""
 
     def __init__(self, code, handed, words):
+        super().__init__(words.circuit)
         self.code = code
         self.words = words
-        self.circuit = words.circuit
-        self.here = YES
         self.refused = NO
-        self.nest = []
         self.worths = {name: {None: 0} for name in (*REGISTERS, TOLD[code.kind])}
         for name, worth in zip(HANDED[code.kind], handed):
             self.worths[name] = worth
@@ -34,16 +29,11 @@ class BitPlay:
         if step[0] == "set":
             self.set_word(step)
         elif step[0] == "if":
-            held = self.test_held(step[1])
-            self.nest.append((self.circuit.both(self.here, held ^ 1), NO))
-            self.here = self.circuit.both(self.here, held)
+            self.enter_if(self.test_held(step[1]))
         elif step[0] == "else":
-            other, _ = self.nest.pop()
-            self.nest.append((NO, self.here))
-            self.here = other
+            self.enter_else()
         elif step[0] == "end":
-            other, behind = self.nest.pop()
-            self.here = self.circuit.either(self.here, self.circuit.either(other, behind))
+            self.leave_block()
         else:
             if step[0] == "no":
                 self.refused = self.circuit.either(self.refused, self.here)

@@ -1,26 +1,24 @@
 """Plays of map codes on open bits for an open bin: all ways at once, a choice for what is set on some way."""
 
 from tagblocks.binlines import PATTERNS, REGISTERS
+from tagblocks.bitways import BitWays
 from tagblocks.circuits import NO, YES
 
 
-class MapBits:
+class MapBits(BitWays):
     """A play of a map code for all bins and bits: patterns and words are rows of literals, registers numbers of bits.
 
-    here tells whether the play is at this line; nest has for each open block whether the play was at its if but not
-    on its first side, and whether it came through that.
+    beyond, refused and done tell on which ways it has ended so.
     """
 
     def __init__(self, code, rules, numbers, handed, bins):
+        super().__init__(numbers.circuit)
         self.rules = rules
         self.numbers = numbers
-        self.circuit = numbers.circuit
         self.kind = code.kind
-        self.here = YES
         self.beyond = NO
         self.refused = NO
         self.done = NO
-        self.nest = []
         self.told = {None: 0}
         self.worths = {name: {None: 0} for name in REGISTERS}
         self.worths["bin"] = handed
@@ -39,16 +37,11 @@ class MapBits:
     def play(self, step):
         """Plays a line on all ways that come to it."""
         if step[0] == "if":
-            held = self.test_held(step[1])
-            self.nest.append((self.circuit.both(self.here, held ^ 1), NO))
-            self.here = self.circuit.both(self.here, held)
+            self.enter_if(self.test_held(step[1]))
         elif step[0] == "else":
-            other, _ = self.nest.pop()
-            self.nest.append((NO, self.here))
-            self.here = other
+            self.enter_else()
         elif step[0] == "end":
-            other, behind = self.nest.pop()
-            self.here = self.circuit.either(self.here, self.circuit.either(other, behind))
+            self.leave_block()
         elif step[0] in ("tell", "none", "quit"):
             self.play_end(step)
         elif self.here != NO:

@@ -33,7 +33,7 @@ class Ranges:
         return parts
 
     def tighten(self, key, added):
-        """Takes from a row what it says of the range of each of its names; None if it cannot hold, else if it said more."""
+        """Takes from a row what it says of the ranges of its names; None if it cannot hold, else if it said more."""
         parts = self.greatest_parts(key)
         many_open = parts.count(None)
         if many_open > 1:
