@@ -70,7 +70,8 @@ class TopJudge:
     def untrue(self):
         """Where the top is not what memory has behind all other blocks."""
         some = shifted(self.size, -1)
-        return [[some, *rows] for rows in unlike(self.top, self.owed_top())] + [[*level(self.size), shifted(self.top, -1)]]
+        none = [*level(self.size), shifted(self.top, -1)]
+        return [[some, *rows] for rows in unlike(self.top, self.owed_top())] + [none]
 
     def wrongly_refused(self):
         """Where the play is refused though pages for the missing words are to be had, or left another size or top."""
