@@ -104,7 +104,7 @@ class World:
         """How a step comes out; None if something was beyond, or it came out as no deed lets."""
         number = known(amount)
         if step[0] in ("take", "top"):
-            told = self.take(number) if step[0] == "take" else self.play_top(number)
+            told = self.find_block(number) if step[0] == "take" else self.play_top(number)
         elif step[0] == "slot":
             told = self.lend(slot)
         elif step[0] == "drop":
@@ -132,7 +132,7 @@ class World:
             return None
         return self.block_told(words[0], address) if ended == "done" else Outcome(words[1])
 
-    def take(self, n):
+    def find_block(self, n):
         """How a step with take comes out."""
         size = self.size_of(n)
         if size is None:
@@ -205,7 +205,7 @@ class World:
             if not self.make_page(piece.at[0], known(amount)):
                 return False
         elif step[0] == "move":
-            if not self.move(other, piece, known(amount)):
+            if not self.copy_words(other, piece, known(amount)):
                 return False
         self.steps.append((step[0], None, known(amount)))
         return True
@@ -229,7 +229,7 @@ class World:
         """The address of the first word of a piece's room."""
         return piece.at[0] + (1 if piece.sort_name == "block" else 0)
 
-    def move(self, own, piece, many):
+    def copy_words(self, own, piece, many):
         """Plays the move code from own's first word to a piece's; whether it was not beyond."""
         source = self.first_word(own)
         code = self.program.move

@@ -116,7 +116,7 @@ class BitNumbers:
             self.hold(self.at_least(rest, by) ^ 1)
         return self.plus(whole, 1, told)
 
-    def rest(self, number, by):
+    def rest_of(self, number, by):
         """What is left of a number when it is divided by a plain one."""
         left = self.plus(number, -by, self.quotient(number, by))
         return self.of_bits(self.low_bits(left, (by - 1).bit_length()))

@@ -65,7 +65,7 @@ class Rests:
         """For how many rests, the least ones, too little is told."""
         return self.rests_below(self.gain * q - self.offset)
 
-    def enough(self, q):
+    def fit(self, q):
         """For how many rests, the least ones, not too much is told."""
         return self.rests_below(self.gain * q - self.offset + self.whole)
 
@@ -73,13 +73,13 @@ class Rests:
         """The least rest from one on that is wrong for q, or None."""
         if r < self.few(q):
             return r
-        found = max(r, self.enough(q))
+        found = max(r, self.fit(q))
         return found if found < self.by else None
 
     def right_from(self, q, r):
         """The least rest from one on that is right for q, or None."""
         found = max(r, self.few(q))
-        return found if found < self.enough(q) else None
+        return found if found < self.fit(q) else None
 
     def wrong_q(self, q):
         """The least q from one on with a wrong rest, or None: at the first one, or where sums have grown or fallen."""
@@ -106,7 +106,7 @@ class Rests:
     def count_right(self, x):
         """How many numbers from 0 to x are right."""
         q, r = divmod(x, self.by)
-        last = max(0, min(self.enough(q), r + 1) - min(self.few(q), r + 1))
+        last = max(0, min(self.fit(q), r + 1) - min(self.few(q), r + 1))
         if self.times == 0:
             # One number is told for all, so only its q is right.
             told = self.offset // self.whole

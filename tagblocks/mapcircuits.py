@@ -84,7 +84,7 @@ class MapBits(BitWays):
             return self.numbers.plus({None: 0}, step[3], total)
         if step[0] == "divided":
             return self.numbers.quotient(total, step[3])
-        return self.numbers.rest(total, step[3]) if step[0] == "rest" else total
+        return self.numbers.rest_of(total, step[3]) if step[0] == "rest" else total
 
     def set_name(self, name, number):
         """Sets a register on the ways that are here."""
@@ -125,7 +125,7 @@ class MapBits(BitWays):
         return self.numbers.of_bits([self.circuit.any_of([one for at, one in enumerate(firsts) if at >> figure & 1])
                                      for figure in figures])
 
-    def chosen(self, term, many):
+    def which_of(self, term, many):
         """For each number from 0 on, so many of them, whether a term is it; ways with another one are beyond."""
         number = self.worth_of(term)
         found = [self.numbers.is_worth(number, at) for at in range(many)]
@@ -135,21 +135,21 @@ class MapBits(BitWays):
 
     def read_word(self, step):
         """Plays a line that reads a word of the map."""
-        found = self.chosen(step[2], self.rules.words)
+        found = self.which_of(step[2], self.rules.words)
         bits = [self.circuit.any_of([self.circuit.both(test, word[at]) for test, word in zip(found, self.words)])
                 for at in range(self.rules.wide)]
         self.patterns[step[1]] = self.set_bits(self.here, bits, self.patterns[step[1]])
 
     def write_word(self, step):
         """Plays a line that writes a word of the map."""
-        found = self.chosen(step[2], self.rules.words)
+        found = self.which_of(step[2], self.rules.words)
         bits = self.patterns[step[1]]
         self.words = [self.set_bits(self.circuit.both(self.here, test), bits, word)
                       for test, word in zip(found, self.words)]
 
     def change_pattern(self, step):
         """Plays a line with from, with or without."""
-        found = self.chosen(step[2], self.rules.wide)
+        found = self.which_of(step[2], self.rules.wide)
         bits = self.patterns[step[1]]
         if step[0] == "from":
             changed = []

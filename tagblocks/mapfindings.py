@@ -6,8 +6,9 @@ from tagblocks.mapmachine import roof_of, start_machine, word_masks, worth_of_ma
 MAP_PROMISES = ("inside", "true", "least", "kept")
 # The kinds of codes that can break a promise.
 KINDS_FOR = {"inside": ("find", "mark", "clear"), "true": ("find",), "least": ("find",), "kept": ("mark", "clear")}
-# So many plays of a kind are looked at one by one; where there are more, all are put into one circuit.
-MOST_PLAYS = 100000
+# So many plays of a kind, and for each bin, are looked at one by one; where there are more, all are put into a circuit.
+MOST_PLAYS = 50000
+MOST_FOR_BIN = 4000
 
 
 def breaches_of(machine, kind, number):
@@ -112,7 +113,7 @@ class MapFindings:
             if (kind, number) not in self.explored:
                 self.explored[(kind, number)] = Explored(self.maps, kind, number)
             found = self.explored[(kind, number)]
-            self.left[kind] -= found.look_for(promise, self.left[kind])
+            self.left[kind] -= found.look_for(promise, min(self.left[kind], MOST_FOR_BIN))
             if not found.is_open(promise):
                 return found.words.get(promise)
             self.goals[kind] = MapGoals(self.maps, kind)

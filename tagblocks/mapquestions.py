@@ -21,7 +21,7 @@ class MapGoals:
         if kind != "find":
             own = self.circuit.any_of([self.circuit.both(*pair) for pair in zip(self.here, self.bins)])
             self.numbers.hold(own if kind == "clear" else own ^ 1)
-        self.play = MapBits(maps.code_for(kind), self.rules, self.numbers, self.handed, self.bins)
+        self.whole = MapBits(maps.code_for(kind), self.rules, self.numbers, self.handed, self.bins)
         self.goals = {}
 
     def goal_for(self, promise):
@@ -34,7 +34,7 @@ class MapGoals:
     def goal_of(self, promise):
         """The literal that tells whether a promise is broken."""
         if promise == "inside":
-            return self.play.beyond
+            return self.whole.beyond
         if promise == "kept":
             return self.not_kept()
         return self.untrue() if promise == "true" else self.not_least()
@@ -47,16 +47,16 @@ class MapGoals:
     def untrue(self):
         """Whether find tells a bin that is none from here on that is set, or none though there is one."""
         found = self.set_from_here()
-        told = self.circuit.any_of([self.circuit.both(literal, self.numbers.is_worth(self.play.told, at))
+        told = self.circuit.any_of([self.circuit.both(literal, self.numbers.is_worth(self.whole.told, at))
                                     for at, literal in enumerate(found)])
-        missed = self.circuit.both(self.play.refused, self.circuit.any_of(found))
-        return self.circuit.either(missed, self.circuit.both(self.play.done, told ^ 1))
+        missed = self.circuit.both(self.whole.refused, self.circuit.any_of(found))
+        return self.circuit.either(missed, self.circuit.both(self.whole.done, told ^ 1))
 
     def not_least(self):
         """Whether find passes over a bin that is set."""
-        passed = [self.circuit.both(literal, self.numbers.at_least(self.play.told, at + 1))
+        passed = [self.circuit.both(literal, self.numbers.at_least(self.whole.told, at + 1))
                   for at, literal in enumerate(self.set_from_here())]
-        return self.circuit.both(self.play.done, self.circuit.any_of(passed))
+        return self.circuit.both(self.whole.done, self.circuit.any_of(passed))
 
     def not_kept(self):
         """Whether mark or clear leaves other words or another roof than what is owed."""
@@ -65,10 +65,10 @@ class MapGoals:
         else:
             owed = [self.circuit.both(test ^ 1, literal) for test, literal in zip(self.here, self.bins)]
         words = word_rows(self.rules, owed)
-        pairs = [pair for one, other in zip(self.play.words, words) for pair in zip(one, other)]
-        pairs = pairs + list(zip(self.play.roof, self.play.roof_for(words)))
+        pairs = [pair for one, other in zip(self.whole.words, words) for pair in zip(one, other)]
+        pairs = pairs + list(zip(self.whole.roof, self.whole.roof_for(words)))
         unlike = self.circuit.any_of([self.circuit.unlike(one, other) for one, other in pairs])
-        return self.circuit.both(self.play.done, unlike)
+        return self.circuit.both(self.whole.done, unlike)
 
     def words_at(self, promise, number):
         """Words with which a promise is broken at a bin, or None."""

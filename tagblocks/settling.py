@@ -44,13 +44,13 @@ class Ranges:
             if many_open == 1 and part is not None:
                 continue
             rest = known if part is None else known - part
-            said = self.take(name, factor, rest)
+            said = self.note(name, factor, rest)
             if said is None:
                 return None
             is_more = is_more or said
         return is_more
 
-    def take(self, name, factor, rest):
+    def note(self, name, factor, rest):
         """Takes that a factor times a name and a rest are 0 or more; None if that cannot be, else if it says more."""
         low, high = self.lows.get(name), self.highs.get(name)
         if factor > 0:
@@ -75,7 +75,7 @@ class Ranges:
             least += factor * end
         return least >= 0
 
-    def rows(self):
+    def told_rows(self):
         """The rows that tell the ranges, with what is added."""
         found = {((name, 1),): -low for name, low in self.lows.items()}
         for name, high in self.highs.items():
@@ -96,7 +96,7 @@ def settled(table):
             is_more = is_more or said
         if not is_more:
             break
-    whole = ranges.rows()
+    whole = ranges.told_rows()
     for key, added in longer:
         if not ranges.follows(key, added):
             whole[key] = added

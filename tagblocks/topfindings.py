@@ -22,15 +22,15 @@ class TopSort:
         self.rules = rules
         self.size = plain(0) if name == "empty" else {0: 0, PAGES: rules.page}
         self.top = {0: 0, UNITS: rules.unit} if name == "topped" else plain(0)
-        self.need = {0: 0, NEEDS: rules.unit} if has_need else None
+        self.wanted = {0: 0, NEEDS: rules.unit} if has_need else None
 
     def start_rows(self):
         """The rows that hold from the start."""
         rows = [shifted(plus(self.size, -1, self.top), -self.rules.fence)] if len(self.top) > 1 else []
         if self.rules.limit is not None:
             rows.append(plus(plain(self.rules.limit), -1, self.size))
-        if self.need is not None:
-            rows.append(shifted(plus(self.need, -1, self.top), -1))
+        if self.wanted is not None:
+            rows.append(shifted(plus(self.wanted, -1, self.top), -1))
         return rows
 
     def open_numbers(self, trail, rows, solved):
@@ -49,7 +49,7 @@ def plays_of(code, more, solved):
         while waiting:
             trail, rows = waiting.pop()
             numbers = sort.open_numbers(trail, rows, solved)
-            machine = TopMachine(code, numbers, sort.size, sort.top, sort.need)
+            machine = TopMachine(code, numbers, sort.size, sort.top, sort.wanted)
             behind = None
             if more is not None and machine.ended == "done" and not numbers.is_lost:
                 behind = play_behind(machine, more)
@@ -108,7 +108,7 @@ class SwingFindings:
         self.systems = []
         for sort, machine, behind in plays_of(grow, trim, self.solved):
             if behind is not None and behind.ended == "done":
-                less = shifted(plus(machine.need, -1, behind.worths["top"]), -1)
+                less = shifted(plus(machine.wanted, -1, behind.worths["top"]), -1)
                 rows = machine.numbers.whole_rows([less])
                 if self.solved.can_hold(rows):
                     self.systems.append((sort, rows))
@@ -137,7 +137,7 @@ def forms_for(kind):
 def form_of(sort, name):
     """The form of the size, the top or the need of a sort."""
     if name == "need":
-        return sort.need
+        return sort.wanted
     return sort.size if name == "size" else sort.top
 
 

@@ -37,7 +37,7 @@ class TopJudge:
         if self.ended != "done":
             return []
         if promise == "enough":
-            return [[below(self.top, self.machine.need)]]
+            return [[below(self.top, self.machine.wanted)]]
         if promise == "spare":
             grown = plus(self.size, -1, self.machine.start_size)
             # What memory grew by is a multiple of page, so it is too much from a page more than is missing on.
@@ -54,7 +54,7 @@ class TopJudge:
 
     def missing(self):
         """The words that are missing."""
-        words = plus(self.machine.need, -1, self.machine.start_top)
+        words = plus(self.machine.wanted, -1, self.machine.start_top)
         return words if self.has_words() else shifted(words, self.rules.fence)
 
     def base(self):
@@ -84,6 +84,6 @@ class TopJudge:
 
     def kept_rows(self):
         """Lists of rows with one of which a play of grow that is done keeps true and enough."""
-        enough = plus(self.top, -1, self.machine.need)
+        enough = plus(self.top, -1, self.machine.wanted)
         # Need is 1 or more, so where top is enough, memory has words if the top is true.
         return [enough, shifted(self.size, -1), *level(plus(self.top, -1, self.owed_top()))]

@@ -17,7 +17,7 @@ class TopMachine:
         self.numbers = numbers
         self.start_size = size
         self.start_top = top
-        self.need = need
+        self.wanted = need
         self.worths = {"size": size, "top": top, "need": need, "unit": plain(rules.unit), "least": plain(rules.least),
                        "page": plain(rules.page), "fence": plain(rules.fence)}
         self.worths.update({name: plain(0) for name in REGISTERS})
