@@ -107,16 +107,17 @@ class Allocator:
 
     def _play(self, kind, piece, n):
         """Plays a deed for a call: its machine, and what the call tells."""
-        self.world.steps = []
+        world = self.world
+        world.steps = []
         deed = self.program.deeds[DEED_PARTS.index(kind)]
         own = None if piece is None else HeldPiece(piece.sort_name, piece.room, piece.at, 0)
-        machine = DeedMachine(deed, own, None if n is None else plain(n), known_numbers(), self.world)
+        machine = DeedMachine(deed, own, None if n is None else plain(n), known_numbers(), world)
         if machine.ended == "beyond":
             self.broken = ("deeds", kind)
         elif machine.ended == "stopped":
-            self.broken = self.world.broken
-        self.size = self.world.memory.size
-        return machine, self._count(machine.told, self.world.steps)
+            self.broken = world.broken
+        self.size = world.memory.size
+        return machine, self._count(machine.told, world.steps)
 
     def _write_words(self, name, start):
         """Lets the user write the words of a name from one on, as far as there is room."""

@@ -233,9 +233,10 @@ class World:
         """Plays the move code from own's first word to a piece's; whether it was not beyond."""
         source = self.first_word(own)
         code = self.program.move
-        machine = MoveMachine(self.memory.words, source, many, self.first_word(piece) - source)
+        memory = self.memory
+        machine = MoveMachine(memory.words, source, many, self.first_word(piece) - source)
         ended = run_through(code.outline, machine).ended
-        self.memory.words = {address: word for address, word in machine.words.items() if word is not None}
+        memory.words = {address: word for address, word in machine.words.items() if word is not None}
         if ended == "beyond":
             self.broken = ("moves", code.kind)
             return False

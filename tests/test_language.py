@@ -162,6 +162,12 @@ class LanguageTest(unittest.TestCase):
                 if isinstance(node, ast.Attribute) and node.attr == "sort":
                     self.fail((name, node.lineno))
 
+    def test_attributes_are_set_through_names(self):
+        for name, tree in trees():
+            for node in ast.walk(tree):
+                if isinstance(node, ast.Attribute) and isinstance(node.ctx, ast.Store):
+                    self.assertIsInstance(node.value, ast.Name, (name, node.lineno))
+
     def test_module_level(self):
         bound = {}
         for name, tree in trees():
