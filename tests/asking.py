@@ -1,4 +1,6 @@
-"""What several tests need: asking which error a call raises, with its attributes."""
+"""What several tests need: asking which error a call raises, with its attributes, and asking in good time."""
+
+import signal
 
 from tagblocks.errors import BlockError
 
@@ -15,3 +17,15 @@ def error_of(call, *arguments, **named):
     return None
 
 
+def too_late(number, frame):
+    raise AssertionError("no answer within the time")
+
+
+def in_time(seconds, question, *handed):
+    """The answer to a question; an AssertionError if it does not come within so many seconds."""
+    signal.signal(signal.SIGALRM, too_late)
+    signal.alarm(seconds)
+    try:
+        return question(*handed)
+    finally:
+        signal.alarm(0)

@@ -1,9 +1,9 @@
 """Promises [4], [9], [11]: codes of chance in words of 64 bits have all their questions answered within a time."""
 
 import random
-import signal
 import unittest
 
+from asking import in_time
 from headmakers import HEAD_KINDS, Chance
 from tagblocks import headverdicts
 from tagblocks.errors import BlockError
@@ -14,20 +14,6 @@ from tagblocks.heads import Heads, Rounding
 SECONDS = 120
 RULES = HeadRules(8, 32, 8, 64, 64)
 PROMISES = ("even", "enough", "tight", "full")
-
-
-def too_late(number, frame):
-    raise AssertionError("no answer within the time")
-
-
-def in_time(question, *handed):
-    """The answer to a question; an AssertionError if it does not come in time."""
-    signal.signal(signal.SIGALRM, too_late)
-    signal.alarm(SECONDS)
-    try:
-        return question(*handed)
-    finally:
-        signal.alarm(0)
 
 
 def chance_run(chance):
@@ -93,15 +79,15 @@ class RoundCodesOfChanceTest(unittest.TestCase):
     def check_all(self, rounding, chance):
         low = chance.choice([0, 0, chance.randrange(1 << 64)])
         for promise in PROMISES:
-            found = in_time(headverdicts.round_break, rounding, promise, low)
+            found = in_time(SECONDS, headverdicts.round_break, rounding, promise, low)
             self.check_least(lambda n: breaks(rounding, promise, n), found, low, chance)
-            self.assertEqual(in_time(headverdicts.round_keeps, rounding, promise),
-                             in_time(headverdicts.round_break, rounding, promise, 0) is None)
+            self.assertEqual(in_time(SECONDS, headverdicts.round_keeps, rounding, promise),
+                             in_time(SECONDS, headverdicts.round_break, rounding, promise, 0) is None)
 
         def is_wrong(n):
             return any(breaks(rounding, promise, n) for promise in PROMISES)
-        self.check_least(is_wrong, in_time(headverdicts.round_wrong, rounding, low), low, chance)
-        self.check_least(lambda n: not is_wrong(n), in_time(headverdicts.round_right, rounding, low), low, chance)
+        self.check_least(is_wrong, in_time(SECONDS, headverdicts.round_wrong, rounding, low), low, chance)
+        self.check_least(lambda n: not is_wrong(n), in_time(SECONDS, headverdicts.round_right, rounding, low), low, chance)
 
     def test_mixed_codes(self):
         chance = random.Random(14)
@@ -118,9 +104,9 @@ class RoundCodesOfChanceTest(unittest.TestCase):
         chance = random.Random(16)
         for _ in range(20):
             one, other = [Rounding(RULES, mixed_code(chance)) for _ in range(2)]
-            found = in_time(headverdicts.round_parting, one, other)
+            found = in_time(SECONDS, headverdicts.round_parting, one, other)
             self.check_least(lambda n: one.size_for(n) != other.size_for(n), found, 0, chance)
-            self.assertEqual(in_time(headverdicts.round_alike, one, other), found is None)
+            self.assertEqual(in_time(SECONDS, headverdicts.round_alike, one, other), found is None)
 
     def test_other_words_for_the_same(self):
         pairs = [("size = n + 15 << 9", "a = n << 4\na = a + 240\nsize = a << 5"),
@@ -129,16 +115,16 @@ class RoundCodesOfChanceTest(unittest.TestCase):
                  ("a = n >> 5\nsize = a & 255", "a = n & 8160\nsize = a >> 5")]
         for one, other in pairs:
             ones = [Rounding(RULES, HeadCode("round", text)) for text in (one, other)]
-            self.assertTrue(in_time(headverdicts.round_alike, *ones))
+            self.assertTrue(in_time(SECONDS, headverdicts.round_alike, *ones))
             parts = [ones[0], Rounding(RULES, HeadCode("round", other + f"\nif {2 ** 63 + 5} is n\nsize = size + 1\nend"))]
-            self.assertEqual(in_time(headverdicts.round_parting, *parts), 2 ** 63 + 5)
+            self.assertEqual(in_time(SECONDS, headverdicts.round_parting, *parts), 2 ** 63 + 5)
 
     def test_deep_mixing(self):
         text = ("a = b - n >> 6\na = a + c + size >> 28\nb = n - a + b << 24\na = size + b >> 18\nsize = n + a >> 27\n"
                 "size = b + size ^ 1044480")
         rounding = Rounding(HeadRules(1, 4096, 0, 64, 64), HeadCode("round", text))
-        self.assertEqual(in_time(headverdicts.round_right, rounding, 1671), 8671714585294168528)
-        self.assertEqual(in_time(headverdicts.round_kept, rounding), ("full",))
+        self.assertEqual(in_time(SECONDS, headverdicts.round_right, rounding, 1671), 8671714585294168528)
+        self.assertEqual(in_time(SECONDS, headverdicts.round_kept, rounding), ("full",))
 
 
 class HeadsOfChanceTest(unittest.TestCase):
@@ -148,10 +134,10 @@ class HeadsOfChanceTest(unittest.TestCase):
         for _ in range(6):
             heads = Heads(rules, [codes.code(kind, 8) for kind in HEAD_KINDS])
             for promise in ("inside", "size", "used", "ahead", "marks"):
-                case = in_time(headverdicts.head_case, heads, promise)
-                self.assertEqual(case is None, promise in in_time(headverdicts.head_kept, heads))
+                case = in_time(SECONDS, headverdicts.head_case, heads, promise)
+                self.assertEqual(case is None, promise in in_time(SECONDS, headverdicts.head_kept, heads))
             for question in (headverdicts.head_wrong, headverdicts.head_right):
-                found = in_time(question, heads, 8 * codes.random.randrange(1 << 60))
+                found = in_time(SECONDS, question, heads, 8 * codes.random.randrange(1 << 60))
                 self.assertTrue(found is None or rules.in_use(found))
 
 

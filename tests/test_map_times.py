@@ -1,9 +1,9 @@
 """Questions about maps of which a play can go very many ways are answered in good time, and as other plays tell."""
 
 import random
-import time
 import unittest
 
+from asking import in_time
 from binmakers import BinChance, play_map_again
 from tagblocks import mapfindings
 from tagblocks.bincodes import BinMaps, MapCode
@@ -60,20 +60,23 @@ class Times(unittest.TestCase):
             for name in CODES:
                 words = [0, 1, 2, 3, 4] if wide == 8 else [12, 3, 7, 0, 5]
                 with self.subTest(wide=wide, bins=bins, code=name):
-                    start = time.monotonic()
-                    maps = maps_of(rules, find_text(rules, name, words))
-                    kept = map_kept(maps)
-                    for promise in MAP_PROMISES:
-                        case = map_case(maps, promise)
-                        self.assertEqual(case is None, promise in kept)
-                        self.assertEqual(map_keeps(maps, promise), promise in kept)
-                        if case is not None:
-                            self.check_shown(maps, promise, case)
-                            self.assertEqual(map_wrong(maps, promise, 0), case[2])
-                        last = map_wrong(maps, promise, bins - 1)
-                        self.assertIn(last, (None, bins - 1))
-                        self.assertEqual(map_right(maps, promise, bins - 1), bins - 1 if last is None else None)
-                    self.assertLess(time.monotonic() - start, SECONDS)
+                    self.ask_all(maps_of(rules, find_text(rules, name, words)))
+
+    def ask_all(self, maps):
+        """Asks all questions about maps."""
+        kept = in_time(SECONDS, map_kept, maps)
+        bins = maps.rules.bins
+        for promise in MAP_PROMISES:
+            case = in_time(SECONDS, map_case, maps, promise)
+            self.assertEqual(case is None, promise in kept)
+            self.assertEqual(in_time(SECONDS, map_keeps, maps, promise), promise in kept)
+            if case is not None:
+                self.check_shown(maps, promise, case)
+                self.assertEqual(in_time(SECONDS, map_wrong, maps, promise, 0), case[2])
+            last = in_time(SECONDS, map_wrong, maps, promise, bins - 1)
+            self.assertIn(last, (None, bins - 1))
+            right = in_time(SECONDS, map_right, maps, promise, bins - 1)
+            self.assertEqual(right, bins - 1 if last is None else None)
 
     def test_both_ways_tell_the_same(self):
         """Plays looked at one by one, and all plays in one circuit."""

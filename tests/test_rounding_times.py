@@ -1,8 +1,8 @@
 """Questions about heads and roundings that are right, or have a slip, are answered in good time."""
 
-import time
 import unittest
 
+from asking import in_time
 from tagblocks.headcodes import HeadCode
 from tagblocks.headrules import HeadRules
 from tagblocks.heads import Heads, Rounding
@@ -54,10 +54,7 @@ def plain_wrong(rounding, numbers):
 class Timed(unittest.TestCase):
     def asked(self, question, *arguments):
         """What a question is answered, which has to come in time."""
-        start = time.monotonic()
-        told = question(*arguments)
-        self.assertLess(time.monotonic() - start, SECONDS, (question.__name__, arguments[0].rules.wide))
-        return told
+        return in_time(SECONDS, question, *arguments)
 
 
 class Roundings(Timed):

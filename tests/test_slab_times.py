@@ -4,6 +4,7 @@ import random
 import time
 import unittest
 
+from asking import in_time
 from tagblocks.slabcodes import SlabCode
 from tagblocks.slabplay import back_play, lay_play, take_play
 from tagblocks.slabrules import SlabRules
@@ -39,10 +40,8 @@ class SlabTimes(unittest.TestCase):
 
     def asked(self, question, *arguments):
         start = time.monotonic()
-        told = question(*arguments)
-        took = time.monotonic() - start
-        self.spent, self.many = self.spent + took, self.many + 1
-        self.assertLess(took, MOST, (question.__name__, arguments[0]))
+        told = in_time(MOST, question, *arguments)
+        self.spent, self.many = self.spent + time.monotonic() - start, self.many + 1
         return told
 
     def rules(self):
