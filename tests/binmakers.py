@@ -193,6 +193,6 @@ def play_map_again(rules, code, words, number):
                     else:
                         total += plus * worth_of(word)
                 by = int(by)
-                held[words_of[0]] = {"*": total * by, "//": total // by, "|": total % by}[sign[0] if sign else "*"]
+                held[words_of[0]] = total * by if not sign or sign[0] == "*" else total // by if sign[0] == "//" else total % by
         line += 1
     return told("beyond" if code.kind == "find" else "done")

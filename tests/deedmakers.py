@@ -27,6 +27,11 @@ class Wanted(Exception):
     """A step for which there is no answer: all honest ones, with rooms up to a bound."""
 
 
+def first_words(many):
+    """The numbers of the first words of a piece; of very many only the first ones are looked at."""
+    return set(range(min(many, 10 ** 5)))
+
+
 class Again:
     """A play of a deed: pieces are dicts, own's words are told by sets of numbers."""
 
@@ -40,7 +45,7 @@ class Again:
         self.failed, self.honest, self.told, self.ended = False, True, None, "done"
         if own is not None:
             self.held["own"] = self.piece(*own)
-            self.held["own"]["words"] = set(range(own[1]))
+            self.held["own"]["words"] = first_words(own[1])
         self.first = own
         self.hand = self.held["own"]
         try:
