@@ -253,7 +253,7 @@ class Again:
             if kind == "ask":
                 kept = hand is None
             else:
-                kept = hand is own and own["room"] >= self.first[1] and own["words"] >= set(range(self.first[1]))
+                kept = hand is own and own["room"] >= self.first[1] and own["words"] >= first_words(self.first[1])
             if not kept:
                 found.append("back")
             if not self.failed:
