@@ -1,4 +1,8 @@
-"""Verdicts on heads and roundings, for all sizes in use and all words."""
+"""Verdicts on heads and roundings, for all sizes in use and all words.
+
+A question is asked of plays on open numbers first, which is quick for most codes, and where that is given up of open
+bits, which is slower but is told of codes that mix their words, too.
+"""
 
 from tagblocks.bitwords import BitWords
 from tagblocks.circuits import NO, YES, Circuit
@@ -6,6 +10,7 @@ from tagblocks.checks import check_number, check_promise
 from tagblocks.errors import OtherRules
 from tagblocks.headquestions import FLAGS, HEAD_PROMISES, ROUND_PROMISES
 from tagblocks.headquestions import HeadGoals, RoundGoals, least_of, parted
+from tagblocks.headsoon import HeadsRight, RoundBreak, RoundParting, RoundRight, first_soon, head_breaks
 
 
 class HeadAsked:
@@ -18,27 +23,26 @@ class HeadAsked:
         self.bits = [NO] * low + self.words.open_bits(heads.rules.wide - low)
         self.goals = HeadGoals(heads, self.words, self.words.of_bits(self.bits))
 
-    def least_size(self, goal, size):
-        """The least size in use from one on where a goal holds, or None."""
-        low = self.rules.next_in_use(size)
-        return None if low is None else least_of(self.words, self.bits, goal, low, self.rules.last_size())
-
-
-def least_told(numbers):
-    """The least one of some numbers, of which some may be None; None if all are.
-
-    Each promise is asked about by itself: what breaks one of them is found, or seen to be nowhere, much sooner than
-    what breaks any of them.
-    """
-    return min([number for number in numbers if number is not None], default=None)
+    def least_size(self, goal, low, high):
+        """The least size in use from one to another one where a goal holds, or None."""
+        return least_of(self.words, self.bits, goal, low, high)
 
 
 def head_break(heads, promise, size):
     """The least size in use from one on at which heads break a promise with some flags, or None."""
     check_promise(promise, HEAD_PROMISES)
     check_number(size)
+    low = heads.rules.next_in_use(size)
+    return None if low is None else head_break_between(heads, promise, low, heads.rules.last_size())
+
+
+def head_break_between(heads, promise, low, high):
+    """The least size in use from one to another one at which heads break a promise with some flags, or None."""
+    is_told, found = first_soon(head_breaks(heads, promise), low, high, heads.rules.unit)
+    if is_told:
+        return found
     asked = HeadAsked(heads)
-    return asked.least_size(asked.goals.breaks_somehow(promise), size)
+    return asked.least_size(asked.goals.breaks_somehow(promise), low, high)
 
 
 def head_keeps(heads, promise):
@@ -54,14 +58,27 @@ def head_kept(heads):
 def head_wrong(heads, size):
     """The least size in use from one on at which heads are not right, or None."""
     check_number(size)
-    return least_told([head_break(heads, promise, size) for promise in HEAD_PROMISES])
+    low = heads.rules.next_in_use(size)
+    best = None
+    if low is not None:
+        for promise in HEAD_PROMISES:
+            high = heads.rules.last_size() if best is None else best - heads.rules.unit
+            found = head_break_between(heads, promise, low, high)
+            best = best if found is None else found
+    return best
 
 
 def head_right(heads, size):
     """The least size in use from one on at which heads are right, or None."""
     check_number(size)
+    low = heads.rules.next_in_use(size)
+    if low is None:
+        return None
+    is_told, found = first_soon([HeadsRight(heads)], low, heads.rules.last_size(), heads.rules.unit)
+    if is_told:
+        return found
     asked = HeadAsked(heads)
-    return asked.least_size(asked.goals.wrong() ^ 1, size)
+    return asked.least_size(asked.goals.wrong() ^ 1, low, heads.rules.last_size())
 
 
 def head_case(heads, promise):
@@ -88,18 +105,30 @@ class RoundAsked:
         """What tells where promises are broken."""
         return RoundGoals(self.rounding, self.words, self.n)
 
-    def least_length(self, goal, n):
-        """The least word from one on where a goal holds, or None."""
-        last = (1 << self.rounding.rules.wide) - 1
-        return None if n > last else least_of(self.words, self.bits, goal, n, last)
+    def least_length(self, goal, low, high):
+        """The least word from one to another one where a goal holds, or None."""
+        return least_of(self.words, self.bits, goal, low, high)
+
+
+def last_word(rounding):
+    """The greatest word."""
+    return (1 << rounding.rules.wide) - 1
 
 
 def round_break(rounding, promise, n):
     """The least length from one on at which a rounding breaks a promise, or None."""
     check_promise(promise, ROUND_PROMISES)
     check_number(n)
+    return round_break_between(rounding, promise, n, last_word(rounding))
+
+
+def round_break_between(rounding, promise, low, high):
+    """The least length from one to another one at which a rounding breaks a promise, or None."""
+    is_told, found = first_soon([RoundBreak(rounding, promise)], low, high, 1)
+    if is_told:
+        return found
     asked = RoundAsked(rounding)
-    return asked.least_length(asked.round_goals().breaks(promise), n)
+    return asked.least_length(asked.round_goals().breaks(promise), low, high)
 
 
 def round_keeps(rounding, promise):
@@ -115,22 +144,33 @@ def round_kept(rounding):
 def round_wrong(rounding, n):
     """The least length from one on at which a rounding is not right, or None."""
     check_number(n)
-    return least_told([round_break(rounding, promise, n) for promise in ROUND_PROMISES])
+    best = None
+    for promise in ROUND_PROMISES:
+        high = last_word(rounding) if best is None else best - 1
+        found = round_break_between(rounding, promise, n, high)
+        best = best if found is None else found
+    return best
 
 
 def round_right(rounding, n):
     """The least length from one on at which a rounding is right, or None."""
     check_number(n)
+    is_told, found = first_soon([RoundRight(rounding)], n, last_word(rounding), 1)
+    if is_told:
+        return found
     asked = RoundAsked(rounding)
-    return asked.least_length(asked.round_goals().right(), n)
+    return asked.least_length(asked.round_goals().right(), n, last_word(rounding))
 
 
 def round_parting(rounding, other):
     """The least word for which two roundings do not do the same, or None."""
     if rounding.rules != other.rules:
         raise OtherRules("heads")
+    is_told, found = first_soon([RoundParting(rounding, other)], 0, last_word(rounding), 1)
+    if is_told:
+        return found
     asked = RoundAsked(rounding)
-    return asked.least_length(parted(rounding, other, asked.words, asked.n), 0)
+    return asked.least_length(parted(rounding, other, asked.words, asked.n), 0, last_word(rounding))
 
 
 def round_alike(rounding, other):

@@ -18,7 +18,7 @@ def least_name(rows, name, low, high, solved):
         return first
     step = 1
     first += 1
-    while not solved.can_hold([*rows, {0: -first, name: 1}, {0: first + step, name: -1}]):
+    while not (solved.is_given_up or solved.can_hold([*rows, {0: -first, name: 1}, {0: first + step, name: -1}])):
         first += step + 1
         step = 2 * step
     last = first + step

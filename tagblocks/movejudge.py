@@ -18,7 +18,7 @@ class MoveJudge:
         self.writes = machine.writes
         self.ended = ended
         self.length = machine.worths["len"]
-        self.first_name = len(machine.numbers.tops) + 1
+        self.first_name = machine.numbers.next_name()
 
     def breaches_of(self, promise):
         """The breaches of a promise."""

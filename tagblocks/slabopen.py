@@ -80,8 +80,9 @@ class OpenSlab:
             self.found = {0: 0, MANY: 1}
         else:
             # So many places ahead of it are lent, and the others behind it.
-            self.found = {0: 0, self.numbers.new_name(0, self.rules.top): 1}
-            self.numbers.define([plus({0: 0, USED: 1}, -1, self.found)])
+            used = {0: 0, USED: 1}
+            self.found = {0: 0, self.numbers.name_for(0, self.rules.top, used, 1): 1}
+            self.numbers.define([plus(used, -1, self.found)])
         word = self.numbers.quotient(self.found, self.rules.wide)
         self.worths["word"] = word
         self.worths["bit"] = plus(self.found, -self.rules.wide, word)

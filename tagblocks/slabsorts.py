@@ -1,6 +1,7 @@
 """The sorts of plays of slab codes: what is open in them, and what is known of it from the start."""
 
 from tagblocks.forms import level, negated, plain, plus, shifted
+from tagblocks.opennumbers import spread
 
 # The names of the open numbers: a size, or many places, map words, lent places; an address, a place, and what is over.
 SIZE = 1
@@ -30,12 +31,12 @@ class SlabSort:
         if self.kind == "lay":
             return {SIZE: self.rules.head + 1 + self.rules.each}
         lows = {MANY: 1, MAPS: 1, USED: 0}
-        if self.kind == "back":
+        if self.where == "ahead":
             lows[AT] = 0
-            if self.where in ("place", "between"):
-                lows[PLACE] = 0
-            if self.where == "between":
-                lows[OVER] = 1
+        if self.where in ("place", "between"):
+            lows[PLACE] = 0
+        if self.where in ("behind", "between"):
+            lows[OVER] = 0 if self.where == "behind" else 1
         return lows
 
     def name_tops(self):
@@ -43,11 +44,11 @@ class SlabSort:
         top = self.rules.top
         if self.kind == "lay":
             return {SIZE: top}
-        tops = {name: top for name in self.name_lows()}
-        tops[MANY] = self.rules.places_for(top)
+        many = self.rules.places_for(top)
+        tops = {AT: top, MANY: many, MAPS: self.rules.least_maps(many), USED: many, PLACE: many - 1, OVER: top}
         if self.where == "between":
             tops[OVER] = self.rules.each - 1
-        return tops
+        return {name: tops[name] for name in self.name_lows()}
 
     def base(self):
         """The address of the first place."""
@@ -57,30 +58,34 @@ class SlabSort:
         """The rows that hold from the start."""
         if self.kind == "lay":
             return []
-        many, used = {0: 0, MANY: 1}, {0: 0, USED: 1}
-        maps = plus(negated(many), self.rules.wide, {0: 0, MAPS: 1})
-        rows = [maps, shifted(negated(maps), self.rules.wide - 1)]
-        lent = plus(many, -1, used)
-        rows = rows + (level(lent) if self.is_full else [shifted(lent, -1)])
+        lent = {0: 0, MANY: 1, USED: -1}
+        rows = level(lent) if self.is_full else [shifted(lent, -1)]
         if self.kind == "back" and self.is_owing:
-            rows.append(shifted(used, -1))
+            rows.append({0: -1, USED: 1})
         return rows + self.address_rows()
+
+    def maps_rows(self):
+        """The rows that tell the number of map words."""
+        spare = {0: 0, MANY: -1, MAPS: self.rules.wide}
+        return [spare, shifted(negated(spare), self.rules.wide - 1)]
+
+    def address(self):
+        """The address that is handed to back."""
+        if self.where == "ahead":
+            return {0: 0, AT: 1}
+        place = {0: 0, (MANY if self.where == "behind" else PLACE): 1}
+        found = plus(self.base(), self.rules.each, place)
+        return found if self.where == "place" else plus(found, 1, {0: 0, OVER: 1})
 
     def address_rows(self):
         """The rows that tell where the address is."""
         if self.where is None:
             return []
-        behind = plus({0: 0, AT: 1}, -1, self.base())
-        many, place = {0: 0, MANY: 1}, {0: 0, PLACE: 1}
         if self.where == "ahead":
-            return [shifted(negated(behind), -1)]
+            return [shifted(plus(self.base(), -1, self.address()), -1)]
         if self.where == "behind":
-            return [plus(behind, -self.rules.each, many)]
-        inside = [shifted(plus(many, -1, place), -1)]
-        rest = plus(behind, -self.rules.each, place)
-        if self.where == "between":
-            rest = plus(rest, -1, {0: 0, OVER: 1})
-        return inside + level(rest)
+            return [shifted(negated(self.address()), self.rules.top)]
+        return [{0: -1, MANY: 1, PLACE: -1}]
 
     def start_worths(self):
         """What the names of sums of the kind stand for at the start, but those that are fixed by rules."""
@@ -90,8 +95,33 @@ class SlabSort:
         for name in ("word", "bit", "number", "at"):
             found[name] = plain(0)
         if self.kind == "back":
-            found["at"] = {0: 0, AT: 1}
+            found["at"] = self.address()
         return found
+
+    def points(self):
+        """Some sizes or pages, with addresses, told by the names: where rows hold at one of them, they can hold."""
+        rules = self.rules
+        if self.kind == "lay":
+            low, high = rules.head + 1 + rules.each, rules.top
+            return [{SIZE: size} for size in spread(low, high, rules.each * rules.wide + 1)]
+        found = []
+        for many in spread(1, rules.places_for(rules.top), rules.wide):
+            found = found + self.points_with(many)
+        return found
+
+    def points_with(self, many):
+        """Some pages with so many places, with addresses."""
+        rules = self.rules
+        page = {MANY: many, MAPS: rules.least_maps(many)}
+        first = rules.head + page[MAPS]
+        addresses = {
+            "place": [{PLACE: many - 1}, {PLACE: 0}, {PLACE: many // 2}],
+            "ahead": [{AT: first - 1}, {AT: 0}],
+            "behind": [{OVER: 0}, {OVER: rules.top - first - rules.each * many}],
+            "between": [{PLACE: 0, OVER: 1}, {PLACE: many - 1, OVER: rules.each - 1}]}
+        lent = [many] if self.is_full else [1, many - 1, many // 2, 0]
+        pairs = [(lent[at % len(lent)], address) for at, address in enumerate(addresses.get(self.where, [{}] * 3))]
+        return [{**page, USED: used, **address} for used, address in pairs]
 
 
 def sorts_of(rules, kind):

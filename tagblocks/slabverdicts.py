@@ -14,13 +14,14 @@ def slab_break(rules, code, promise, number):
     """The least size in use, or number of places, from one on at which a promise is broken, or None."""
     check_promise(promise, PROMISES[code.kind])
     check_number(number)
-    return slab_findings_of(rules, code).least_from(promise, number)
+    findings = slab_findings_of(rules, code)
+    return findings.least_between(promise, number, findings.last_number())
 
 
 def slab_keeps(rules, code, promise):
     """Whether a code keeps a promise."""
     check_promise(promise, PROMISES[code.kind])
-    return len(slab_findings_of(rules, code).systems_for(promise)) == 0
+    return not slab_findings_of(rules, code).is_broken(promise)
 
 
 def slab_kept(rules, code):
@@ -34,25 +35,28 @@ def slab_case(rules, code, promise):
     return slab_findings_of(rules, code).least_case(promise)
 
 
-def next_wrong(rules, code, number):
-    """The least size or number of places from one on at which a code is not right, or None."""
-    asked = [promise for promise in PROMISES[code.kind] if promise not in NOT_ASKED]
-    found = [slab_findings_of(rules, code).least_from(promise, number) for promise in asked]
-    found = [one for one in found if one is not None]
-    return min(found) if found else None
+def next_wrong(rules, code, low, high):
+    """The least size or number of places from one to another one at which a code is not right, or None."""
+    best = None
+    for promise in PROMISES[code.kind]:
+        last = high if best is None else best - 1
+        if promise not in NOT_ASKED and low <= last:
+            found = slab_findings_of(rules, code).least_between(promise, low, last)
+            best = best if found is None else found
+    return best
 
 
 def slab_right_at(rules, code, number):
     """Whether a code is right at a size, or a number of places."""
     check_number(number)
-    return next_wrong(rules, code, number) != number
+    return next_wrong(rules, code, number, number) is None
 
 
-def next_wrong_places(slab, many):
-    """The least number of places from one on at which take or back is not right, or None."""
-    found = [next_wrong(slab.rules, code, many) for code in (slab.take, slab.back)]
-    found = [one for one in found if one is not None]
-    return min(found) if found else None
+def next_wrong_places(slab, low, high):
+    """The least number of places from one to another one at which take or back is not right, or None."""
+    found = next_wrong(slab.rules, slab.take, low, high)
+    other = next_wrong(slab.rules, slab.back, low, high if found is None else found - 1)
+    return found if other is None else other
 
 
 def slab_wrong(slab, size):
@@ -62,13 +66,14 @@ def slab_wrong(slab, size):
     size = max(size, rules.head + 1 + rules.each)
     if size > rules.top:
         return None
-    found = [next_wrong(rules, slab.lay, size)]
+    found = next_wrong(rules, slab.lay, size, rules.top)
     # Where lay is right, the number of places is the greatest one, which grows with the size.
-    many = next_wrong_places(slab, rules.places_for(size))
-    if many is not None:
-        found.append(max(size, rules.least_size(many)))
-    found = [one for one in found if one is not None]
-    return min(found) if found else None
+    last = rules.places_for(rules.top if found is None else found)
+    many = next_wrong_places(slab, rules.places_for(size), last)
+    if many is None:
+        return found
+    least = max(size, rules.least_size(many))
+    return least if found is None else min(least, found)
 
 
 def slab_is_right(slab, size):
@@ -78,4 +83,4 @@ def slab_is_right(slab, size):
     if not slab_right_at(slab.rules, slab.lay, size):
         return False
     machine, _ = play_lay(slab.rules, slab.lay, size)
-    return next_wrong_places(slab, machine.worths["many"]) != machine.worths["many"]
+    return next_wrong_places(slab, machine.worths["many"], machine.worths["many"]) is None

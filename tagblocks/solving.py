@@ -13,6 +13,8 @@ FEW_SLICES = 6
 MANY_NUMBERS = 32
 # With so many systems in the place of one, names are parted into bits.
 MANY_SYSTEMS = 100
+# What it takes to part a system grows with its rows taken three times; it counts as one for few of them.
+ROWS_AT_ONCE = 400
 # Splinters are taken only if there are no more than these.
 MANY_SPLINTERS = 4096
 
@@ -130,6 +132,25 @@ def stretches_of(rows, kept):
     return found
 
 
+def parted_soon(table, most):
+    """Whether the rows of a table can hold, or None if that is open, and how much was done to tell.
+
+    It is open when as much was done as is let; to part a system takes the longer the more rows it has.
+    """
+    waiting = [System(table, 0, 0, 1, False)]
+    done = 0
+    while waiting and done < most:
+        system = waiting.pop()
+        if system.table is not None:
+            many = len(system.table)
+            done += 1 + many * many * many // ROWS_AT_ONCE
+            parts = smaller(system)
+            if parts is None:
+                return True, done
+            waiting.extend(parts)
+    return None if waiting else False, done
+
+
 def can_hold_by_parts(table, most):
     """Whether the rows of a table can hold; None if that is open when so many systems were parted (None for no end)."""
     waiting = [System(table, 0, 0, 1, False)]
@@ -161,10 +182,14 @@ def table_can_hold(table):
 
 
 class Solved:
-    """Whether rows can hold, for all rows that were asked about so far: many ways ask the same."""
+    """Whether rows can hold, for all rows that were asked about so far: many ways ask the same.
+
+    It is given up where more was to be done than is let; then answers mean nothing.
+    """
 
     def __init__(self):
         self.known = {}
+        self.is_given_up = False
 
     def can_hold(self, rows):
         """Whether there are whole numbers for which all rows hold."""
@@ -173,5 +198,26 @@ class Solved:
             return False
         key = tuple(sorted(table.items()))
         if key not in self.known:
-            self.known[key] = table_can_hold(table)
+            self.known[key] = self.found(table)
         return self.known[key]
+
+    def found(self, table):
+        """Whether the rows of a table can hold."""
+        return table_can_hold(table)
+
+
+class SolvedSoon(Solved):
+    """Whether rows can hold, as far as so much work tells it."""
+
+    def __init__(self, left):
+        super().__init__()
+        self.left = left
+
+    def found(self, table):
+        """Whether the rows of a table can hold."""
+        if self.is_given_up:
+            return False
+        held, done = parted_soon(table, self.left)
+        self.left -= 1 + done
+        self.is_given_up = held is None or self.left <= 0
+        return bool(held)

@@ -4,7 +4,7 @@ from tagblocks.binverdicts import ask_floor, bin_floor, bin_wrong, map_wrong
 from tagblocks.blockverdicts import next_wrong_block
 from tagblocks.deedverdicts import SORTS, deed_next_piece, deed_next_wrong
 from tagblocks.headplay import play_head
-from tagblocks.headverdicts import head_wrong, least_told, round_break
+from tagblocks.headverdicts import head_wrong, round_break
 from tagblocks.mapfindings import MAP_PROMISES
 from tagblocks.moveverdicts import move_wrong
 from tagblocks.slabverdicts import slab_wrong
@@ -15,6 +15,11 @@ ROUND_ASKED = ("even", "enough")
 BIN_ASKED = ("inside", "safe")
 DEED_ASKED = ("inside", "whole", "owed", "back", "told")
 TOP_ASKED = (("inside", "true", "enough"), ("inside", "true", "rest"))
+
+
+def least_told(numbers):
+    """The least one of some numbers, of which some may be None; None if all are."""
+    return min([number for number in numbers if number is not None], default=None)
 
 
 def reads_fences(heads):

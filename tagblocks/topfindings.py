@@ -65,7 +65,7 @@ def play_behind(machine, code):
     if not machine.numbers.can_be(rows):
         return None
     numbers = machine.numbers
-    numbers.rows = numbers.rows + rows
+    numbers.let_hold(rows)
     return TopMachine(code, numbers, machine.worths["size"], machine.worths["top"], None)
 
 

@@ -78,7 +78,7 @@ class TopJudge:
         changed = unlike(self.size, self.machine.start_size) + unlike(self.top, self.machine.start_top)
         if self.rules.limit is None:
             return [[]]
-        pages = {0: 0, len(self.machine.numbers.tops) + 1: self.rules.page}
+        pages = {0: 0, self.machine.numbers.next_name(): self.rules.page}
         room = shifted(negated(self.machine.start_size), self.rules.limit)
         return [*changed, [plus(pages, -1, self.missing()), plus(room, -1, pages)]]
 

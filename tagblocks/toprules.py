@@ -3,6 +3,14 @@
 from tagblocks.errors import BadRule
 from tagblocks.texts import is_from
 
+# Numbers of rules have up to 30 figures.
+FIRST_TOO_GREAT = 10 ** 30
+
+
+def is_rule(value, least):
+    """Whether a value is an integer from the least one on that rules can have."""
+    return is_from(value, least) and value < FIRST_TOO_GREAT
+
 
 class TopRules:
     """Numbers of words: unit, the least block, a page, the fence; and limit, waste, keep and idle."""
@@ -22,21 +30,21 @@ class TopRules:
 
     def _first_wrong(self):
         """The first of the rules that is none, or None."""
-        if not is_from(self.unit, 1):
+        if not is_rule(self.unit, 1):
             return "unit"
-        if not is_from(self.least, self.unit) or self.least % self.unit != 0:
+        if not is_rule(self.least, self.unit) or self.least % self.unit != 0:
             return "least"
-        if not is_from(self.page, self.unit) or self.page % self.unit != 0:
+        if not is_rule(self.page, self.unit) or self.page % self.unit != 0:
             return "page"
-        if not is_from(self.fence, 0) or self.fence > self.page or self.fence % self.unit != 0:
+        if not is_rule(self.fence, 0) or self.fence > self.page or self.fence % self.unit != 0:
             return "fence"
-        if self.limit is not None and not is_from(self.limit, self.page):
+        if self.limit is not None and not is_rule(self.limit, self.page):
             return "limit"
-        if not is_from(self.waste, 0):
+        if not is_rule(self.waste, 0):
             return "waste"
-        if not is_from(self.keep, 0):
+        if not is_rule(self.keep, 0):
             return "keep"
-        if self.idle is not None and not is_from(self.idle, self.page + max(self.keep, self.least)):
+        if self.idle is not None and not is_rule(self.idle, self.page + max(self.keep, self.least)):
             return "idle"
         return None
 

@@ -64,6 +64,25 @@ class RulesTest(unittest.TestCase):
             for value in values + [one for one in NO_INTEGERS if one is not None or name not in ("limit", "idle")]:
                 arguments = good[:at] + (value,) + ("x",) * (7 - at)
                 self.assertEqual(error_of(TopRules, *arguments), ("BadRule", name), value)
+    def test_numbers_of_top_rules_have_thirty_figures(self):
+        first = 10 ** 30
+        # For each name the greatest number of 30 figures that it can be, beside others that fit.
+        most = {"unit": (first - 1, first - 1, first - 1, 0), "least": (4, first - 4, 64, 4),
+                "page": (4, 8, first - 4, 4), "fence": (4, 8, first - 4, first - 4),
+                "limit": (4, 8, 64, 4, first - 1), "waste": (4, 8, 64, 4, None, first - 1),
+                "keep": (4, 8, 64, 4, None, 0, first - 1), "idle": (4, 8, 64, 4, None, 0, 0, first - 1)}
+        for at, (name, numbers) in enumerate(most.items()):
+            self.assertEqual(getattr(TopRules(*numbers), name), numbers[at])
+            for great in (first, first + 4, 10 ** 60):
+                arguments = numbers[:at] + (great,) + ("x",) * (7 - at)
+                self.assertEqual(error_of(TopRules, *arguments), ("BadRule", name))
+        self.assertEqual(error_of(TopRules, first, first, first, 0), ("BadRule", "unit"))
+        self.assertEqual(error_of(TopRules, 4, 8, first, first), ("BadRule", "page"))
+        # with keep of 30 nines idle would be a number of 31 figures
+        self.assertEqual(error_of(TopRules, 4, 8, 64, 4, None, 0, first - 1, first + 63), ("BadRule", "idle"))
+        TopRules(4, 8, 64, 4, None, 0, first - 65, first - 1)
+
+    def test_idle_is_not_too_small(self):
         # idle is at least page and the greater one of keep and least.
         self.assertEqual(error_of(TopRules, 4, 8, 64, 4, None, 0, 0, 71), ("BadRule", "idle"))
         TopRules(4, 8, 64, 4, None, 0, 0, 72)

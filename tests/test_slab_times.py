@@ -1,19 +1,20 @@
-"""Some hundreds of questions about slabs in words of 12 to 64 bits are answered in good time."""
+"""Some thousands of questions about slabs in words of 12 to 64 bits are answered in good time."""
 
 import random
 import time
 import unittest
 
 from asking import in_time
+from slabmakers import SlabChance
 from tagblocks.slabcodes import SlabCode
 from tagblocks.slabplay import back_play, lay_play, take_play
 from tagblocks.slabrules import SlabRules
 from tagblocks.slabs import Slab
 from tagblocks.slabverdicts import (slab_break, slab_case, slab_is_right, slab_keeps, slab_kept, slab_right_at, slab_wrong)
 
-# For all questions of a test together, and for the slowest one.
-SECONDS = 150
-MOST = 15
+# For one question on the average, and for the slowest one.
+MEAN = 0.02
+MOST = 10
 LAY = "a = size - head\na = a * wide\nmany = a // {part}\na = many + {less}\nmaps = a // wide"
 TAKE = ("if used is many\nno\nend\nfind\na = word * wide\nnumber = a + bit\nb = number * each\nat = base + b\nset\n"
         "used = used + 1\nif used is many\nunlist\nend")
@@ -31,6 +32,9 @@ def texts_of(rules, shift):
     times = (1 << shift) // rules.each + 1
     number = "number = a // each" if shift == 0 else f"a = a * {times}\nnumber = a >> {shift}"
     return {"lay": LAY.format(part=rules.each * rules.wide + 1, less=rules.wide - 1), "take": TAKE, "back": BACK.format(number=number)}
+CAREFUL_BACK = ("if at < base\nno\nend\na = at - base\nnumber = a // each\nb = number * each\nword = number // wide\n"
+                "bit = number mod wide\nif number < many and b is a and is set\nclear\nif used is 1\nif many is 1\nlist\nend\n"
+                "unlist\ndrop\nelse\nif used is many\nlist\nend\nend\nused = used - 1\nelse\nno\nend")
 
 
 class SlabTimes(unittest.TestCase):
@@ -44,9 +48,13 @@ class SlabTimes(unittest.TestCase):
         self.spent, self.many = self.spent + time.monotonic() - start, self.many + 1
         return told
 
+    def check_time(self, least):
+        self.assertGreater(self.many, least)
+        self.assertLess(self.spent, MEAN * self.many)
+
     def rules(self):
-        for wide in (12, 16, 21, 32, 47, 64):
-            for head, each in ((0, 1), (15, 10), (2, 6), (1, 31)):
+        for wide in (12, 16, 20, 21, 32, 47, 64):
+            for head, each in ((0, 1), (15, 10), (2, 6), (1, 31), (15, 23), (8, 22)):
                 yield SlabRules(wide, head, each)
 
     def ask_all(self, rules, kind, text):
@@ -84,11 +92,11 @@ class SlabTimes(unittest.TestCase):
         for rules in self.rules():
             for kind, text in texts_of(rules, chance.choice([0, 9, 12, 21])).items():
                 one, other = chance.choice(SLIPS[kind])
-                for changed in (text, text.replace(one, other)):
+                slip = SlabChance(chance, 5000).code(kind, 2, [text, CAREFUL_BACK if kind == "back" else text]).text
+                for changed in (text, text.replace(one, other), slip):
                     with self.subTest(kind=kind, wide=rules.wide, head=rules.head, each=rules.each):
                         self.ask_all(rules, kind, changed)
-        self.assertGreater(self.many, 500)
-        self.assertLess(self.spent, SECONDS)
+        self.check_time(3000)
 
     def test_slabs(self):
         chance = random.Random(24)
@@ -100,7 +108,7 @@ class SlabTimes(unittest.TestCase):
                 for changed in (texts, {**texts, kind: texts[kind].replace(one, other)}):
                     with self.subTest(shift=shift, kind=kind, wide=rules.wide, head=rules.head, each=rules.each):
                         self.check_slab(Slab(rules, *[SlabCode(name, text) for name, text in changed.items()]))
-        self.assertLess(self.spent, SECONDS)
+        self.check_time(500)
 
     def check_slab(self, slab):
         first = slab.rules.head + 1 + slab.rules.each
@@ -126,6 +134,17 @@ class SlabTimes(unittest.TestCase):
         slab = Slab(rules, SlabCode("lay", lay), SlabCode("take", TAKE), SlabCode("back", back))
         self.assertFalse(self.asked(slab_is_right, slab, 5050))
         self.assertEqual(self.asked(slab_wrong, slab, 1628), 5050)
+
+    def test_backs_that_multiply_and_backs_with_many_tests(self):
+        back = {times: SlabCode("back", BACK.format(number=f"a = a * {times}\nnumber = a >> {shift}"))
+                for times, shift in ((1425, 15), (1490, 15), (171, 10))}
+        self.assertFalse(self.asked(slab_keeps, SlabRules(47, 15, 23), back[1425], "inside"))
+        self.assertTrue(self.asked(slab_keeps, SlabRules(32, 8, 22), SlabCode("back", CAREFUL_BACK), "inside"))
+        self.assertTrue(self.asked(slab_right_at, SlabRules(20, 1, 6), back[171], 3))
+        rules = SlabRules(32, 3, 22)
+        lay = SlabCode("lay", "a = size - head\na = a * wide\nmany = a // 705\nb = many + 31\nmaps = b // wide")
+        self.assertEqual(self.asked(slab_wrong, Slab(rules, lay, SlabCode("take", TAKE), back[1490]), 840), 60193)
+        self.assertLess(self.spent, 10 * MEAN)
 
 
 if __name__ == "__main__":

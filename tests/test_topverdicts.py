@@ -202,7 +202,7 @@ class VerdictsTest(unittest.TestCase):
         self.assertEqual(top_kept(hasty), ("inside", "true", "enough", "spare"))
 
     def test_great_numbers(self):
-        great = 10 ** 29
+        great = 10 ** 28
         rules = TopRules(8, 16, 8 * great, 8, limit=80 * great, waste=great, keep=16, idle=9 * great)
         for text in good_texts(rules)[:2]:
             self.assertEqual(top_kept(TopCode("grow", rules, text)), PROMISES["grow"])
