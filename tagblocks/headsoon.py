@@ -84,27 +84,27 @@ class HeadBreak:
         self.flags = flags
         self.kind = kind
 
-    def made(self, size, flags, numbers):
+    def made_word(self, size, flags, numbers):
         """The word that is made."""
         handed = (size, numbers.constant(flags[0]), numbers.constant(flags[1]))
         return told_open(self.heads.codes[0], self.heads.rules.wide, handed, numbers)
 
-    def told(self, kind, word, numbers):
+    def told_word(self, kind, word, numbers):
         """What a code tells of a word."""
         return told_open(self.heads.code_for(kind), self.heads.rules.wide, (word,), numbers)
 
     def is_so(self, size, numbers):
         """Whether the promise is broken."""
-        word = self.made(size, self.flags, numbers)
+        word = self.made_word(size, self.flags, numbers)
         if self.promise == "inside":
             return not numbers.below(word, numbers.constant(1 << self.heads.rules.field))
         if self.promise == "marks":
             flags = tuple([old if new is None else new for old, new in zip(self.flags, NEW_FLAGS[self.kind])])
-            return not numbers.same(self.told(self.kind, word, numbers), self.made(size, flags, numbers))
+            return not numbers.same(self.told_word(self.kind, word, numbers), self.made_word(size, flags, numbers))
         owed = size
         if self.promise != "size":
             owed = numbers.constant(self.flags[0] if self.promise == "used" else self.flags[1])
-        return not numbers.same(self.told(self.promise, word, numbers), owed)
+        return not numbers.same(self.told_word(self.promise, word, numbers), owed)
 
 
 class HeadsRight:
@@ -138,9 +138,9 @@ class RoundBreak:
     def is_so(self, n, numbers):
         """Whether the promise is broken."""
         told = told_open(self.code, self.rules.wide, (n,), numbers)
-        return self.is_broken(self.promise, n, told, numbers)
+        return self.breaks_promise(self.promise, n, told, numbers)
 
-    def is_broken(self, promise, n, told, numbers):
+    def breaks_promise(self, promise, n, told, numbers):
         """Whether what is told, or None, breaks a promise."""
         wanted = numbers.plus(n, 1, numbers.constant(self.rules.over))
         if promise == "full":
@@ -176,7 +176,7 @@ class RoundRight(RoundBreak):
         """Whether no promise is broken."""
         told = told_open(self.code, self.rules.wide, (n,), numbers)
         for promise in ROUND_PROMISES:
-            if self.is_broken(promise, n, told, numbers):
+            if self.breaks_promise(promise, n, told, numbers):
                 return False
         return True
 

@@ -14,7 +14,7 @@ def judges_of(code, sort, solved):
     """The plays of a code on all that there is of a sort."""
     judges = []
     waiting = [([], sort.start_rows())]
-    points = sort.points()
+    points = sort.page_points()
     while waiting:
         trail, known = waiting.pop()
         numbers = OpenNumbers(sort.name_lows(), sort.name_tops(), trail, known, solved, points)
@@ -55,7 +55,7 @@ class SlabFindings:
             self.judges[at] = judges_of(self.code, self.sorts[at], self.solved)
         return self.judges[at]
 
-    def is_broken(self, promise):
+    def can_break(self, promise):
         """Whether a promise is broken by some play."""
         if promise in self.broken:
             return len(self.broken[promise]) > 0
@@ -118,7 +118,7 @@ class SlabFindings:
 def handed_form(judge):
     """What is handed to a play: the address, or the number of the least bit not set."""
     if judge.page_sort.kind == "back":
-        return judge.page_sort.address()
+        return judge.page_sort.address_form()
     if judge.page_sort.is_full:
         return {0: 0, MANY: 1}
     # Where nothing was looked for, it may be any that is not lent: the first place is the least one.

@@ -69,7 +69,7 @@ class SlabSort:
         spare = {0: 0, MANY: -1, MAPS: self.rules.wide}
         return [spare, shifted(negated(spare), self.rules.wide - 1)]
 
-    def address(self):
+    def address_form(self):
         """The address that is handed to back."""
         if self.where == "ahead":
             return {0: 0, AT: 1}
@@ -82,9 +82,9 @@ class SlabSort:
         if self.where is None:
             return []
         if self.where == "ahead":
-            return [shifted(plus(self.base(), -1, self.address()), -1)]
+            return [shifted(plus(self.base(), -1, self.address_form()), -1)]
         if self.where == "behind":
-            return [shifted(negated(self.address()), self.rules.top)]
+            return [shifted(negated(self.address_form()), self.rules.top)]
         return [{0: -1, MANY: 1, PLACE: -1}]
 
     def start_worths(self):
@@ -95,10 +95,10 @@ class SlabSort:
         for name in ("word", "bit", "number", "at"):
             found[name] = plain(0)
         if self.kind == "back":
-            found["at"] = self.address()
+            found["at"] = self.address_form()
         return found
 
-    def points(self):
+    def page_points(self):
         """Some sizes or pages, with addresses, told by the names: where rows hold at one of them, they can hold."""
         rules = self.rules
         if self.kind == "lay":

@@ -21,7 +21,7 @@ def slab_break(rules, code, promise, number):
 def slab_keeps(rules, code, promise):
     """Whether a code keeps a promise."""
     check_promise(promise, PROMISES[code.kind])
-    return not slab_findings_of(rules, code).is_broken(promise)
+    return not slab_findings_of(rules, code).can_break(promise)
 
 
 def slab_kept(rules, code):

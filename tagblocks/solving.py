@@ -198,10 +198,10 @@ class Solved:
             return False
         key = tuple(sorted(table.items()))
         if key not in self.known:
-            self.known[key] = self.found(table)
+            self.known[key] = self.table_holds(table)
         return self.known[key]
 
-    def found(self, table):
+    def table_holds(self, table):
         """Whether the rows of a table can hold."""
         return table_can_hold(table)
 
@@ -213,7 +213,7 @@ class SolvedSoon(Solved):
         super().__init__()
         self.left = left
 
-    def found(self, table):
+    def table_holds(self, table):
         """Whether the rows of a table can hold."""
         if self.is_given_up:
             return False

@@ -67,7 +67,7 @@ class WordNumbers(OpenNumbers):
             if not wide:
                 return form
             for name in wide:
-                self.part(name, power - twos_in(form[name]))
+                self.part_name(name, power - twos_in(form[name]))
             form = self.opened(form)
 
     def is_wide(self, name, factor, power):
@@ -75,7 +75,7 @@ class WordNumbers(OpenNumbers):
         twos = twos_in(factor)
         return twos < power and self.tops[name] >> (power - twos) > 0
 
-    def part(self, name, power):
+    def part_name(self, name, power):
         """Parts a name into its low twos and what is above them, which mean what it meant."""
         top = self.tops[name]
         high = self.name_for(0, top >> power, {0: 0, name: 1}, 1 << power)
