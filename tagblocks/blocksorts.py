@@ -51,7 +51,10 @@ class Sort:
     def open_numbers(self, rules, trail, rows, solved):
         """The open numbers of a play."""
         lows = {OPEN_NAMES[name]: rules.least // rules.unit for name in self.open_names()}
-        return OpenNumbers(lows, {name: None for name in lows}, trail, rows, solved)
+        numbers = OpenNumbers(lows, {name: None for name in lows}, trail, rows, solved)
+        # What waits was seen to be able to hold.
+        numbers.is_sure = len(trail) > 0
+        return numbers
 
     def open_scene(self, rules, numbers):
         """The scene of a play, with own at the address 0."""

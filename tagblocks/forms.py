@@ -1,6 +1,7 @@
 """Forms: sums of names with factors. A form is a dict from names, numbers from 1 on, to factors; 0 has what is added.
 
-A row is a form that is 0 or more; a form that is 0 is two rows. No function changes a form that it is given.
+A row is a form that is 0 or more; a form that is 0 is two rows. No name has the factor 0. No function changes a form
+that it is given.
 """
 
 
@@ -13,8 +14,12 @@ def plus(one, times, other):
     """One form and another one, times a factor."""
     total = dict(one)
     for name, factor in other.items():
-        total[name] = total.get(name, 0) + times * factor
-    return {name: factor for name, factor in total.items() if factor or name == 0}
+        many = total.get(name, 0) + times * factor
+        if many or name == 0:
+            total[name] = many
+        else:
+            total.pop(name, None)
+    return total
 
 
 def shifted(form, by):

@@ -48,9 +48,17 @@ class OpenNumbers:
 
     def ends(self, form):
         """The least and the greatest number that a form can be by the ranges of its names; None for no end."""
-        least = greatest = form.get(0, 0)
-        for name, factor in form.items():
-            if name == 0:
+        return self.ends_between({0: 0}, form)
+
+    def ends_between(self, one, other):
+        """The least and the greatest number that another form can be less one of them; None for no end."""
+        if one == other:
+            return 0, 0
+        least = greatest = other.get(0, 0) - one.get(0, 0)
+        more = [(name, factor - one.get(name, 0)) for name, factor in other.items() if name]
+        less = [(name, -factor) for name, factor in one.items() if name and name not in other]
+        for name, factor in more + less:
+            if factor == 0:
                 continue
             low, high = self.lows[name], self.tops[name]
             if factor < 0:
@@ -176,22 +184,22 @@ class OpenNumbers:
 
     def below(self, one, other):
         """Whether one number is less than another one."""
-        gap = plus(other, -1, one)
-        least, greatest = self.ends(gap)
+        least, greatest = self.ends_between(one, other)
         if least is not None and least > 0:
             return True
         if greatest is not None and greatest <= 0:
             return False
+        gap = plus(other, -1, one)
         return self.once("below", gap, [(True, [shifted(gap, -1)]), (False, [negated(gap)])])
 
     def same(self, one, other):
         """Whether two numbers are equal."""
-        gap = plus(other, -1, one)
-        least, greatest = self.ends(gap)
+        least, greatest = self.ends_between(one, other)
         if least == 0 and greatest == 0:
             return True
         if (least is not None and least > 0) or (greatest is not None and greatest < 0):
             return False
+        gap = plus(other, -1, one)
         key = ("same", key_of(gap))
         if key in self.known or self.is_replayed() or (not self.is_lost and self.can_be(level(gap))):
             return self.once("same", gap, [(True, level(gap)), (False, [shifted(gap, -1)]),
@@ -234,6 +242,7 @@ class OpenNumbers:
         """A number divided by a number from 1 on, rounded down: whole parts, and a new name for the rest of them."""
         # Small factors are left, above or below 0.
         whole = {name: (2 * factor + divisor - 1) // (2 * divisor) for name, factor in number.items()}
+        whole = {name: times for name, times in whole.items() if times or name == 0}
         rest = plus(number, -divisor, whole)
         least, greatest = self.ends(rest)
         low = None if least is None else least // divisor
