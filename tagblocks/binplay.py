@@ -3,7 +3,7 @@
 from tagblocks.bincodes import MAP_KINDS
 from tagblocks.errors import BadKind, BadMap, BadNumber
 from tagblocks.headrules import is_between
-from tagblocks.mapmachine import start_machine, word_masks, worth_of_masks
+from tagblocks.mapmachine import roof_of, start_knowledge, start_machine, start_words, word_masks, worth_of_masks
 from tagblocks.runs import compared_plainly, plain_sum, run_through
 from tagblocks.texts import is_among
 
@@ -87,7 +87,9 @@ class MapPlay:
         rules = maps.rules
         ones = sum([word << (at * rules.wide) for at, word in enumerate(words)])
         always = 1 << rules.bins
-        machine = start_machine(maps, kind, number, (always - 1) & ~ones, ones)
+        start = start_words(rules)
+        known = start_knowledge(rules, (always - 1) & ~ones, ones)
+        machine = start_machine(maps, kind, number, known, start, roof_of(rules, start))
         machine.advance()
         self.ended = machine.ended
         self.number = machine.told

@@ -1,7 +1,7 @@
 """What is found of maps: for each bin the promises that are broken for some bits, and bits that show it."""
 
 from tagblocks.mapquestions import MapGoals
-from tagblocks.mapmachine import roof_of, start_machine, word_masks, worth_of_masks
+from tagblocks.mapmachine import more_told, roof_of, start_knowledge, start_machine, start_words, worth_of_masks
 
 MAP_PROMISES = ("inside", "true", "least", "kept")
 # The kinds of codes that can break a promise.
@@ -9,13 +9,6 @@ KINDS_FOR = {"inside": ("find", "mark", "clear"), "true": ("find",), "least": ("
 # So many plays of a kind, and for each bin, are looked at one by one; where there are more, all are put into a circuit.
 MOST_PLAYS = 50000
 MOST_FOR_BIN = 4000
-
-
-def breaches_of(machine, kind, number):
-    """The promises that a play breaks for some bits, and what is known then."""
-    if kind == "find":
-        return breaches_of_find(machine, number)
-    return breaches_of_change(machine, kind, number)
 
 
 def breaches_of_find(machine, number):
@@ -34,20 +27,44 @@ def breaches_of_find(machine, number):
     return broken if known.is_zero(passed) else [*broken, ("least", known)]
 
 
-def breaches_of_change(machine, kind, number):
-    """Where a play of mark or clear breaks a promise, and what is known there."""
+def open_answers(machine, kind, number):
+    """The answers with which a play that waits can break a promise.
+
+    Of many plays of find nothing is left but to tell the first bit of a word: what breaks nothing needs no play.
+    """
+    more = more_told(machine) if kind == "find" and machine.awaited is not None else None
+    if more is None:
+        return machine.answers
+    zeros = machine.known.zeros
+    bins = machine.rules.bins
+    from_here = ((1 << bins) - 1) >> number << number
+    found = []
+    for (passed, mask), at in zip(machine.answers, machine.bits):
+        told = at + more
+        is_bin = number <= told < bins and mask == 1 << told
+        if not is_bin or from_here & (mask - 1) & ~(zeros | passed):
+            found.append((passed, mask))
+    return found
+
+
+def breaches_of_change(machine, kind, number, words, roof):
+    """Where a play of mark or clear on words and their roof breaks a promise, and what is known there."""
     if machine.ended == "beyond":
         return [("inside", machine.known)]
     rules = machine.rules
-    words = [list(word_masks(rules, at)) for at in range(rules.words)]
-    words[number // rules.wide][number % rules.wide] = 1 << rules.bins if kind == "mark" else 0
-    owed = [mask for masks in words for mask in masks] + list(roof_of(rules, words))
-    found = [mask for masks in machine.words for mask in masks] + list(machine.roof)
-    for one, other in zip(found, owed):
-        if one != other:
-            known = parting(machine.known, one, other)
-            if known is not None:
-                return [("kept", known)]
+    own, at = number // rules.wide, number % rules.wide
+    bit = 1 << rules.bins if kind == "mark" else 0
+    changed = (*words[own][:at], bit, *words[own][at + 1:])
+    whole = 0
+    for mask in changed:
+        whole = whole | mask
+    owed = [*words[:own], changed, *words[own + 1:], (*roof[:own], whole, *roof[own + 1:])]
+    for found, right in zip([*machine.words, machine.roof], owed):
+        if found != right:
+            for one, other in zip(found, right):
+                known = parting(machine.known, one, other) if one != other else None
+                if known is not None:
+                    return [("kept", known)]
     return []
 
 
@@ -67,13 +84,17 @@ class Explored:
     broken promise words that show it.
     """
 
-    def __init__(self, maps, kind, number):
-        bit = 1 << number
+    def __init__(self, maps, kind, number, words, roof):
+        own = 1 << number
         self.rules = maps.rules
         self.kind = kind
         self.number = number
+        self.start = words
+        self.roof = roof
         self.words = {}
-        self.waiting = [start_machine(maps, kind, number, bit if kind == "mark" else 0, bit if kind == "clear" else 0)]
+        # Mark is handed a bin that is not set, clear one that is.
+        known = start_knowledge(self.rules, own if kind == "mark" else 0, own if kind == "clear" else 0)
+        self.waiting = [start_machine(maps, kind, number, known, words, roof)]
 
     def look_for(self, promise, most):
         """Looks at plays until one breaks a promise, or so many were looked at; how many were."""
@@ -82,12 +103,18 @@ class Explored:
             machine = self.waiting.pop()
             machine.advance()
             many += 1
-            if machine.choices is not None:
-                self.waiting.extend([machine.branch(known) for known in machine.choices])
+            if machine.answers is not None:
+                self.waiting.extend(machine.answered(open_answers(machine, self.kind, self.number)))
             else:
-                for broken, known in breaches_of(machine, self.kind, self.number):
+                for broken, known in self.breaches_of(machine):
                     self.words.setdefault(broken, self.words_where(known))
         return many
+
+    def breaches_of(self, machine):
+        """The promises that a play breaks for some bits, and what is known then."""
+        if self.kind == "find":
+            return breaches_of_find(machine, self.number)
+        return breaches_of_change(machine, self.kind, self.number, self.start, self.roof)
 
     def is_open(self, promise):
         """Whether it is open if some play breaks a promise."""
@@ -95,7 +122,7 @@ class Explored:
 
     def words_where(self, known):
         """Words for which all holds that is known: all bins are set that can be."""
-        return tuple([worth_of_masks(word_masks(self.rules, at), ~known.zeros) for at in range(self.rules.words)])
+        return tuple([worth_of_masks(masks, ~known.zeros) for masks in self.start])
 
 
 class MapFindings:
@@ -103,6 +130,8 @@ class MapFindings:
 
     def __init__(self, maps):
         self.maps = maps
+        self.words = start_words(maps.rules)
+        self.roof = roof_of(maps.rules, self.words)
         self.explored = {}
         self.left = {kind: MOST_PLAYS for kind in KINDS_FOR["inside"]}
         self.goals = {}
@@ -111,7 +140,7 @@ class MapFindings:
         """Words that show that the code of a kind breaks a promise at a bin, or None."""
         if kind not in self.goals:
             if (kind, number) not in self.explored:
-                self.explored[(kind, number)] = Explored(self.maps, kind, number)
+                self.explored[(kind, number)] = Explored(self.maps, kind, number, self.words, self.roof)
             found = self.explored[(kind, number)]
             self.left[kind] -= found.look_for(promise, min(self.left[kind], MOST_FOR_BIN))
             if not found.is_open(promise):

@@ -8,6 +8,9 @@ from tagblocks.headrules import is_between
 from tagblocks.runs import compared_plainly, plain_sum, test_holds
 from tagblocks.texts import names_in
 
+# Lines that set a register to what is made of a sum.
+RECKONED = ("set", "times", "divided", "rest")
+
 
 class Knowledge:
     """What is known of the bins: zeros, a mask of those not set, and masks of each of which some bin is set."""
@@ -27,6 +30,13 @@ class Knowledge:
                 return True
         return False
 
+    def sets_inside(self, masks):
+        """Of the masks of each of which some bin is set those that lie in a pattern, without bins that are not set."""
+        whole = self.zeros
+        for mask in masks:
+            whole = whole | mask
+        return [one & ~self.zeros for one in self.sets if one & ~whole == 0]
+
     def with_answer(self, zeros, mask):
         """What is known if no bin of a mask is set, and some of another one (0 for none) is; None if that cannot be."""
         if zeros and self.is_set(zeros):
@@ -40,7 +50,7 @@ class Knowledge:
 
 def start_knowledge(rules, zeros, ones):
     """What is known at the start: two masks of bins, and that the one behind all bins counts as set."""
-    sets = [1 << at for at in range(rules.bins) if ones >> at & 1]
+    sets = [1 << at for at in range(ones.bit_length()) if ones >> at & 1]
     return Knowledge(zeros, (*sets, 1 << rules.bins))
 
 
@@ -66,12 +76,14 @@ def worth_of_masks(masks, ones):
     return sum([1 << at for at, mask in enumerate(masks) if mask & ones])
 
 
-def start_machine(maps, kind, number, zeros, ones):
-    """The play of the code of a kind for a bin, where the bins of two masks are known not to be set, to be set."""
-    rules = maps.rules
-    words = [word_masks(rules, at) for at in range(rules.words)]
-    known = start_knowledge(rules, zeros, ones)
-    machine = MapMachine(maps.code_for(kind), rules, known, words, roof_of(rules, words))
+def start_words(rules):
+    """The words at the start."""
+    return [word_masks(rules, at) for at in range(rules.words)]
+
+
+def start_machine(maps, kind, number, known, words, roof):
+    """The play of the code of a kind for a bin on words and their roof, of whose bins something is known."""
+    machine = MapMachine(maps.code_for(kind), maps.rules, known, words, roof)
     machine.worths["bin"] = number
     return machine
 
@@ -80,18 +92,63 @@ def names_read(step):
     """The names of numbers that a step reads."""
     if step[0] == "if":
         return [side for _, part in step[1] if part[0] != "empty" for side in part[1:] if isinstance(side, str)]
-    if step[0] in ("set", "times", "divided", "rest"):
+    if step[0] in RECKONED:
         return names_in(step[2])
     if step[0] in ("word", "write word", "from", "with", "without", "tell"):
         return [step[-1]] if isinstance(step[-1], str) else []
     return []
 
 
+def reckoned(step, worths):
+    """What a register is set to."""
+    worth = plain_sum(step[2], worths)
+    if step[0] == "times":
+        return worth * step[3]
+    if step[0] == "divided":
+        return worth // step[3]
+    return worth % step[3] if step[0] == "rest" else worth
+
+
+def more_told(machine):
+    """How much more than the awaited first bit find tells, if nothing but sums stand between; otherwise None."""
+    outline = machine.code.outline
+    worths = dict(machine.worths)
+    firsts = dict(machine.firsts)
+    firsts.pop(machine.awaited)
+    more = {machine.awaited: 0}
+    line = machine.line
+    while line <= outline.many_lines():
+        step = outline.step_at(line)
+        if step[0] == "tell":
+            return more.get(step[1])
+        if step[0] in RECKONED:
+            opened = [(sign, term) for sign, term in step[2] if term in more]
+            if [term for term in names_in(step[2]) if term in firsts]:
+                return None
+            if not opened:
+                worth = reckoned(step, worths)
+                more.pop(step[1], None)
+            elif step[0] == "set" and len(opened) == 1 and opened[0][0] == 1:
+                # What is added to the first bit is the sum with 0 in the place of its name.
+                worth = plain_sum(step[2], {**worths, opened[0][1]: 0}) + more[opened[0][1]]
+                more[step[1]] = worth
+            else:
+                return None
+            worths[step[1]] = worth
+            firsts.pop(step[1], None)
+        elif step[0] not in ("end", "else"):
+            return None
+        line = outline.target_at(line) if step[0] == "else" else line + 1
+    return None
+
+
 class MapMachine:
-    """A play of a map code. choices is None, or has what can be known where a play waits for an answer.
+    """A play of a map code. answers is None, or has pairs of masks where the play waits to know which one holds: that
+    no bin of the first mask is set, and some bin of the other one (any for 0).
 
     ended is "done" while the play goes on. A register that is the first bit of a pattern is not worked out before it
-    is read: firsts has the pattern, which surely is not empty.
+    is read: firsts has the pattern, which surely is not empty. Where the play waits for one, awaited is its name, and
+    bits are the numbers of the bits of the answers.
     """
 
     def __init__(self, code, rules, known, words, roof):
@@ -103,10 +160,17 @@ class MapMachine:
         self.line = 1
         self.ended = "done"
         self.told = None
-        self.choices = None
+        self.answers = None
+        self.awaited = None
+        self.bits = []
         self.worths = {"bin": 0, "a": 0, "b": 0, "c": 0}
         self.firsts = {}
         self.patterns = {"p": (0,) * rules.wide, "q": (0,) * rules.wide}
+
+    def answered(self, answers):
+        """The same play at the same line, with some answers, as far as they can be."""
+        known = [self.known.with_answer(zeros, mask) for zeros, mask in answers]
+        return [self.branch(one) for one in known if one is not None]
 
     def branch(self, known):
         """The same play at the same line, which knows more."""
@@ -136,7 +200,7 @@ class MapMachine:
                 return
             elif step[0] == "end" or self.play_step(step):
                 self.line += 1
-            elif self.choices is None:
+            elif self.answers is None:
                 self.ended = "beyond"
             else:
                 return
@@ -158,6 +222,7 @@ class MapMachine:
             if name in self.firsts:
                 first = self.first_of(self.firsts[name])
                 if first is None:
+                    self.awaited = name
                     return False
                 self.set_name(name, first)
         return True
@@ -170,11 +235,6 @@ class MapMachine:
     def worth_of(self, term):
         """The number that a name or number stands for."""
         return self.worths[term] if isinstance(term, str) else term
-
-    def offer(self, answers):
-        """Waits for one of some answers, pairs of masks, of those that can be."""
-        known = [self.known.with_answer(zeros, mask) for zeros, mask in answers]
-        self.choices = [one for one in known if one is not None]
 
     def part_holds(self, part):
         """Whether a part of a test holds; None if the play waits for that."""
@@ -191,29 +251,34 @@ class MapMachine:
             return True
         if self.known.is_set(whole):
             return False
-        self.offer([(whole, 0), (0, whole)])
+        self.answers = [(whole, 0), (0, whole)]
         return None
 
     def first_of(self, masks):
         """The number of the least bit of a pattern that surely is not empty; None if the play waits for it."""
+        known = self.known
+        sets = known.sets_inside(masks)
         passed = 0
         answers = []
+        bits = []
         for at, mask in enumerate(masks):
-            if self.known.is_zero(mask & ~passed):
+            if mask & ~passed & ~known.zeros == 0:
                 continue
             answers.append((passed, mask))
-            if self.known.is_set(mask | passed):
-                if len(answers) == 1:
-                    return at
-                break
+            bits.append(at)
             passed = passed | mask
-        self.offer(answers)
+            if [True for one in sets if one & ~passed == 0]:
+                break
+        if len(bits) == 1:
+            return bits[0]
+        self.answers = answers
+        self.bits = bits
         return None
 
     def play_step(self, step):
         """Plays a line; whether it was neither beyond nor waits."""
-        if step[0] in ("set", "times", "divided", "rest"):
-            self.set_name(step[1], self.reckoned(step))
+        if step[0] in RECKONED:
+            self.set_name(step[1], reckoned(step, self.worths))
             return True
         if step[0] == "first":
             masks = self.patterns[step[2]]
@@ -232,15 +297,6 @@ class MapMachine:
         else:
             self.patterns[step[1]] = self.patterns[step[2]]
         return True
-
-    def reckoned(self, step):
-        """What a register is set to."""
-        worth = plain_sum(step[2], self.worths)
-        if step[0] == "times":
-            return worth * step[3]
-        if step[0] == "divided":
-            return worth // step[3]
-        return worth % step[3] if step[0] == "rest" else worth
 
     def play_word(self, step):
         """Plays a line that reads or writes a word; whether there is such a word."""
