@@ -42,9 +42,10 @@ def last_alike(worth_of, low, high, guess):
     """The last number up to high with the worth of low, where those with it are side by side; guess may be near it."""
     worth = worth_of(low)
     reach = 1
-    if low < guess < high and worth_of(guess) == worth:
+    guess = min(guess, high)
+    if low < guess and worth_of(guess) == worth:
         low = guess
-        if worth_of(guess + 1) != worth:
+        if guess == high or worth_of(guess + 1) != worth:
             return guess
     while low + reach <= high and worth_of(low + reach) == worth:
         low = low + reach
@@ -62,13 +63,16 @@ def last_alike(worth_of, low, high, guess):
 def pieces_of(asked, low, high):
     """The pieces from one number of units to another one."""
     pieces = []
+    guess = low
     while low <= high:
         machine = asked.play(low)
-        last = last_alike(asked.trace_at, low, high, low)
+        last = last_alike(asked.trace_at, low, high, guess)
         if machine.ended == "done":
             pieces = pieces + done_pieces(asked, low, last, machine.is_looking)
         else:
             pieces.append(Piece(low, last, machine.ended, None, False))
+        # Numbers with so many bits are twice as many as those with one bit less.
+        guess = last + 2 * (last - low + 1)
         low = last + 1
     return pieces
 
