@@ -12,9 +12,9 @@ class OpenNumbers:
 
     lows and tops tell the range of each name, None for no end. defined has the rows that tell what new names mean;
     meanings has those of names that there is a number for whatever the other ones are, which may be left out;
-    quotients has the ones of forms that were divided before.
-    Where no answer can be, as the rows at the start cannot hold, the way is lost, and its answers mean nothing. known
-    has the answers of this way; solved, which other ways share, remembers which rows can hold.
+    quotients has the ones of forms that were divided before. Where no answer can be, as the rows at the start cannot
+    hold, the way is lost, and its answers mean nothing. known has the answers of this way; solved, which other ways
+    share, remembers which rows can hold.
 
     points are some numbers that the names can have, a dict for each: where rows hold at one of them, they can hold,
     and nothing is left to be solved. untried are the rows of this way that the points have not been tried with. The
@@ -102,13 +102,17 @@ class OpenNumbers:
         """Whether more rows can hold on this way."""
         return self.holds_at_point(more) or self.solved.can_hold(self.needed_rows(more))
 
-    def holds_at_point(self, more):
-        """Whether all rows of this way, and more, hold at one of the points."""
+    def points_left(self):
+        """The points at which all rows of this way hold."""
         if self.untried:
             rows = self.untried
             self.points = [point for point in self.points if hold_at(rows, point)]
             self.untried = []
-        for point in self.points:
+        return self.points
+
+    def holds_at_point(self, more):
+        """Whether all rows of this way, and more, hold at one of the points."""
+        for point in self.points_left():
             if hold_at(more, point):
                 return True
         return False
@@ -116,7 +120,7 @@ class OpenNumbers:
     def least_at_points(self, rows, name, low, high):
         """The least number from one to another one that a name has at a point where rows hold, or None."""
         found = None
-        for point in self.points:
+        for point in self.points_left():
             worth = point[name]
             if low <= worth <= high and (found is None or worth < found) and hold_at(rows, point):
                 found = worth
