@@ -83,6 +83,22 @@ class RoundingsTest(Asked):
     def test_ifs_in_and_behind_one_another(self):
         self.check_many("nested", 500, (16, 20, 32, 48, 64))
 
+    def test_a_test_within_a_test(self):
+        for wide in (16, 32, 48, 64):
+            for outer in ("a <= n", "a < n", "not n < a"):
+                for limit in (16, 30, 31, 32, 1 << wide // 2, 1 << wide - 1):
+                    text = f"a = n + 31\nif {outer}\nif a < {limit}\nno\nend\nend\nsize = a\nif size < 2\nsize = 2\nend"
+                    rounding = Rounding(HeadRules(1, 2, 31, wide, wide), HeadCode("round", text))
+                    # what wraps to the limit and more is told though it is too small
+                    wrong = (1 << wide) - 31 + limit if limit < 31 else None
+                    with self.subTest(wide=wide, outer=outer, limit=limit):
+                        kept = tuple([promise for promise in PROMISES if promise != "enough" or wrong is None])
+                        self.assertEqual(self.ask(headverdicts.round_kept, rounding), kept)
+                        self.assertEqual(self.ask(headverdicts.round_wrong, rounding, 57), wrong)
+                        self.assertEqual(self.ask(headverdicts.round_break, rounding, "enough", 0), wrong)
+                        self.assertEqual(self.ask(headverdicts.round_right, rounding, 57), 57)
+        self.check_time(200)
+
     def test_all_lengths_of_narrow_words(self):
         chance = random.Random(27)
         for sort in ("written", "slip", "nested") * 25:
