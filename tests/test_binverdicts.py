@@ -6,7 +6,7 @@ from itertools import product
 
 from asking import NO_INTEGERS, error_of
 from binmakers import ASKS, HANGS, BinChance, good_maps, play_map_again, right_roof
-from tagblocks import binverdicts
+from tagblocks import binverdicts, mapfindings
 from tagblocks.bincodes import BinCode, BinMaps, Bins, MapCode
 from tagblocks.binplay import play_ask, play_hang, play_map
 from tagblocks.binrules import BinRules
@@ -238,6 +238,46 @@ class AllBitsTest(unittest.TestCase):
         kind, words, number = binverdicts.map_case(maps, "kept")
         play = play_map(maps, kind, words, number)
         self.assertEqual((kind, number, words[3], play.words[3]), ("mark", 200, 0, 2))
+
+
+# It looks at its own word, and otherwise at the first one that the roof tells.
+SHORT_FIND = ("a = bin // {w}\nb = bin mod {w}\np = word a\np from b\nif p empty\np = roof\na = first p\np = word a\nend\n"
+              "b = first p\na = a * {w}\nb = b + a\n{end}")
+
+
+class TogetherTest(unittest.TestCase):
+    """Plays of find with nothing left but sums are looked at together; they tell what they tell one by one."""
+
+    def setUp(self):
+        self.open_answers = mapfindings.open_answers
+
+    def tearDown(self):
+        mapfindings.open_answers = self.open_answers
+
+    def all_told(self, rules, codes):
+        maps = BinMaps(rules, codes)
+        return [(binverdicts.map_wrong(maps, promise, number), binverdicts.map_right(maps, promise, number))
+                for promise in MAP_PROMISES for number in range(rules.bins)]
+
+    def test_one_by_one(self):
+        chance = BinChance(random.Random(31))
+        ends = ["tell b", "b = b + 1\ntell b", "c = b\nb = c - 1\ntell b", "a = b + bin\ntell b", "c = b * 2\ntell c",
+                "if b is 1\nb = 2\nend\ntell b", "b = 3\ntell b", "c = a - b\ntell c", "tell 2", "b = a",
+                "if a is 1\na = a - 1\nelse\na = a + 4\nend\nc = b + a\ntell c"]
+        for at in range(60):
+            wide = chance.random.choice([2, 3, 4, 5])
+            rules = BinRules(1, 4, 3, 1000, chance.random.choice([wide * wide, wide * wide - 1]), wide)
+            texts = good_maps(rules)
+            end = chance.random.choice(ends)
+            text = SHORT_FIND.format(w=wide, end=end)
+            find = MapCode("find", text)
+            find = chance.map_code("find", text) if at % 2 else find
+            codes = [find, MapCode("mark", texts[1]), MapCode("clear", texts[2])]
+            with self.subTest(text=find.text, wide=wide, bins=rules.bins):
+                mapfindings.open_answers = self.open_answers
+                told = self.all_told(rules, codes)
+                mapfindings.open_answers = lambda machine, kind, number: machine.answers
+                self.assertEqual(self.all_told(rules, codes), told)
 
 
 class ErrorsTest(unittest.TestCase):
