@@ -55,16 +55,19 @@ class OpenNumbers:
         if one == other:
             return 0, 0
         least = greatest = other.get(0, 0) - one.get(0, 0)
-        more = [(name, factor - one.get(name, 0)) for name, factor in other.items() if name]
-        less = [(name, -factor) for name, factor in one.items() if name and name not in other]
-        for name, factor in more + less:
-            if factor == 0:
-                continue
-            low, high = self.lows[name], self.tops[name]
-            if factor < 0:
-                low, high = high, low
-            least = None if least is None or low is None else least + factor * low
-            greatest = None if greatest is None or high is None else greatest + factor * high
+        lows, tops = self.lows, self.tops
+        for name, factor in other.items():
+            if name and name in one:
+                factor -= one[name]
+            if name and factor:
+                low, high = (lows[name], tops[name]) if factor > 0 else (tops[name], lows[name])
+                least = None if least is None or low is None else least + factor * low
+                greatest = None if greatest is None or high is None else greatest + factor * high
+        for name, factor in one.items():
+            if name and name not in other:
+                low, high = (tops[name], lows[name]) if factor > 0 else (lows[name], tops[name])
+                least = None if least is None or low is None else least - factor * low
+                greatest = None if greatest is None or high is None else greatest - factor * high
         return least, greatest
 
     def opened(self, form):
